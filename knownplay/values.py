@@ -1,0 +1,31 @@
+"""Of what kind a value is that may be any value."""
+
+
+def is_whole(value, least, most):
+    """Whether value is an integer, so no bool, from least to most."""
+    return isinstance(value, int) and not isinstance(value, bool) and least <= value <= most
+
+
+def is_row(value, least, most):
+    """Whether value is a tuple of least to most items."""
+    return isinstance(value, tuple) and least <= len(value) <= most
+
+
+def is_ascending(value, most):
+    """Whether value is an ascending tuple of integers from 0 to most, each once."""
+    if not isinstance(value, tuple):
+        return False
+    least = 0
+    for item in value:
+        if not is_whole(item, least, most):
+            return False
+        least = item + 1
+    return True
+
+
+def is_order(value, many):
+    """Whether value is a tuple that has each integer from 0 to many - 1 once."""
+    if not is_row(value, many, many):
+        return False
+    whole = all([is_whole(item, 0, many - 1) for item in value])
+    return whole and sorted(value) == list(range(many))

@@ -1,0 +1,159 @@
+"""The package keeps to the subset of Python that it is written in, as far as its code shows that plainly."""
+
+import ast
+import builtins
+import os
+import re
+import unittest
+
+PACKAGE = os.path.join(os.path.dirname(os.path.dirname(os.path.abspath(__file__))), "knownplay")
+
+# What the package uses so far, of what it may use: a later part may add to these what the rules let.
+BUILTINS = set("""
+    len range enumerate zip min max sum abs sorted reversed int str bool list tuple dict set isinstance ord repr any all
+    divmod ValueError KeyError IndexError
+""".split())
+METHODS = set("""
+    append clear copy count endswith extend find get index insert isalnum isalpha isdigit islower isspace isupper items
+    join keys ljust lower lstrip partition pop remove replace reverse rfind rjust rpartition rsplit rstrip setdefault
+    split splitlines startswith strip update upper values zfill bit_length isascii add discard
+""".split())
+BARRED = set("""
+    mro elements open input law register type eval exec exit vars dir id help locals globals super getattr setattr
+""".split())
+TAKEN = {name for name in dir(builtins) if not name.startswith("_")}
+STATEMENTS = (
+    ast.Assign, ast.AugAssign, ast.If, ast.While, ast.For, ast.Return, ast.Break, ast.Continue, ast.Pass, ast.Raise,
+    ast.Assert, ast.Delete, ast.Try, ast.Expr, ast.FunctionDef, ast.ClassDef, ast.ImportFrom,
+)
+INTERFACE = {
+    "errors": (
+        "KnowError", "Unfit", "BadText", "BadTerm", "BadGame", "BadWire", "BadRule", "BadLog", "Refused", "TooMany",
+        "TooManyEdits", "NothingToUndo", "NothingToRedo",
+    ),
+    "terms": ("term_error", "condition_error", "worth", "holds", "asked"),
+    "termtexts": ("term_text", "condition_text", "read_term", "read_condition"),
+    "games": ("game_error", "first_state", "renamed"),
+    "gametexts": ("game_text", "read_game"),
+}
+
+
+def sources():
+    """The pairs of the name of a file and what stands in it."""
+    found = []
+    for name in sorted(os.listdir(PACKAGE)):
+        if name != "__pycache__":
+            with open(os.path.join(PACKAGE, name), encoding="utf-8") as file:
+                found.append((name, file.read()))
+    return found
+
+
+def defined(tree):
+    """The names that a file defines itself."""
+    names = [node.name for node in tree.body if isinstance(node, (ast.FunctionDef, ast.ClassDef))]
+    return names + [node.targets[0].id for node in tree.body if isinstance(node, ast.Assign)]
+
+
+class Language(unittest.TestCase):
+    def setUp(self):
+        self.sources = sources()
+        self.trees = {name: ast.parse(text) for name, text in self.sources}
+
+    def nodes(self, *kinds):
+        """The pairs of where a node of these kinds stands and the node."""
+        for name, tree in self.trees.items():
+            for node in ast.walk(tree):
+                if isinstance(node, kinds):
+                    yield f"{name}:{getattr(node, 'lineno', '')}", node
+
+    def test_files(self):
+        self.assertIn("__init__.py", self.trees)
+        for name, text in self.sources:
+            self.assertRegex(name, r"^[a-z][a-z0-9_]*\.py$|^__init__\.py$")
+            self.assertRegex(text, r"\A[ -~\n]*\n\Z", name)
+            lines = text.split("\n")
+            self.assertLess(len(lines), 400, name)
+            self.assertLessEqual(max(len(line) for line in lines), 120, name)
+            self.assertIsNotNone(ast.get_docstring(self.trees[name]), name)
+
+    def test_functions_are_short_and_plain(self):
+        for place, node in self.nodes(ast.FunctionDef):
+            self.assertLessEqual(node.end_lineno - node.lineno + 1, 40, place)
+            self.assertEqual((node.decorator_list, node.returns), ([], None), place)
+            for argument in node.args.args:
+                self.assertIsNone(argument.annotation, place)
+
+    def test_imports(self):
+        for name, tree in self.trees.items():
+            for node in ast.walk(tree):
+                if isinstance(node, ast.ImportFrom):
+                    self.assertRegex(node.module, r"^knownplay\.[a-z]+$", name)
+                    there = defined(self.trees[node.module.split(".")[1] + ".py"])
+                    for alias in node.names:
+                        self.assertIn(alias.name, there, name)
+                        self.assertIsNone(alias.asname, name)
+
+    def test_files_do_not_import_from_each_other(self):
+        imported = {}
+        for name, tree in self.trees.items():
+            modules = [node.module for node in ast.walk(tree) if isinstance(node, ast.ImportFrom)]
+            imported[name] = {module.split(".")[1] + ".py" for module in modules}
+        while imported:
+            done = [name for name, others in imported.items() if not others & set(imported)]
+            self.assertTrue(done, imported)
+            imported = {name: others for name, others in imported.items() if name not in done}
+
+    def test_module_level_is_plain(self):
+        for name, tree in self.trees.items():
+            for node in tree.body[1:]:
+                self.assertIsInstance(node, (ast.ImportFrom, ast.FunctionDef, ast.ClassDef, ast.Assign), name)
+                if isinstance(node, ast.Assign):
+                    self.assertEqual(len(node.targets), 1, name)
+                    ast.literal_eval(node.value)
+            names = defined(tree)
+            names += [alias.name for node in tree.body if isinstance(node, ast.ImportFrom) for alias in node.names]
+            self.assertEqual(len(names), len(set(names)), name)
+
+    def test_statements_and_signs(self):
+        for place, node in self.nodes(ast.stmt):
+            self.assertIsInstance(node, STATEMENTS, place)
+        for place, node in self.nodes(ast.Div, ast.NamedExpr, ast.Await, ast.Yield, ast.GeneratorExp):
+            self.fail(f"{place}: {ast.dump(node)[:60]}")
+        for place, node in self.nodes(ast.Constant):
+            self.assertNotIsInstance(node.value, (float, complex), place)
+
+    def test_strings(self):
+        for place, node in self.nodes(ast.Constant):
+            if isinstance(node.value, str):
+                self.assertNotIn("%", node.value, place)
+                self.assertFalse(node.value.startswith("__"), place)
+        for name, text in self.sources:
+            self.assertIsNone(re.search(r"\\[^n]", text), name)
+
+    def test_names(self):
+        own = {name for tree in self.trees.values() for name in defined(tree)}
+        for place, node in self.nodes(ast.Name, ast.arg, ast.FunctionDef, ast.Attribute):
+            name = getattr(node, "id", None) or getattr(node, "arg", None) or getattr(node, "name", None) or node.attr
+            self.assertNotIn(name, BARRED, place)
+            if isinstance(node, ast.Name) and isinstance(node.ctx, ast.Load):
+                self.assertTrue(name in BUILTINS or name not in TAKEN, f"{place}: {name}")
+            elif not isinstance(node, ast.Attribute):
+                self.assertNotIn(name, TAKEN, place)
+            if isinstance(node, (ast.arg, ast.FunctionDef)) and name.startswith("_"):
+                self.assertEqual(name, "__init__", place)
+        self.assertFalse(own & TAKEN)
+
+    def test_methods(self):
+        own = {node.name for _, node in self.nodes(ast.FunctionDef)}
+        for place, node in self.nodes(ast.Call):
+            if isinstance(node.func, ast.Attribute):
+                self.assertIn(node.func.attr, METHODS | own, place)
+
+    def test_the_interface_is_defined_where_it_is_listed(self):
+        for name, functions in INTERFACE.items():
+            for function in functions:
+                self.assertIn(function, defined(self.trees[name + ".py"]))
+
+
+if __name__ == "__main__":
+    unittest.main()
