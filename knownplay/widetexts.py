@@ -133,11 +133,18 @@ class Reader:
     def number(self, most):
         """Passes a number of one to most figures, with no needless nought, and returns it."""
         first = self.at
-        while self.figure_comes() and self.at - first < most and self.text[first:self.at] != "0":
-            self.at += 1
-        if self.at == first:
-            raise BadText(first)
+        self.at = number_end(self.text, first, most)
         return int(self.text[first:self.at])
+
+
+def number_end(text, at, most):
+    """The place behind the number of one to most figures, with no needless nought, that text has to have at a place."""
+    end = at
+    while end < len(text) and end - at < most and text[end] in FIGURES and text[at:end] != "0":
+        end += 1
+    if end == at:
+        raise BadText(at)
+    return end
 
 
 def wide_thing(kind, text):

@@ -5,8 +5,9 @@ import inspect
 import itertools
 import unittest
 
-from knownplay import bounds, errors, games, gametexts, terms, termtexts
-from tests.things import ALL_WORDS, CARD
+from knownplay import bounds, errors, games, gametexts, knowngames, knownwires, plays, playtexts, terms, termtexts
+from knownplay import views, wires, wiretexts
+from tests.things import ALL_WORDS, ASKED_CARD, CARD, HIDE, YES
 
 BOUNDS = {
     "MAX_DEEP": 6, "MAX_PARTS": 60, "MAX_PLAYERS": 4, "MAX_CELLS": 6, "MAX_SIZE": 6, "MAX_DEEDS": 8,
@@ -27,6 +28,10 @@ CONDITION = ("either", ("same", ("deed",), ("is", 7)), ("not", ("below", TERM, (
 MOMENT = ((3, 4), (5, 6), 7, 8, True)
 NAMING = ((1, 0), (1, 0), (1, 0))
 LISTS = ["sum", [{"is": 0}], ("is", [0])]
+PLAY = ((0, 2), (2, 0), (1, 0), (2, 1))
+VIEW = ((None, (None, 0)), (0, (1, None)), (("no", 2), (1, 1)))
+WIRE = (((YES, ("cell", 0)), (("done",), ("was", 1))), ((("not", YES), ("deed",)), (YES, ("draw",))))
+LETTERS = ((1, None), (None, 3), (-1, 4), (None, 3))
 
 # For each function its module and some calls, the arguments by name in the order that the document tells.
 CALLS = {
@@ -44,6 +49,35 @@ CALLS = {
     "renamed": (games, [{"game": CARD, "naming": NAMING}, {"game": CARD, "naming": [[0, 1], [0, 1], [0, 1]]}]),
     "game_text": (gametexts, [{"game": CARD}]),
     "read_game": (gametexts, [{"value": "players 2\ncell 2 0\nset 0 to 1"}, {"value": LISTS}]),
+    "known_names": (knowngames, [{}]),
+    "known_game": (knowngames, [{"name": "cups"}, {"name": LISTS}]),
+    "moves": (plays, [{"game": ASKED_CARD, "state": (2, 1)}]),
+    "is_done": (plays, [{"game": ASKED_CARD, "state": (2, 1), "move": (1, 0)}]),
+    "stepped": (plays, [{"game": ASKED_CARD, "state": (2, 1), "move": move} for move in ((2, 1), (0, 0), LISTS)]),
+    "play_error": (plays, [{"game": ASKED_CARD, "value": value} for value in (PLAY, LISTS, ((0, 2), LISTS))]),
+    "state_of": (plays, [{"game": ASKED_CARD, "play": PLAY}]),
+    "states": (plays, [{"game": ASKED_CARD}]),
+    "nearest": (plays, [{"game": ASKED_CARD, "state": state} for state in ((2, 1), (3, 1), LISTS, ([0], 0))]),
+    "sight": (views, [{"game": ASKED_CARD, "player": 1, "state": (2, 0)}]),
+    "view": (views, [{"game": ASKED_CARD, "player": 1, "play": PLAY}]),
+    "alike_to": (views, [{"game": ASKED_CARD, "player": 1, "play": PLAY[:1], "other": ((0, 1),)},
+                         {"game": ASKED_CARD, "player": 1, "play": PLAY[:1], "other": ((1, 0),)}]),
+    "play_text": (playtexts, [{"play": PLAY}]),
+    "view_text": (playtexts, [{"view": VIEW}]),
+    "read_play": (playtexts, [{"value": "0:2 2:0"}, {"value": "0:2 2"}, {"value": LISTS}]),
+    "wire_error": (wires, [{"game": HIDE, "value": value} for value in (WIRE, LISTS, (WIRE[0], (LISTS,)))]),
+    "wire_without": (wires, [{"wire": WIRE, "player": 1, "entries": entries} for entries in ((0,), (2,), LISTS)]),
+    "letter": (wires, [{"game": HIDE, "wire": WIRE, "player": 1, "state": (1, 2), "move": (1, 0)}]),
+    "first_letter": (wires, [{"game": HIDE, "wire": WIRE, "player": 1}]),
+    "letter_order": (wires, [{"some": LETTERS}]),
+    "heard": (wires, [{"game": HIDE, "wire": WIRE, "ears": (0, 1), "play": ((0, 0), (1, 1))}]),
+    "heard_by": (wires, [{"game": HIDE, "wire": WIRE, "player": 1, "play": ((0, 0), (1, 1))}]),
+    "plain_wire": (knownwires, [{"game": HIDE}]),
+    "changes_wire": (knownwires, [{"game": HIDE}]),
+    "bare_wire": (knownwires, [{"game": HIDE}]),
+    "silent_wire": (knownwires, [{"game": HIDE}]),
+    "wire_text": (wiretexts, [{"wire": WIRE}]),
+    "read_wire": (wiretexts, [{"game": HIDE, "value": value} for value in ("to\nif yes tell c1\nto", "to", LISTS)]),
 }
 
 
@@ -53,6 +87,13 @@ def outcome(function, *args, **named):
         return repr(function(*args, **named))
     except errors.KnowError as error:
         return f"{type(error).__name__} {vars(error)!r}"
+
+
+def is_plain(value):
+    """Whether a value is made of tuples, integers, strings, bools and None alone."""
+    if type(value) is tuple:
+        return all(is_plain(item) for item in value)
+    return value is None or type(value) in (int, str, bool)
 
 
 class Bounds(unittest.TestCase):
@@ -129,6 +170,14 @@ class Calls(unittest.TestCase):
                 before = repr(copy.deepcopy(call))
                 outcome(getattr(module, name), **call)
                 self.assertEqual(repr(call), before, name)
+
+    def test_results_are_of_pythons_own_kinds(self):
+        for name, (module, calls) in CALLS.items():
+            for call in calls:
+                try:
+                    self.assertTrue(is_plain(getattr(module, name)(**call)), name)
+                except errors.KnowError as error:
+                    self.assertTrue(is_plain(tuple(vars(error).values())), name)
 
     def test_equal_calls_have_equal_results(self):
         for name, (module, calls) in CALLS.items():

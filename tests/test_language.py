@@ -16,7 +16,7 @@ BUILTINS = set("""
 METHODS = set("""
     append clear copy count endswith extend find get index insert isalnum isalpha isdigit islower isspace isupper items
     join keys ljust lower lstrip partition pop remove replace reverse rfind rjust rpartition rsplit rstrip setdefault
-    split splitlines startswith strip update upper values zfill bit_length isascii add discard
+    split splitlines startswith strip update upper values zfill bit_length isascii removeprefix add discard
 """.split())
 BARRED = set("""
     mro elements open input law register type eval exec exit vars dir id help locals globals super getattr setattr
@@ -35,6 +35,13 @@ INTERFACE = {
     "termtexts": ("term_text", "condition_text", "read_term", "read_condition"),
     "games": ("game_error", "first_state", "renamed"),
     "gametexts": ("game_text", "read_game"),
+    "knowngames": ("known_names", "known_game"),
+    "plays": ("moves", "is_done", "stepped", "play_error", "state_of", "states", "nearest"),
+    "views": ("sight", "view", "alike_to"),
+    "playtexts": ("play_text", "view_text", "read_play"),
+    "wires": ("wire_error", "wire_without", "letter", "first_letter", "letter_order", "heard", "heard_by"),
+    "knownwires": ("plain_wire", "changes_wire", "bare_wire", "silent_wire"),
+    "wiretexts": ("wire_text", "read_wire"),
 }
 
 
@@ -142,6 +149,16 @@ class Language(unittest.TestCase):
             if isinstance(node, (ast.arg, ast.FunctionDef)) and name.startswith("_"):
                 self.assertEqual(name, "__init__", place)
         self.assertFalse(own & TAKEN)
+
+    def test_no_local_name_is_that_of_an_import_or_a_definition_of_its_file(self):
+        for name, tree in self.trees.items():
+            taken = set(defined(tree))
+            taken |= {alias.name for node in tree.body if isinstance(node, ast.ImportFrom) for alias in node.names}
+            for function in [node for node in ast.walk(tree) if isinstance(node, ast.FunctionDef)]:
+                local = {node.arg for node in ast.walk(function) if isinstance(node, ast.arg)}
+                local |= {node.id for node in ast.walk(function)
+                          if isinstance(node, ast.Name) and isinstance(node.ctx, ast.Store)}
+                self.assertFalse(local & taken, f"{name}: {function.name}")
 
     def test_methods(self):
         own = {node.name for _, node in self.nodes(ast.FunctionDef)}

@@ -1,5 +1,6 @@
 """Terms, conditions, games and values of any kind for the tests; the same ones in each run."""
 
+import math
 import random
 
 ALL_WORDS = ("deed", "done", "draw", "was")
@@ -9,6 +10,14 @@ OPEN_NOW = ("same", ("cell", 1), ("is", 1))
 DEAL = (None, 3, ("not", OPEN_NOW), ((0, ("draw",)),), (0,))
 SHOW = (0, 1, YES, ((1, ("is", 1)),), (0, 1))
 CARD = (2, ((3, 0), (2, 0)), (DEAL, SHOW), ((YES, YES), (OPEN_NOW, YES)))
+# The games of the document's examples on plays and on wires.
+ASK = (1, 2, OPEN_NOW, ((0, ("sum", ("cell", 0), ("draw",))), (1, ("less", ("cell", 1), ("is", 1)))), (0, 1))
+ASKED_CARD = CARD[:2] + ((DEAL, SHOW, ASK),) + CARD[3:]
+OVER = (2, ((2, 0),), ((None, 1, ("same", ("cell", 0), ZERO), ((0, ("is", 1)),), ()),), ((YES,), (YES,)))
+CURTAIN = ("same", ("cell", 0), ("is", 1))
+TURN = (0, 1, YES, ((0, ("less", ("is", 1), ("cell", 0))),), (0,))
+DRAW = (1, 2, CURTAIN, ((1, ("draw",)),), (0, 1))
+HIDE = (2, ((2, 0), (3, 1)), (TURN, DRAW), ((YES, CURTAIN), (("not", YES), YES)))
 
 
 def nested(depth, made):
@@ -78,6 +87,22 @@ class Things:
         changed = [cell for cell in range(cells) if self.random.random() < 0.4]
         effects = tuple((cell, self.term((cells, ("draw",)), deep)) for cell in changed)
         return (doer, self.random.randint(1, 4), self.condition((cells, ()), deep), effects, tuple(seen))
+
+    def small_game(self, most, deep=3):
+        """A game of at most so many states, which come or not."""
+        while True:
+            game = self.game(deep)
+            if math.prod(size for size, _ in game[1]) <= most:
+                return game
+
+    def wire(self, game, deep=2):
+        """A wire of game."""
+        place = (len(game[1]), ALL_WORDS)
+        rules = []
+        for _ in range(game[0]):
+            many = self.random.randint(0, 7)
+            rules.append(tuple((self.condition(place, deep), self.term(place, deep)) for _ in range(many)))
+        return tuple(rules)
 
     def naming(self, game):
         """A naming of game."""
