@@ -6,6 +6,11 @@ def is_whole(value, least, most):
     return isinstance(value, int) and not isinstance(value, bool) and least <= value <= most
 
 
+def is_count(value):
+    """Whether value is an integer from 0 on."""
+    return isinstance(value, int) and not isinstance(value, bool) and value >= 0
+
+
 def is_row(value, least, most):
     """Whether value is a tuple of least to most items."""
     return isinstance(value, tuple) and least <= len(value) <= most
@@ -29,3 +34,20 @@ def is_order(value, many):
         return False
     whole = all([is_whole(item, 0, many - 1) for item in value])
     return whole and sorted(value) == list(range(many))
+
+
+def is_letter(value):
+    """Whether value is a tuple of integers and of None, as letters are: only then == tells whether it is a letter."""
+    if not isinstance(value, tuple):
+        return False
+    return all([item is None or (isinstance(item, int) and not isinstance(item, bool)) for item in value])
+
+
+def is_letters(value):
+    """Whether value is a tuple of what is_letter lets by, as letters of ears are."""
+    return isinstance(value, tuple) and all([is_letter(item) for item in value])
+
+
+def ascends(items):
+    """Whether each of items, a tuple of what Python compares, is greater than the one ahead."""
+    return all([one < other for one, other in zip(items, items[1:])])

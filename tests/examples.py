@@ -34,10 +34,13 @@ def printed(source, names):
     return out.getvalue().splitlines()
 
 
-def run_examples(test, name):
-    """Lets test fail for each example in the file that does not come out as it is told; returns how many there are."""
+def run_examples(test, *files):
+    """Lets test fail for each example in the files that does not come out as it is told; returns how many there are.
+
+    Names that were set once stay set from one file to the next.
+    """
     names = {}
-    found = examples(name)
+    found = [example for name in files for example in examples(name)]
     for point, source, wanted in found:
         with test.subTest(point=point, source=source):
             if len(wanted) == 1 and wanted[0].startswith(RAISES):

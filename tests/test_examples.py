@@ -23,6 +23,24 @@ class Examples(unittest.TestCase):
     def test_wires_and_their_texts(self):
         self.assertEqual(run_examples(self, "wires.txt"), 29)
 
+    def test_sets_and_their_tables(self):
+        self.assertEqual(run_examples(self, "sets.txt"), 28)
+
+    def test_leaks_lacks_and_just_papers(self):
+        self.assertEqual(run_examples(self, "just.txt"), 32)
+
+    def test_classes_and_joiners(self):
+        self.assertEqual(run_examples(self, "classes.txt", "joiners.txt"), 33)
+
+    def test_watchers_and_likeness(self):
+        self.assertEqual(run_examples(self, "sets.txt", "watchers.txt"), 50)
+
+    def test_lies_and_comparing(self):
+        self.assertEqual(run_examples(self, "lies.txt"), 41)
+
+    def test_roads_and_gaps(self):
+        self.assertEqual(run_examples(self, "roads.txt"), 21)
+
     def test_readme(self):
         readme = os.path.join(os.path.dirname(os.path.dirname(os.path.abspath(__file__))), "README.md")
         found = doctest.testfile(readme, module_relative=False, encoding="ascii")

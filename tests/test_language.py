@@ -42,6 +42,28 @@ INTERFACE = {
     "wires": ("wire_error", "wire_without", "letter", "first_letter", "letter_order", "heard", "heard_by"),
     "knownwires": ("plain_wire", "changes_wire", "bare_wire", "silent_wire"),
     "wiretexts": ("wire_text", "read_wire"),
+    "sets": ("begun", "gone_on", "next_letters", "known", "sure", "witnesses", "wrong_play"),
+    "settables": ("set_table", "number_of", "row_to", "table_error"),
+    "leaks": ("pairs_by_views", "pairs_by_rows", "leak", "lack", "leak_error", "lack_error"),
+    "justpapers": ("just_paper", "just_paper_error", "is_just", "lasting", "lasting_paper", "lasting_error"),
+    "justparts": ("spilling", "greatest", "can_be_just"),
+    "classes": (
+        "classes", "parting", "parting_error", "class_paper", "class_paper_error", "memories", "memories_error",
+        "shown_by",
+    ),
+    "joiners": (
+        "rule_error", "join_letter", "joined", "join_gap", "join_spill", "join_tale_error", "join_paper",
+        "join_paper_error",
+    ),
+    "watchers": ("watched", "helps", "helps_error", "reach", "reach_paper", "reach_error"),
+    "likeness": ("as_good", "as_good_error", "good_paper", "good_paper_error", "cheaper"),
+    "lies": (
+        "told_error", "honest", "honest_error", "found_at", "finders", "lie_for_good", "good_error", "lie_lasts",
+        "longest_lie", "lie_error", "lie_paper", "lie_paper_error",
+    ),
+    "comparing": ("comparing", "comparing_error", "comparing_paper", "comparing_paper_error"),
+    "roads": ("device_error", "taken", "lacking", "gap_row", "run_error", "road_end", "mending"),
+    "gaps": ("known_by_gaps", "asked_enough", "full_error", "least_asked", "gap_paper", "gap_paper_error"),
 }
 
 
