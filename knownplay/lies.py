@@ -127,7 +127,7 @@ class Lies:
         return (*letters[:self.player], *letters[self.player + 1:])
 
     def tellings(self, some):
-        """A dict of what others can hear next in a set: for each the pairs of what player can tell and the set then."""
+        """A dict of what others can hear next in a set: for each the pairs of what player tells and of the set then."""
         if some not in self.kept_tellings:
             found = {}
             for letters, behind in self.ear.leads(some).items():

@@ -95,6 +95,54 @@ class Things:
             if math.prod(size for size, _ in game[1]) <= most:
                 return game
 
+    def tiny_condition(self, cells, words=()):
+        """A condition that asks a cell, or one of words."""
+        cell = self.random.randrange(cells)
+        same = ("same", ("cell", cell), ("is", self.random.randrange(2)))
+        some = [YES, same, same, ("not", same), ("below", ("cell", cell), ("cell", self.random.randrange(cells)))]
+        some += [("done",)] if "done" in words else []
+        some += [("same", ("deed",), ("is", self.random.randrange(3)))] if "deed" in words else []
+        some += [("below", ("was", cell), ("cell", cell))] if "was" in words else []
+        return self.random.choice(some)
+
+    def tiny_term(self, cells, words=("draw",)):
+        """A term that asks a cell, or one of words."""
+        cell, other = ("cell", self.random.randrange(cells)), ("cell", self.random.randrange(cells))
+        some = [("is", self.random.randrange(2)), cell, ("sum", cell, ("is", 1)), ("less", other, cell)]
+        some += [("draw",), ("sum", cell, ("draw",))] * 2 if words == ("draw",) else []
+        some += [("choose", ("same", ("deed",), ("is", 0)), ("is", 0), ("is", 1)), cell, cell] if "deed" in words else []
+        some += [("was", other[1]), ("choose", ("done",), cell, ("was", 0))] if "was" in words else []
+        return self.random.choice(some)
+
+    def tiny_game(self, players=3):
+        """A game of few cells and deeds, in which something can be known and something can not."""
+        players = self.random.randint(2, players)
+        cells = tuple((self.random.randint(2, 3), self.random.randrange(2)) for _ in range(self.random.randint(2, 3)))
+        deeds = []
+        for _ in range(self.random.randint(2, 3)):
+            doer = self.random.choice((None, None) + tuple(range(players)))
+            seen = tuple(p for p in range(players) if p == doer or self.random.random() < 0.4)
+            changed = [c for c in range(len(cells)) if self.random.random() < 0.6]
+            effects = tuple((c, self.tiny_term(len(cells))) for c in changed)
+            guard = YES if self.random.random() < 0.5 else self.tiny_condition(len(cells))
+            deeds.append((doer, self.random.randint(1, 2), guard, effects, seen))
+        sights = tuple(tuple(self.random.choice((YES, ("not", YES), self.tiny_condition(len(cells)))) for _ in cells)
+                       for _ in range(players))
+        return (players, cells, tuple(deeds), sights)
+
+    def tiny_wire(self, game, most=2):
+        """A wire of game that tells little."""
+        rules = []
+        for _ in range(game[0]):
+            entries = range(self.random.choice((0, 1, 1, most)))
+            rules.append(tuple((self.tiny_condition(len(game[1]), ALL_WORDS), self.tiny_term(len(game[1]), ALL_WORDS))
+                               for _ in entries))
+        return tuple(rules)
+
+    def ears(self, game):
+        """An ascending tuple of one player or more."""
+        return tuple(sorted(self.random.sample(range(game[0]), self.random.randint(1, game[0]))))
+
     def wire(self, game, deep=2):
         """A wire of game."""
         place = (len(game[1]), ALL_WORDS)
