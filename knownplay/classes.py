@@ -50,7 +50,7 @@ def parting(game, wire, ears, row, other):
     """A shortest row of letters behind which the sets behind row and other are unlike at once; None for one class."""
     teller = Ears(game, wire, ears)
     table = table_of(teller)
-    if not teller.known(row) or not teller.known(other):
+    if not teller.known(row).states or not teller.known(other).states:
         raise Unfit()
     rounds = rounds_of(game, table)
     one, two = number_of(table, row), number_of(table, other)
@@ -76,15 +76,15 @@ def parting_error(game, wire, ears, row, other, value):
     """None if value, any value, is a row behind which the sets behind row and other are unlike at once."""
     teller = Ears(game, wire, ears)
     one, two = teller.known(row), teller.known(other)
-    if not one or not two:
+    if not one.states or not two.states:
         raise Unfit()
     if not isinstance(value, tuple):
         return "form"
     for k, letters in enumerate(value):
         one, two = teller.gone_on(one, letters), teller.gone_on(two, letters)
-        if not one or not two:
+        if not one.states or not two.states:
             return ("letters", k)
-    alike = sure(game, one) == sure(game, two) and teller.letters(one) == teller.letters(two)
+    alike = teller.sure(one) == teller.sure(two) and teller.letters(one) == teller.letters(two)
     return "alike" if alike else None
 
 

@@ -7,7 +7,10 @@ from knownplay.values import is_ascending, is_row
 
 
 class Comparers:
-    """All players, who compare what they tell by circles. Nodes and tellings are those of the document."""
+    """All players, who compare what they tell by circles.
+
+    Nodes and tellings are those of the document, but that nodes have lots of the players' ear in the place of sets.
+    """
 
     def __init__(self, game, wire, many):
         self.players = tuple(range(game[0]))
@@ -17,33 +20,38 @@ class Comparers:
 
     def first_node(self):
         """The node of the beginning."""
-        alone_first = (self.ear.first,)
-        return (self.players, alone_first, tuple([(circle, alone_first) for circle in self.circles]))
+        first = self.ear.alone()
+        return (self.players, first, tuple([(circle, first) for circle in self.circles]))
 
-    def heard_parts(self, some, players):
-        """A dict of what players can hear next in the set some: to each the set then, by their letters alone."""
-        if (some, players) not in self.kept_parts:
+    def node_of(self, value):
+        """The node that value, a node of the document, is here."""
+        speakers, some, sets = value
+        return (speakers, self.ear.lot(some), tuple([(circle, self.ear.lot(other)) for circle, other in sets]))
+
+    def heard_parts(self, lot, players):
+        """A dict of what players can hear next in lot: to each the lot then, by their letters alone."""
+        if (lot, players) not in self.kept_parts:
             found = {}
-            for letters, behind in self.ear.leads(some).items():
-                heard = tuple([letters[p] for p in players])
-                for state in behind:
-                    found.setdefault(heard, {})[state] = True
-            self.kept_parts[(some, players)] = {heard: tuple(sorted(list(found[heard]))) for heard in found}
-        return self.kept_parts[(some, players)]
+            for letters in self.ear.leads(lot):
+                found.setdefault(tuple([letters[p] for p in players]), []).append(letters)
+            self.kept_parts[(lot, players)] = {heard: self.ear.after_any(lot, found[heard]) for heard in found}
+        return self.kept_parts[(lot, players)]
 
-    def gone_on(self, some, players, told):
-        """The set gone on to from the set some by those letters of told that are told by some of players."""
+    def gone_on_by(self, lot, players, told):
+        """The lot gone on to from lot by those letters of told that are told by some of players."""
         speakers = tuple([p for p in players if told[p] is not None])
-        return self.heard_parts(some, speakers).get(tuple([told[p] for p in speakers]), ())
+        parts = self.heard_parts(lot, speakers)
+        heard = tuple([told[p] for p in speakers])
+        return parts[heard] if heard in parts else self.ear.lot(())
 
     def led(self, node, told):
         """The node to which the telling told leads from node, which has to lead somewhere."""
         speakers = tuple([p for p in self.players if told[p] is not None])
-        sets = []
-        for circle, some in node[2]:
+        lots = []
+        for circle, lot in node[2]:
             if any([p in speakers for p in circle]):
-                sets.append((circle, self.gone_on(some, circle, told)))
-        return (speakers, self.gone_on(node[1], speakers, told), tuple(sets))
+                lots.append((circle, self.gone_on_by(lot, circle, told)))
+        return (speakers, self.gone_on_by(node[1], speakers, told), tuple(lots))
 
     def nothing(self):
         """The telling of nobody."""
@@ -88,12 +96,13 @@ class Comparers:
 
     def candidates(self, node, player):
         """The list of the letters that the first circle with player lets it tell next."""
-        some = [some for circle, some in node[2] if player in circle][0]
-        return [heard[0] for heard in self.heard_parts(some, (player,))]
+        lots = [lot for circle, lot in node[2] if player in circle]
+        return [heard[0] for heard in self.heard_parts(lots[0], (player,))]
 
     def leads_on(self, node, player, told):
         """Whether told, so far, leaves each circle with player a set that is not ()."""
-        return all([self.gone_on(some, circle, told) != () for circle, some in node[2] if player in circle])
+        lots = [self.gone_on_by(lot, circle, told) for circle, lot in node[2] if player in circle]
+        return all([lot.states != () for lot in lots])
 
     def nodes(self):
         """A dict of the nodes that come, as found_from has them; TooMany if there are too many."""
@@ -139,7 +148,13 @@ def comparing_paper(game, wire, many):
     for node in nodes:
         if comparers.telling_amiss(node, nodes) is not None:
             return None
-    return tuple(nodes)
+    return tuple([told_node(node) for node in nodes])
+
+
+def told_node(node):
+    """The node of the document that node is."""
+    speakers, lot, lots = node
+    return (speakers, lot.states, tuple([(circle, other.states) for circle, other in lots]))
 
 
 def comparing_paper_error(game, wire, many, value):
@@ -147,11 +162,12 @@ def comparing_paper_error(game, wire, many, value):
     comparers = Comparers(game, wire, many)
     if not isinstance(value, tuple) or not all([is_node(game, comparers.circles, item) for item in value]):
         return "form"
-    nodes = {node: True for node in value}
+    row = [comparers.node_of(node) for node in value]
+    nodes = {node: True for node in row}
     if comparers.first_node() not in nodes:
         return "begun"
-    for k, node in enumerate(value):
-        if not node[1] or comparers.telling_amiss(node, nodes) is not None:
+    for k, node in enumerate(row):
+        if not node[1].states or comparers.telling_amiss(node, nodes) is not None:
             return ("node", k)
     return None
 

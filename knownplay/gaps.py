@@ -3,33 +3,31 @@
 from knownplay.bounds import MAX_OPEN, MAX_TABLE
 from knownplay.errors import TooMany, Unfit
 from knownplay.sets import is_set
-from knownplay.tellers import Ears, Teller, fits, fitting, lots_of
+from knownplay.tellers import Ears, fits, lots_of
 from knownplay.values import ascends, is_ascending, is_letter, is_row
 
 
 def known_by_gaps(game, wire, player, row):
     """The ascending tuple of the states behind plays heard as row, any value, tells; () if there are none."""
-    return known_so(Ears(game, wire, (player,)), row)
+    return known_so(Ears(game, wire, (player,)), row).states
 
 
 def known_so(ear, row):
-    """The set known to ear, one ear, by row, any value; () if it is no row with gaps."""
+    """The lot known to ear, one ear, by row, any value; that of () if it is no row with gaps."""
     if not isinstance(row, tuple) or not row:
-        return ()
-    if not all([item is None or is_letter(item) for item in row]):
-        return ()
-    some = (ear.first,) if fits(ear.first_told(), row[:1]) else ()
+        return ear.lot(())
+    if not all([item is None or is_letter(item) for item in row]) or not fits(ear.first_told(), row[:1]):
+        return ear.lot(())
+    lot = ear.alone()
     for k in range(1, len(row)):
-        if not some:
-            return ()
-        some = fitting(ear, some, row[k:k + 1])
-    return some
+        lot = ear.fitting(lot, row[k:k + 1])
+    return lot
 
 
 def fit_ear(game, wire, player, row, numbers):
     """The ear of player; Unfit() if row tells nothing that can be, or numbers are no open ones of it, ascending."""
     ear = Ears(game, wire, (player,))
-    if not known_so(ear, row) or not is_ascending(numbers, len(row) - 1):
+    if not known_so(ear, row).states or not is_ascending(numbers, len(row) - 1):
         raise Unfit()
     if not all([row[number] is None for number in numbers]):
         raise Unfit()
@@ -45,27 +43,30 @@ def with_letters(row, numbers, full):
 def pairs_of(ear, row, numbers):
     """A list of a dict for each number of row: of the pairs there, each with the pair ahead and the letters from there.
 
-    A pair is that of the set by what a beginning tells with numbers, and of the one by the beginning itself.
+    A pair is that of the lot by what a beginning tells with numbers, and of the one by the beginning itself.
     """
-    # Who is told nothing knows what whoever lets a letter be open knows.
-    nobody = Teller(ear.game)
     told = {number: True for number in range(len(row)) if row[number] is not None}
     told.update({number: True for number in numbers})
-    alone = (ear.first,)
-    layers = [{(alone, alone): None}]
+    layers = [{(ear.alone(), ear.alone()): None}]
     for k in range(1, len(row)):
         newer = {}
-        for some, whole in layers[-1]:
-            for letters, behind in ear.leads(whole).items():
-                if not fits(letters, row[k:k + 1]):
-                    continue
-                pair = (ear.after(some, letters) if k in told else nobody.after(some, None), behind)
-                if pair not in newer:
-                    newer[pair] = ((some, whole), letters)
+        for pair in layers[-1]:
+            for letters, behind in pairs_behind(ear, pair, row[k:k + 1], k in told):
+                if behind not in newer:
+                    newer[behind] = (pair, letters)
             if len(newer) > MAX_TABLE:
                 raise TooMany(MAX_TABLE)
         layers.append(newer)
     return layers
+
+
+def pairs_behind(ear, pair, wanted, told):
+    """A list of letters that are as wanted, each with the pair behind; if they are not told any may have been heard."""
+    some, whole = pair
+    leads = [(letters, behind) for letters, behind in ear.leads(whole).items() if fits(letters, wanted)]
+    if told:
+        return [(letters, (ear.after(some, letters), behind)) for letters, behind in leads]
+    return [(letters, (ear.after_move(some), behind)) for letters, behind in leads]
 
 
 def unlike_pair(ear, layers):
@@ -99,7 +100,7 @@ def full_error(game, wire, player, row, numbers, value):
         if item is not None and (not is_letter(value[k]) or value[k] != item):
             return ("letter", k)
     whole = ear.known(tuple([(item,) for item in value]))
-    if not whole:
+    if not whole.states:
         return "heard"
     alike = ear.sure(whole) == ear.sure(known_so(ear, with_letters(row, numbers, value)))
     return "alike" if alike else None
@@ -127,7 +128,12 @@ def gap_paper(game, wire, player, row, numbers):
     layers = pairs_of(ear, row, numbers)
     if unlike_pair(ear, layers) is not None:
         return None
-    return tuple([tuple(sorted(list(layer))) for layer in layers])
+    return tuple([told_pairs(layer) for layer in layers])
+
+
+def told_pairs(layer):
+    """The ascending tuple of the pairs of sets that the pairs of a layer are."""
+    return tuple(sorted([(some.states, whole.states) for some, whole in layer]))
 
 
 def gap_paper_error(game, wire, player, row, numbers, value):
@@ -137,7 +143,7 @@ def gap_paper_error(game, wire, player, row, numbers, value):
     if not is_row(value, len(row), len(row)) or not all([are_pairs(game, item) for item in value]):
         return "form"
     for k, layer in enumerate(layers):
-        if value[k] != tuple(sorted(list(layer))):
+        if value[k] != told_pairs(layer):
             return ("pairs", k)
     return None if unlike_pair(ear, layers) is None else "sure"
 

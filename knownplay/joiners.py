@@ -47,16 +47,20 @@ def joined_in(game, rule):
 
 
 class Joining:
-    """Who joins by a rule and hears what player hears, beside an elder who has heard it from the beginning on."""
+    """Who joins by a rule and hears what player hears, beside an elder who has heard it from the beginning on.
+
+    The sets of its triples are lots of its ear.
+    """
 
     def __init__(self, game, wire, player, rule):
-        self.joined_sets = joined_in(game, rule)
+        sets = joined_in(game, rule)
         self.ear = Ears(game, wire, (player,))
+        self.joined_lots = {state: self.ear.lot(sets[state]) for state in sets}
 
     def first_triple(self):
         """The triple of the beginning, if the joiner joins there."""
         first = self.ear.first
-        return (first, (first,), self.joined_sets[first])
+        return (first, self.ear.alone(), self.joined_lots[first])
 
     def behind(self, triple):
         """A list of the pairs of a step and of the triple behind it.
@@ -68,12 +72,16 @@ class Joining:
         for move, told, after in self.ear.steps(state):
             gone = self.ear.after(elder, told)
             found.append(((move, False), (after, gone, self.ear.after(joiner, told))))
-            found.append(((move, True), (after, gone, self.joined_sets[after])))
+            found.append(((move, True), (after, gone, self.joined_lots[after])))
         return found
 
     def triples(self):
         """A dict of the triples that come, as found_from has them; TooMany if there are too many."""
         return found_from([self.first_triple()], self.behind)
+
+    def with_lots(self, triple):
+        """A triple of a state and two sets, these as lots."""
+        return (triple[0], self.ear.lot(triple[1]), self.ear.lot(triple[2]))
 
     def has(self, word, triple):
         """Whether triple has a gap, or a spill, as word tells."""
@@ -135,21 +143,23 @@ def join_paper(game, wire, player, rule, word):
     """A paper that no triple that comes has word; None if one has."""
     joining = Joining(game, wire, player, rule)
     triples = joining.triples()
-    return None if first_with(joining, word, triples) is not None else tuple(sorted(list(triples)))
+    if first_with(joining, word, triples) is not None:
+        return None
+    return tuple(sorted([(state, elder.states, joiner.states) for state, elder, joiner in triples]))
 
 
 def join_paper_error(game, wire, player, rule, word, value):
     """None if value, any value, is a joiners' paper for word; otherwise what is wrong with it."""
     joining = Joining(game, wire, player, rule)
-    if not isinstance(value, tuple) or not all([is_triple(game, joining.joined_sets, item) for item in value]):
+    if not isinstance(value, tuple) or not all([is_triple(game, joining.joined_lots, item) for item in value]):
         return "form"
     if not ascends(value):
         return "order"
-    lot = {triple: True for triple in value}
-    if joining.first_triple() not in lot:
+    triples = {joining.with_lots(triple): k for k, triple in enumerate(value)}
+    if joining.first_triple() not in triples:
         return "begun"
-    for k, triple in enumerate(value):
-        if joining.has(word, triple) or not all([behind in lot for _, behind in joining.behind(triple)]):
+    for triple, k in triples.items():
+        if joining.has(word, triple) or not all([behind in triples for _, behind in joining.behind(triple)]):
             return ("triple", k)
     return None
 

@@ -70,9 +70,9 @@ def told_twice(viewer, ear, state):
 
 
 def triples_from(viewer, ear):
-    """A dict of the triples of a state, its set by views and its set by rows behind plays, as found_from has them."""
-    alone = (viewer.first,)
-    return found_from([(viewer.first, alone, alone)], lambda triple: triples_behind(viewer, ear, triple))
+    """A dict of the triples of a state, its lot by views and its lot by rows behind plays, as found_from has them."""
+    first = (viewer.first, viewer.alone(), ear.alone())
+    return found_from([first], lambda triple: triples_behind(viewer, ear, triple))
 
 
 def triples_behind(viewer, ear, triple):
@@ -93,7 +93,7 @@ def lasting(game, wire, player):
 def unlike_play(triples):
     """A shortest play to a triple with unlike sets; None if there is none."""
     for triple in triples:
-        if triple[1] != triple[2]:
+        if triple[1].states != triple[2].states:
             return way_to(triples, triple)[1]
     return None
 
@@ -103,7 +103,7 @@ def lasting_paper(game, wire, player):
     triples = triples_from(Viewer(game, player), Ears(game, wire, (player,)))
     if unlike_play(triples) is not None:
         return None
-    return tuple(sorted([(state, some) for state, some, _ in triples]))
+    return tuple(sorted([(state, lot.states) for state, lot, _ in triples]))
 
 
 def lasting_error(game, wire, player, value):
@@ -115,10 +115,11 @@ def lasting_error(game, wire, player, value):
     if (viewer.first, (viewer.first,)) not in lots:
         return "first"
     for k, (state, lot) in enumerate(value):
-        for move, (behind, by_views, by_rows) in triples_behind(viewer, ear, (state, lot, lot)):
-            if by_views != by_rows:
+        triple = (state, viewer.lot(lot), ear.lot(lot))
+        for move, (behind, by_views, by_rows) in triples_behind(viewer, ear, triple):
+            if by_views.states != by_rows.states:
                 return (k, move, "unlike")
-            if (behind, by_views) not in lots:
+            if (behind, by_views.states) not in lots:
                 return (k, move, "out")
     return None
 

@@ -3,7 +3,7 @@
 from knownplay.errors import Unfit
 from knownplay.plays import is_state, play_error, states
 from knownplay.sets import is_set
-from knownplay.tellers import Ears, fits, fitting, found_from, layers_from, lots_of, moves_to, ranks_of, way_to
+from knownplay.tellers import Ears, fits, found_from, layers_from, lots_of, moves_to, ranks_of, way_to
 from knownplay.values import ascends, is_count, is_letter, is_row, is_whole
 
 
@@ -41,22 +41,22 @@ def as_letter(item):
     return item if is_letter(item) else "none"
 
 
-def sets_told(ear, told):
-    """A list of the sets that fit told so far, of the beginning and each tick; it ends with the first one that is ()."""
-    some = (ear.first,) if fits(ear.first_told(), wanted_at(told, 0)) else ()
-    sets = [some]
+def lots_told(ear, told):
+    """A list of the lots that fit told so far, of the beginning and each tick; it ends with the first one of ()."""
+    lot = ear.alone() if fits(ear.first_told(), wanted_at(told, 0)) else ear.lot(())
+    lots = [lot]
     for tick in range(1, ticks_of(told) + 1):
-        if not some:
+        if not lot.states:
             break
-        some = fitting(ear, some, wanted_at(told, tick))
-        sets.append(some)
-    return sets
+        lot = ear.fitting(lot, wanted_at(told, tick))
+        lots.append(lot)
+    return lots
 
 
 def first_found(ear, told):
     """The first tick at which told are found not to be honest; None if they are."""
-    sets = sets_told(ear, told)
-    return None if sets[-1] else len(sets) - 1
+    lots = lots_told(ear, told)
+    return None if lots[-1].states else len(lots) - 1
 
 
 def honest(game, wire, told):
@@ -113,7 +113,7 @@ def finders(game, wire, told):
 class Lies:
     """What player can tell, and what comes so while all others tell what they hear.
 
-    A node is a triple (lying, state, set) with a set that is not (): lying tells whether some item was no letter heard.
+    A node is a triple (lying, state, lot) of a lot of some state: lying tells whether some item was no letter heard.
     """
 
     def __init__(self, game, wire, player):
@@ -126,30 +126,30 @@ class Lies:
         """What all others hear."""
         return (*letters[:self.player], *letters[self.player + 1:])
 
-    def tellings(self, some):
-        """A dict of what others can hear next in a set: for each the pairs of what player tells and of the set then."""
-        if some not in self.kept_tellings:
+    def tellings(self, lot):
+        """A dict of what others can hear next in a lot: for each the pairs of what player tells and of the lot then."""
+        if lot not in self.kept_tellings:
             found = {}
-            for letters, behind in self.ear.leads(some).items():
+            for letters, behind in self.ear.leads(lot).items():
                 found.setdefault(self.others(letters), []).append((letters[self.player], behind))
-            self.kept_tellings[some] = found
-        return self.kept_tellings[some]
+            self.kept_tellings[lot] = found
+        return self.kept_tellings[lot]
 
     def behind(self, node):
         """A list of the pairs of a step and of the node behind it; a step is a move and what player tells of it."""
         if node not in self.kept_behind:
-            lying, state, some = node
+            lying, state, lot = node
             found = []
             for move, letters, after in self.ear.steps(state):
                 heard = letters[self.player]
-                for item, behind in self.tellings(some).get(self.others(letters), []):
+                for item, behind in self.tellings(lot).get(self.others(letters), []):
                     found.append(((move, item), (lying or item != heard, after, behind)))
             self.kept_behind[node] = found
         return self.kept_behind[node]
 
     def first_node(self):
         """The node of the beginning, told as it was heard."""
-        return (False, self.ear.first, (self.ear.first,))
+        return (False, self.ear.first, self.ear.alone())
 
     def nodes(self):
         """A dict of all nodes that come, as found_from has them; TooMany if there are too many."""
@@ -164,12 +164,12 @@ class Lies:
         first = self.ear.first_told()[self.player]
         return (tuple([move for move, _ in way]), (first, *[item for _, item in way]))
 
-    def sets_behind(self, play, row):
-        """The sets behind the lie of play and row, as sets_told has them."""
+    def lots_behind(self, play, row):
+        """The lots behind the lie of play and row, as lots_told has them."""
         rows = [self.ear.first_told(), *[letters for letters, _ in self.ear.through(play)]]
         told = [tuple(column) for column in zip(*rows)]
         told[self.player] = row
-        return sets_told(self.ear, tuple(told))
+        return lots_told(self.ear, tuple(told))
 
     def turn(self, play, row):
         """The first place at which row has another item than player heard by play; None if there is none."""
@@ -243,13 +243,13 @@ def good_error(game, wire, player, value):
     lies = Lies(game, wire, player)
     if lies.turn(play, row) is None:
         return "true"
-    sets = lies.sets_behind(play, row)
-    if not sets[-1]:
-        return ("found", len(sets) - 1)
+    lots = lies.lots_behind(play, row)
+    if not lots[-1].states:
+        return ("found", len(lots) - 1)
     come = [lies.ear.first, *[state for _, state in lies.ear.through(play)]]
     if back is None:
         return "end" if lies.ear.steps(come[-1]) else None
-    return None if (come[back], sets[back]) == (come[-1], sets[-1]) else "end"
+    return None if (come[back], lots[back]) == (come[-1], lots[-1]) else "end"
 
 
 def is_told_play(game, value):
@@ -309,7 +309,7 @@ def lie_error(game, wire, player, number, value):
     turn = lies.turn(play, row)
     if turn is None:
         return "true"
-    lasts = len([some for some in lies.sets_behind(play, row) if some]) - turn
+    lasts = len([lot for lot in lies.lots_behind(play, row) if lot.states]) - turn
     return None if lasts == number else ("lasts", lasts)
 
 
@@ -319,8 +319,8 @@ def lie_paper(game, wire, player):
     ranks = ranked_lies(lies)
     if ranks is None:
         return None
-    truths = sorted([(state, some) for lying, state, some in lies.nodes() if not lying])
-    ranked = sorted([(state, some, rank) for (_, state, some), rank in ranks.items()])
+    truths = sorted([(state, lot.states) for lying, state, lot in lies.nodes() if not lying])
+    ranked = sorted([(state, lot.states, rank) for (_, state, lot), rank in ranks.items()])
     return (greatest_number(ranks), tuple(truths), tuple(ranked))
 
 
@@ -330,21 +330,22 @@ def lie_paper_error(game, wire, player, value):
         return "form"
     _, truths, ranked = value
     lies = Lies(game, wire, player)
-    lot = {pair: True for pair in truths}
-    ranks = {(state, some): rank for state, some, rank in ranked}
-    if (lies.ear.first, (lies.ear.first,)) not in lot:
+    # By their place each, the truths, and by their rank each, the lies; as pairs of a state and a lot.
+    places = {(state, lies.ear.lot(some)): k for k, (state, some) in enumerate(truths)}
+    ranks = {(state, lies.ear.lot(some)): rank for state, some, rank in ranked}
+    if (lies.ear.first, lies.ear.alone()) not in places:
         return "begun"
-    for k, (state, some) in enumerate(truths):
-        behind = [node for _, node in lies.behind((False, state, some))]
+    for pair, k in places.items():
+        behind = [node for _, node in lies.behind((False, *pair))]
         true = [node for node in behind if not node[0]]
         # Each move leads to one of truths by what is heard of it, unless the state is none of the set.
-        led = all([node[1:] in (ranks if node[0] else lot) for node in behind])
-        if not led or len(true) < len(lies.ear.steps(state)):
+        led = all([node[1:] in (ranks if node[0] else places) for node in behind])
+        if not led or len(true) < len(lies.ear.steps(pair[0])):
             return ("truth", k)
-    for k, (state, some, rank) in enumerate(ranked):
-        behind = [node[1:] for _, node in lies.behind((True, state, some))]
-        lesser = all([pair in ranks and ranks[pair] < rank for pair in behind])
-        if not lesser or not lies.ear.steps(state):
+    for k, (pair, rank) in enumerate(ranks.items()):
+        behind = [node[1:] for _, node in lies.behind((True, *pair))]
+        lesser = all([other in ranks and ranks[other] < rank for other in behind])
+        if not lesser or not lies.ear.steps(pair[0]):
             return ("lie", k)
     return None
 

@@ -7,9 +7,8 @@ from knownplay.values import ascends, is_row
 
 
 def triples_from(ear, other):
-    """A dict of the triples of a state and of the sets known by two tellers behind plays, as found_from has them."""
-    alone = (ear.first,)
-    return found_from([(ear.first, alone, alone)], lambda triple: triples_behind(ear, other, triple))
+    """A dict of the triples of a state and of the lots known by two tellers behind plays, as found_from has them."""
+    return found_from([(ear.first, ear.alone(), other.alone())], lambda triple: triples_behind(ear, other, triple))
 
 
 def triples_behind(ear, other, triple):
@@ -22,7 +21,7 @@ def triples_behind(ear, other, triple):
 
 
 def is_worse(ear, triple):
-    """Whether some cell is sure in the last set of triple, and not in the one ahead of it."""
+    """Whether some cell is sure in the last lot of triple, and not in the one ahead of it."""
     here, there = ear.sure(triple[1]), ear.sure(triple[2])
     return any([item is None and its_like is not None for item, its_like in zip(here, there)])
 
@@ -46,15 +45,17 @@ def as_good_error(game, wire, other, player, value):
     if play_error(game, value) is not None:
         return "form"
     ear, its_like = Ears(game, wire, (player,)), Ears(game, other, (player,))
-    sets = [one.known_after((one.first,), [told for told, _ in one.through(value)]) for one in (ear, its_like)]
-    return None if is_worse(ear, (None, *sets)) else "none"
+    lots = [one.after_all(one.alone(), [told for told, _ in one.through(value)]) for one in (ear, its_like)]
+    return None if is_worse(ear, (None, *lots)) else "none"
 
 
 def good_paper(game, wire, other, player):
     """A closed lot of triples by which wire is as good as other for player; None if it is not."""
     ear = Ears(game, wire, (player,))
     triples = triples_from(ear, Ears(game, other, (player,)))
-    return tuple(sorted(list(triples))) if worse_play(ear, triples) is None else None
+    if worse_play(ear, triples) is not None:
+        return None
+    return tuple(sorted([(state, lot.states, its_like.states) for state, lot, its_like in triples]))
 
 
 def good_paper_error(game, wire, other, player, value):
@@ -64,12 +65,12 @@ def good_paper_error(game, wire, other, player, value):
     if not ascends(value):
         return "order"
     ear, its_like = Ears(game, wire, (player,)), Ears(game, other, (player,))
-    lot = {triple: True for triple in value}
-    if (ear.first, (ear.first,), (ear.first,)) not in lot:
+    triples = {(state, ear.lot(some), its_like.lot(other)): True for state, some, other in value}
+    if (ear.first, ear.alone(), its_like.alone()) not in triples:
         return "begun"
-    for k, triple in enumerate(value):
+    for k, triple in enumerate(list(triples)):
         behind = [item for _, item in triples_behind(ear, its_like, triple)]
-        if is_worse(ear, triple) or not all([item in lot for item in behind]):
+        if is_worse(ear, triple) or not all([item in triples for item in behind]):
             return ("triple", k)
     return None
 

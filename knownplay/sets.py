@@ -21,17 +21,19 @@ def begun(game, wire, ears):
 
 def gone_on(game, wire, ears, some, letters):
     """The set of all states behind a move of a state of some with which the ears hear letters, any value."""
-    return Ears(game, wire, ears).gone_on(some, letters)
+    teller = Ears(game, wire, ears)
+    return teller.gone_on(teller.lot(some), letters).states
 
 
 def next_letters(game, wire, ears, some):
     """The ascending tuple of the letters that the ears can hear next, in a state of some."""
-    return Ears(game, wire, ears).letters(some)
+    teller = Ears(game, wire, ears)
+    return teller.letters(teller.lot(some))
 
 
 def known(game, wire, ears, row):
     """The set known by row, any value; () if it is no row that is heard."""
-    return Ears(game, wire, ears).known(row)
+    return Ears(game, wire, ears).known(row).states
 
 
 def sure(game, some):
@@ -59,7 +61,7 @@ def wrong_play(game, wire, ears, row, shown):
 def known_layers(game, wire, ears, row):
     """The pair of the set known by row, any value, and of the layers of states to it; if it is (), of none."""
     teller = Ears(game, wire, ears)
-    some = teller.known(row)
+    some = teller.known(row).states
     # Only a row that is heard has nothing but letters, which alone can be compared.
     return (some, layers_from(teller, [teller.first], row[1:]) if some else [])
 

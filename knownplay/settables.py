@@ -9,23 +9,23 @@ from knownplay.values import is_letters, is_row, is_whole
 
 def table_of(teller):
     """The table of the sets that come by what teller, some ears, is told; TooMany(MAX_TABLE) if it has more items."""
-    sets = [(teller.first,)]
-    numbers = {sets[0]: 0}
+    lots = [teller.alone()]
+    numbers = {lots[0]: 0}
     items = 1
     table = []
-    while len(table) < len(sets):
-        some = sets[len(table)]
+    while len(table) < len(lots):
+        lot = lots[len(table)]
         leads = []
-        for letters in teller.letters(some):
-            behind = teller.after(some, letters)
+        for letters in teller.letters(lot):
+            behind = teller.after(lot, letters)
             if behind not in numbers:
-                numbers[behind] = len(sets)
-                sets.append(behind)
-                items += len(behind)
+                numbers[behind] = len(lots)
+                lots.append(behind)
+                items += len(behind.states)
                 if items > MAX_TABLE:
                     raise TooMany(MAX_TABLE)
             leads.append((letters, numbers[behind]))
-        table.append((some, tuple(leads)))
+        table.append((lot.states, tuple(leads)))
     return tuple(table)
 
 
@@ -107,11 +107,12 @@ def is_item(game, many, value):
 
 def are_leads(teller, table, some, leads):
     """Whether leads has the letters that can come in the set some, in order, and where they lead in table."""
-    wanted = teller.letters(some)
+    lot = teller.lot(some)
+    wanted = teller.letters(lot)
     if len(wanted) != len(leads):
         return False
     for letters, (told, number) in zip(wanted, leads):
-        if not is_letters(told) or told != letters or table[number][0] != teller.after(some, letters):
+        if not is_letters(told) or told != letters or table[number][0] != teller.after(lot, letters).states:
             return False
     return True
 

@@ -9,18 +9,28 @@ from knownplay.views import seen_of, sight
 from knownplay.wires import first_moment, letter_at, letter_order, moment_of
 
 
-class Teller:
-    """Somebody who is told something of each move, what it is hangs on the class: by this one, nothing.
+class Lot:
+    """A set, kept as one thing by a teller, which has just one of the same states: so it is found without its states.
 
-    Sets are ascending tuples of states, as somebody knows them by what was told.
+    states is the ascending tuple of its states; what leads on from it, and what is sure in it, are kept once they are
+    worked out.
     """
+
+    def __init__(self, states):
+        self.states = states
+        self.kept_leads = None
+        self.kept_any = None
+        self.kept_sure = None
+
+
+class Teller:
+    """Somebody who is told something of each move; what it is hangs on the class: by this one, nothing."""
 
     def __init__(self, game):
         self.game = game
         self.first = first_state(game)
         self.kept_steps = {}
-        self.kept_leads = {}
-        self.kept_sure = {}
+        self.kept_lots = {}
 
     def told(self, state, move, done, behind):
         """What is told of a move in state, done or refused, with the state behind it."""
@@ -56,31 +66,56 @@ class Teller:
             found.setdefault(told, {}).setdefault(behind, move)
         return {key: [(one, after) for after, one in found[key].items()] for key in found}
 
-    def leads(self, some):
-        """A dict of all that can be told next in the set some: the set that is gone on to by each."""
-        if some not in self.kept_leads:
+    def lot(self, states):
+        """The lot of states, an ascending tuple of states."""
+        if states not in self.kept_lots:
+            self.kept_lots[states] = Lot(states)
+        return self.kept_lots[states]
+
+    def alone(self):
+        """The lot of the first state alone."""
+        return self.lot((self.first,))
+
+    def leads(self, lot):
+        """A dict of all that can be told next in lot: the lot that is gone on to by each."""
+        if lot.kept_leads is None:
             found = {}
-            for state in some:
+            for state in lot.states:
                 for _, told, behind in self.steps(state):
                     found.setdefault(told, {})[behind] = True
-            self.kept_leads[some] = {told: tuple(sorted(list(states))) for told, states in found.items()}
-        return self.kept_leads[some]
+            lot.kept_leads = {told: self.lot(tuple(sorted(list(states)))) for told, states in found.items()}
+        return lot.kept_leads
 
-    def after(self, some, told):
-        """The set gone on to from the set some by what is told, something that is told of some move; perhaps ()."""
-        return self.leads(some).get(told, ())
+    def after(self, lot, told):
+        """The lot gone on to from lot by what is told, something that is told of some move; perhaps that of ()."""
+        leads = self.leads(lot)
+        return leads[told] if told in leads else self.lot(())
 
-    def known_after(self, some, tolds):
-        """The set gone on to from the set some by one thing told behind another."""
+    def after_all(self, lot, tolds):
+        """The lot gone on to from lot by one thing told behind another."""
         for told in tolds:
-            some = self.after(some, told)
-        return some
+            lot = self.after(lot, told)
+        return lot
 
-    def sure(self, some):
-        """What is sure in the set some."""
-        if some not in self.kept_sure:
-            self.kept_sure[some] = sure_in(some)
-        return self.kept_sure[some]
+    def after_any(self, lot, tolds):
+        """The lot gone on to from lot by any one of some things told."""
+        found = {}
+        for told in tolds:
+            for state in self.after(lot, told).states:
+                found[state] = True
+        return self.lot(tuple(sorted(list(found))))
+
+    def after_move(self, lot):
+        """The lot gone on to from lot by any move, whatever is told of it."""
+        if lot.kept_any is None:
+            lot.kept_any = self.after_any(lot, self.leads(lot))
+        return lot.kept_any
+
+    def sure(self, lot):
+        """What is sure in lot."""
+        if lot.kept_sure is None:
+            lot.kept_sure = sure_in(lot.states)
+        return lot.kept_sure
 
 
 def sure_in(some):
@@ -105,24 +140,33 @@ class Ears(Teller):
         moment = first_moment(self.game)
         return tuple([letter_at(rule, moment) for rule in self.rules])
 
-    def letters(self, some):
-        """The ascending tuple of the letters that can be heard next in the set some."""
-        return letter_order(tuple(self.leads(some)))
+    def letters(self, lot):
+        """The ascending tuple of the letters that can be heard next in lot."""
+        return letter_order(tuple(self.leads(lot)))
 
-    def gone_on(self, some, letters):
-        """The set gone on to from the set some by letters, any value; () if they cannot be heard."""
-        return self.after(some, letters) if is_letters(letters) else ()
+    def gone_on(self, lot, letters):
+        """The lot gone on to from lot by letters, any value; that of () if they cannot be heard."""
+        return self.after(lot, letters) if is_letters(letters) else self.lot(())
 
     def known(self, row):
-        """The set known by row, any value; () if it is no row that is heard."""
+        """The lot known by row, any value; that of () if it is no row that is heard."""
         if not isinstance(row, tuple) or not row or not is_letters(row[0]) or row[0] != self.first_told():
-            return ()
-        some = (self.first,)
+            return self.lot(())
+        lot = self.alone()
         for letters in row[1:]:
-            some = self.gone_on(some, letters)
-            if not some:
-                return ()
-        return some
+            lot = self.gone_on(lot, letters)
+            if not lot.states:
+                return lot
+        return lot
+
+    def fitting(self, lot, wanted):
+        """The lot gone on to from lot by all letters that are as wanted, as fits tells."""
+        return self.after_any(lot, [letters for letters in self.leads(lot) if fits(letters, wanted)])
+
+
+def fits(letters, wanted):
+    """Whether the letters of some ears are those that are wanted; None fits any letter."""
+    return all([want is None or want == letter for letter, want in zip(letters, wanted)])
 
 
 class Fewer(Teller):
@@ -238,21 +282,6 @@ def layers_from(teller, begun_with, wanted):
                     newer[behind] = (state, move)
         layers.append(newer)
     return layers
-
-
-def fits(letters, wanted):
-    """Whether the letters of some ears are those that are wanted; None fits any letter."""
-    return all([want is None or want == letter for letter, want in zip(letters, wanted)])
-
-
-def fitting(ear, some, wanted):
-    """The set gone on to from the set some by all letters that are as wanted."""
-    found = {}
-    for letters, behind in ear.leads(some).items():
-        if fits(letters, wanted):
-            for state in behind:
-                found[state] = True
-    return tuple(sorted(list(found)))
 
 
 def moves_to(layers, state):

@@ -13,7 +13,7 @@ def watched(game, wire, player, lag, play):
     """The set that a watcher with this lag, any value, knows behind play; Unfit() if lag is none."""
     if not is_lag(lag):
         raise Unfit()
-    return watched_by(Ears(game, wire, (player,)), lag, play)
+    return watched_by(Ears(game, wire, (player,)), lag, play).states
 
 
 def is_lag(value):
@@ -22,11 +22,11 @@ def is_lag(value):
 
 
 def watched_by(ear, lag, play):
-    """The set that a watcher with this lag, of however many ticks, knows behind play, hearing what ear hears."""
+    """The lot that a watcher with this lag, of however many ticks, knows behind play, hearing what ear hears."""
     ticks = ear.through(play)
     seen = max(len(ticks) - lag, 0)
     last = ear.first if seen == 0 else ticks[seen - 1][1]
-    return ear.known_after((last,), [told for told, _ in ticks[seen:]])
+    return ear.after_all(ear.lot((last,)), [told for told, _ in ticks[seen:]])
 
 
 def helps_behind(ear, lag, play):
@@ -44,22 +44,23 @@ def helps_error(game, wire, player, lag, value):
 
 
 def uneven_behind(ear, pair):
-    """A list of the pairs of letters and of the uneven pair of sets to which they lead from pair."""
+    """A list of the pairs of letters and of the uneven pair of lots to which they lead from pair."""
     more, less = ear.leads(pair[0]), ear.leads(pair[1])
     return [(told, (more[told], less[told])) for told in less if more[told] != less[told]]
 
 
-def uneven_begun(sets):
-    """A list of the uneven pairs of one of sets and of a state in it alone."""
-    return [(some, (state,)) for some in sets if len(some) > 1 for state in some]
+def uneven_begun(ear, lots):
+    """A list of the uneven pairs of one of lots and of a state in it alone."""
+    return [(lot, ear.lot((state,))) for lot in lots if len(lot.states) > 1 for state in lot.states]
 
 
 class Uneven:
-    """The uneven pairs of sets that come to ear: how they come, and the ranks of those from which no ring does."""
+    """The uneven pairs of lots that come to ear: how they come, and the ranks of those from which no ring does."""
 
-    def __init__(self, ear, sets):
+    def __init__(self, ear, table):
         self.ear = ear
-        self.pairs = found_from(uneven_begun(sets), self.behind)
+        lots = [ear.lot(some) for some, _ in table]
+        self.pairs = found_from(uneven_begun(ear, lots), self.behind)
         self.ranks = ranks_of(self.pairs, self.behind)
 
     def behind(self, pair):
@@ -100,25 +101,25 @@ def helps(game, wire, player, lag):
     if not is_lag(lag):
         raise Unfit()
     ear = Ears(game, wire, (player,))
-    uneven = Uneven(ear, [some for some, _ in table_of(ear)])
-    pairs = found_from([(ear.first, (ear.first,))], lambda pair: known_behind(ear, pair))
-    for state, some in pairs:
-        if len(some) > 1 and uneven.goes_on((some, (state,)), lag):
-            letters = uneven.way((some, (state,)), lag)
-            layers = layers_from(ear, [state], letters)
-            return way_to(pairs, (state, some))[1] + moves_to(layers, list(layers[-1])[0])
+    uneven = Uneven(ear, table_of(ear))
+    pairs = found_from([(ear.first, ear.alone())], lambda pair: known_behind(ear, pair))
+    for state, lot in pairs:
+        pair = (lot, ear.lot((state,)))
+        if len(lot.states) > 1 and uneven.goes_on(pair, lag):
+            layers = layers_from(ear, [state], uneven.way(pair, lag))
+            return way_to(pairs, (state, lot))[1] + moves_to(layers, list(layers[-1])[0])
     return None
 
 
 def known_behind(ear, pair):
-    """A list of the moves from the state of pair, each with the pair of the state behind and of the set then known."""
+    """A list of the moves from the state of pair, each with the pair of the state behind and of the lot then known."""
     return [(move, (behind, ear.after(pair[1], told))) for move, told, behind in ear.steps(pair[0])]
 
 
 def reach(game, wire, player):
     """The least lag with which a watcher helps player behind no play; None if there is none."""
     ear = Ears(game, wire, (player,))
-    uneven = Uneven(ear, [some for some, _ in table_of(ear)])
+    uneven = Uneven(ear, table_of(ear))
     if len(uneven.ranks) < len(uneven.pairs):
         return None
     return 1 + max(list(uneven.ranks.values()), default=-1)
@@ -129,14 +130,14 @@ def reach_paper(game, wire, player):
     ear = Ears(game, wire, (player,))
     table = table_of(ear)
     sets = [some for some, _ in table]
-    uneven = Uneven(ear, sets)
+    uneven = Uneven(ear, table)
     ring = uneven.ring()
     if ring is None:
-        lot = sorted([(*pair, uneven.ranks[pair]) for pair in uneven.pairs])
-        return ("ranks", tuple(sorted(sets)), tuple(lot))
-    first, way = way_to(uneven.pairs, ring[0])
-    row = (ear.first_told(), *row_behind(table, sets.index(first[0])))
-    return ("ring", row, first[1][0], way, ring[1])
+        ranked = sorted([(more.states, less.states, uneven.ranks[(more, less)]) for more, less in uneven.pairs])
+        return ("ranks", tuple(sorted(sets)), tuple(ranked))
+    (more, less), way = way_to(uneven.pairs, ring[0])
+    row = (ear.first_told(), *row_behind(table, sets.index(more.states)))
+    return ("ring", row, less.states[0], way, ring[1])
 
 
 def reach_error(game, wire, player, value):
@@ -147,20 +148,24 @@ def reach_error(game, wire, player, value):
         return ring_error(ear, value) if rows else "form"
     if not is_row(value, 3, 3) or not is_word(value[0], "ranks") or not are_ranks(game, value):
         return "form"
-    _, sets, lot = value
-    pairs = {(more, less): rank for more, less, rank in lot}
-    if not ascends(sets) or not ascends(lot) or len(pairs) < len(lot):
+    return ranks_error(ear, value[1], value[2])
+
+
+def ranks_error(ear, sets, ranked):
+    """What is wrong with the sets and the ranked pairs of a paper; otherwise None."""
+    pairs = {(ear.lot(more), ear.lot(less)): rank for more, less, rank in ranked}
+    if not ascends(sets) or not ascends(ranked) or len(pairs) < len(ranked):
         return "order"
-    come = {some: True for some in sets}
-    if (ear.first,) not in come:
+    lots = {ear.lot(some): k for k, some in enumerate(sets)}
+    if ear.alone() not in lots:
         return "first"
-    for k, some in enumerate(sets):
-        if not all([behind in come for behind in ear.leads(some).values()]):
+    for lot, k in lots.items():
+        if not all([behind in lots for behind in ear.leads(lot).values()]):
             return ("sets", k)
-    for k, (more, less, rank) in enumerate(lot):
-        if not is_ranked(ear, pairs, (more, less), rank):
+    for k, pair in enumerate(list(pairs)):
+        if not is_ranked(ear, pairs, pair):
             return ("pair", k)
-    return None if all([pair in pairs for pair in uneven_begun(sets)]) else "begun"
+    return None if all([pair in pairs for pair in uneven_begun(ear, list(lots))]) else "begun"
 
 
 def is_word(value, word):
@@ -170,32 +175,32 @@ def is_word(value, word):
 
 def are_ranks(game, value):
     """Whether value, a triple, has the form of ranks."""
-    _, sets, lot = value
-    if not isinstance(sets, tuple) or not all([is_set(game, some) for some in sets]) or not isinstance(lot, tuple):
+    _, sets, ranked = value
+    if not isinstance(sets, tuple) or not all([is_set(game, some) for some in sets]) or not isinstance(ranked, tuple):
         return False
-    if not all([is_row(item, 3, 3) and is_count(item[2]) for item in lot]):
+    if not all([is_row(item, 3, 3) and is_count(item[2]) for item in ranked]):
         return False
-    return all([is_set(game, more) and is_set(game, less) for more, less, _ in lot])
+    return all([is_set(game, more) and is_set(game, less) for more, less, _ in ranked])
 
 
-def is_ranked(ear, pairs, pair, rank):
+def is_ranked(ear, pairs, pair):
     """Whether pair is an uneven one, and its rank is as those of the pairs tell to which letters lead from it."""
-    more = {state: True for state in pair[0]}
-    if pair[0] == pair[1] or not all([state in more for state in pair[1]]):
+    more = {state: True for state in pair[0].states}
+    if pair[0] == pair[1] or not all([state in more for state in pair[1].states]):
         return False
     on = [behind for _, behind in uneven_behind(ear, pair)]
     if not all([behind in pairs for behind in on]):
         return False
-    return rank == 1 + max([pairs[behind] for behind in on], default=-1)
+    return pairs[pair] == 1 + max([pairs[behind] for behind in on], default=-1)
 
 
 def ring_error(ear, value):
     """What is wrong with value, a quintuple of a ring; otherwise None."""
     _, row, state, way, again = value
-    some = ear.known(row)
-    if not is_state(ear.game, state) or state not in some:
+    lot = ear.known(row)
+    if not is_state(ear.game, state) or state not in lot.states:
         return "row"
-    pair = led_through(ear, (some, (state,)), way)
+    pair = led_through(ear, (lot, ear.lot((state,))), way)
     if pair is None:
         return "way"
     return None if again and led_through(ear, pair, again) == pair else "round"
@@ -207,6 +212,6 @@ def led_through(ear, pair, way):
         return None
     for letters in way:
         pair = (ear.gone_on(pair[0], letters), ear.gone_on(pair[1], letters))
-        if not pair[1] or pair[0] == pair[1]:
+        if not pair[1].states or pair[0] == pair[1]:
             return None
     return pair

@@ -29,7 +29,7 @@ def in_order(letters):
 
 def as_set(states):
     """The ascending tuple of states."""
-    return tuple(sorted(states))
+    return tuple(sorted(set(states)))
 
 
 def sure_of(some):
