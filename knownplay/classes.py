@@ -27,7 +27,7 @@ def first_round(game, table):
 def next_round(table, numbers):
     """The round behind that of numbers."""
     # Sets of one number have the same letters, so it is enough to look where these lead.
-    return numbered([(number, tuple([numbers[behind] for _, behind in leads]))
+    return numbered([(number, tuple([numbers[lead[1]] for lead in leads]))
                      for number, (_, leads) in zip(numbers, table)])
 
 

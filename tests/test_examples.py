@@ -44,7 +44,7 @@ class Examples(unittest.TestCase):
     def test_readme(self):
         readme = os.path.join(os.path.dirname(os.path.dirname(os.path.abspath(__file__))), "README.md")
         found = doctest.testfile(readme, module_relative=False, encoding="ascii")
-        self.assertEqual((found.failed, found.attempted), (0, 20))
+        self.assertEqual((found.failed, found.attempted), (0, 33))
 
 
 if __name__ == "__main__":

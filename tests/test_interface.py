@@ -5,8 +5,13 @@ import inspect
 import itertools
 import unittest
 
-from knownplay import bounds, errors, games, gametexts, knowngames, knownwires, plays, playtexts, terms, termtexts
-from knownplay import views, wires, wiretexts
+from knownplay import bounds, classes, comparing, errors, games, gametexts, gaps, joiners, justpapers, justparts
+from knownplay import knowngames, knownwires, leaks, lies, likeness, plays, playtexts, roads, sets, settables, terms
+from knownplay import termtexts, views, watchers, wires, wiretexts
+from tests.test_classes import DIE, HIGH, KEEN, LOW
+from tests.test_leaks import BLAB, BOX, FAIR, MUTE
+from tests.test_lies import EARLY, MUTE as ONE_EAR, PARITY, SHOWN, TOSS
+from tests.test_sets import FLIP, QUIET, SPOKEN
 from tests.things import ALL_WORDS, ASKED_CARD, CARD, HIDE, YES
 
 BOUNDS = {
@@ -81,6 +86,120 @@ CALLS = {
 }
 
 
+HEARD_SO = (((None, 0),), ((None, 0),))
+LISTEN = {"game": FLIP, "wire": QUIET, "ears": (1,)}
+ASKED = {"game": DIE, "wire": KEEN, "ears": (0,)}
+SEEN = {"game": BOX, "wire": (BLAB, MUTE), "player": 1}
+SEEN_TOO = {"game": BOX, "wire": (BLAB, FAIR), "player": 0}
+JOIN = {"game": DIE, "wire": KEEN, "player": 0, "rule": ((("same", ("cell", 0), ("is", 0)), ("is", 7)),)}
+WATCH = {"game": FLIP, "wire": SPOKEN, "player": 1}
+LIKE = {"game": FLIP, "wire": QUIET, "other": SPOKEN, "player": 1}
+LIE = {"game": PARITY, "wire": SHOWN, "player": 0}
+TOLD = (((0,), [1]), None, ((0,),))
+GAPPED = {"game": DIE, "wire": KEEN, "player": 0, "row": ((3, None), None, (2, 1))}
+TABLE = settables.set_table(FLIP, QUIET, (1,))
+DEVICE = (((3, None),), ((2, [2, 1]), (5, {})))
+RUN = (("tick", 0, 1), ("come", 0), ("tick", 2, 0), ("come", 2), ("ask", 1))
+
+
+def with_each(call, name, *values):
+    """The calls that have, beside those of call, an argument of this name: each of these values."""
+    return [{**call, name: value} for value in values]
+
+
+# The same for what is known: papers and tales, and values with lists and dicts in them that are to stay as they are.
+CALLS.update({
+    "begun": (sets, [LISTEN]),
+    "gone_on": (sets, with_each({**LISTEN, "some": ((0, 0), (1, 0))}, "letters", ((1, 1),), [[1, 1]], ([1, 1],))),
+    "next_letters": (sets, [{**LISTEN, "some": ((0, 0), (1, 0))}]),
+    "known": (sets, with_each(LISTEN, "row", HEARD_SO, list(HEARD_SO), (HEARD_SO[0], [[None, 0]]))),
+    "sure": (sets, [{"game": FLIP, "some": ((0, 0), (1, 0))}]),
+    "witnesses": (sets, with_each(LISTEN, "row", HEARD_SO, [list(HEARD_SO)])),
+    "wrong_play": (sets, with_each({**LISTEN, "row": HEARD_SO}, "shown", (1, 0), (None, 0), (2, 0), [None, 0])),
+    "set_table": (settables, [LISTEN]),
+    "number_of": (settables, with_each({"table": TABLE}, "row", HEARD_SO, list(HEARD_SO), (0, [(None, 0)]))),
+    "row_to": (settables, with_each(LISTEN, "some", ((1, 1),), [(1, 1)], ((0, 0), (1, 1)))),
+    "table_error": (settables, with_each(LISTEN, "value", TABLE, list(TABLE), TABLE[:2], (TABLE[0], ([], {})))),
+    "pairs_by_views": (leaks, [{"game": BOX, "player": 1}]),
+    "pairs_by_rows": (leaks, [SEEN]),
+    "leak": (leaks, [SEEN, SEEN_TOO]),
+    "lack": (leaks, [SEEN, SEEN_TOO]),
+    "leak_error": (leaks, with_each(SEEN_TOO, "value", (((0, 0),), ((0, 1),)), [[], []], ([(0, 0)], ((0, 0),)))),
+    "lack_error": (leaks, with_each(SEEN, "value", (((0, 0),), ((0, 1),)), [[], []], ((), ([0, 0],)))),
+    "just_paper": (justpapers, [SEEN, {**SEEN, "wire": (FAIR, FAIR)}]),
+    "just_paper_error": (justpapers, with_each(SEEN, "value", (((0, 0), (0, 0)),), [((0, 0), (0, 0))], (([0, 0], {}),))),
+    "is_just": (justpapers, [SEEN, {**SEEN, "wire": (FAIR, FAIR)}]),
+    "lasting": (justpapers, [SEEN, SEEN_TOO]),
+    "lasting_paper": (justpapers, [SEEN, {**SEEN, "wire": (FAIR, FAIR)}]),
+    "lasting_error": (justpapers, with_each(SEEN, "value", (((0, 0), ((0, 0),)),), [], (((0, 0), [(0, 0)]),))),
+    "spilling": (justparts, [SEEN, SEEN_TOO]),
+    "greatest": (justparts, [SEEN_TOO]),
+    "can_be_just": (justparts, [SEEN, SEEN_TOO]),
+    "classes": (classes, [ASKED]),
+    "parting": (classes, [{**ASKED, "row": LOW, "other": HIGH}, {**ASKED, "row": [LOW], "other": LOW}]),
+    "parting_error": (classes, with_each({**ASKED, "row": LOW, "other": HIGH}, "value", (((2, 1),),), [], ([[2, 1]],))),
+    "class_paper": (classes, [ASKED]),
+    "class_paper_error": (classes, with_each(ASKED, "value", classes.class_paper(**ASKED), [[0]], ([0, 1, 1, 2, 3],))),
+    "memories": (classes, [ASKED]),
+    "memories_error": (classes, with_each(ASKED, "value", classes.memories(**ASKED), [], (([], {}),))),
+    "shown_by": (classes, with_each({"table": classes.memories(**ASKED)}, "row", LOW[1:], list(LOW), ([0],))),
+    "rule_error": (joiners, with_each({"game": DIE}, "value", JOIN["rule"], [], ((["yes"], {}),))),
+    "join_letter": (joiners, [{"game": DIE, "rule": JOIN["rule"], "state": (2,)}]),
+    "joined": (joiners, with_each({"game": DIE, "rule": JOIN["rule"]}, "letter", (None,), [None], ([],))),
+    "join_gap": (joiners, [JOIN, {**JOIN, "rule": ()}]),
+    "join_spill": (joiners, [JOIN, {**JOIN, "rule": ()}]),
+    "join_tale_error": (joiners, with_each({**JOIN, "word": "gap"}, "value", (((0, 1),), ((2, 0),)), [[], []], ((), ([],)))),
+    "join_paper": (joiners, with_each(JOIN, "word", "gap", "spill")),
+    "join_paper_error": (joiners, with_each({**JOIN, "word": "spill"}, "value", (), [], (((0,), [(0,)], {}),))),
+    "watched": (watchers, with_each({**WATCH, "lag": 1}, "play", ((0, 1), (2, 0)), ())
+                + [{**WATCH, "lag": [1], "play": ()}]),
+    "helps": (watchers, with_each(WATCH, "lag", 2, [2], 201)),
+    "helps_error": (watchers, with_each({**WATCH, "lag": 1}, "value", ((0, 1), (2, 0)), [(0, 1)], ([0, 1],))),
+    "reach": (watchers, [WATCH, {**WATCH, "wire": QUIET}]),
+    "reach_paper": (watchers, [WATCH, {**WATCH, "wire": QUIET}]),
+    "reach_error": (watchers, with_each(WATCH, "value", watchers.reach_paper(**WATCH), ("ranks", [], {}), ("ring", (), [], (), ()),
+                                        ["ranks", (), ()])),
+    "as_good": (likeness, [LIKE, {**LIKE, "wire": SPOKEN}]),
+    "as_good_error": (likeness, with_each(LIKE, "value", ((2, 0),), [[2, 0]], ([2, 0],))),
+    "good_paper": (likeness, [LIKE, {**LIKE, "wire": SPOKEN}]),
+    "good_paper_error": (likeness, with_each(LIKE, "value", likeness.good_paper(FLIP, SPOKEN, QUIET, 1), [], (([], {}, ()),))),
+    "cheaper": (likeness, [WATCH]),
+    "told_error": (lies, with_each({"game": PARITY}, "value", TOLD, list(TOLD), (None, [], {}))),
+    "honest": (lies, with_each({"game": PARITY, "wire": EARLY}, "told", TOLD, (((0,), (1,)), None, ((0,),)))),
+    "honest_error": (lies, with_each({"game": PARITY, "wire": EARLY, "told": TOLD}, "value", ((0, 3),), [], ([0, 3],))),
+    "found_at": (lies, with_each({"game": PARITY, "wire": EARLY}, "told", TOLD, (((0,), (1,)), None, ((0,),)))),
+    "finders": (lies, with_each({"game": PARITY, "wire": EARLY}, "told", TOLD, (((0,), (1,)),) * 3)),
+    "lie_for_good": (lies, [LIE, {"game": TOSS, "wire": ONE_EAR, "player": 0}]),
+    "good_error": (lies, with_each({"game": TOSS, "wire": ONE_EAR, "player": 0}, "value", (((0, 0),), ((0,), (1,)), 0),
+                                   [((0, 0),), ((0,), [1]), 0], (((0, 0),), ((0,), [1]), 0), (((0, 0),), ((0,), (1,)), []))),
+    "lie_lasts": (lies, [LIE, {"game": TOSS, "wire": ONE_EAR, "player": 0}]),
+    "longest_lie": (lies, [LIE, {"game": TOSS, "wire": ONE_EAR, "player": 0}]),
+    "lie_error": (lies, with_each({**LIE, "number": 1}, "value", (((0, 0),), ((0,), (1,))), [[], []], (((0, 0),), ((0,), {})))),
+    "lie_paper": (lies, [LIE, {"game": TOSS, "wire": ONE_EAR, "player": 0}]),
+    "lie_paper_error": (lies, with_each(LIE, "value", lies.lie_paper(**LIE), [0, (), ()], (0, [], {}), (1, (([], {}),), ()))),
+    "comparing": (comparing, with_each({"game": PARITY, "wire": EARLY}, "many", 1, 2)),
+    "comparing_error": (comparing, with_each({"game": PARITY, "wire": EARLY, "many": 2}, "value", TOLD, list(TOLD),
+                                             (((0,), (1,)),) * 3, (None, [], {}))),
+    "comparing_paper": (comparing, [{"game": PARITY, "wire": SHOWN, "many": 2}, {"game": PARITY, "wire": EARLY, "many": 2}]),
+    "comparing_paper_error": (comparing, with_each({"game": PARITY, "wire": SHOWN, "many": 2}, "value",
+                                                   comparing.comparing_paper(PARITY, SHOWN, 2), [], (([], {}, ()),))),
+    "device_error": (roads, with_each({}, "value", DEVICE, list(DEVICE), ((), ([1, 2],)))),
+    "taken": (roads, [{"device": DEVICE, "number": number, "letter": [7]} for number in (0, 1, 2, 3, 9)]),
+    "lacking": (roads, [{"device": DEVICE}]),
+    "gap_row": (roads, [{"device": DEVICE}]),
+    "run_error": (roads, with_each({"game": DIE, "wire": KEEN, "player": 0}, "value", RUN, list(RUN), (["tick", 0, 1],))),
+    "road_end": (roads, [{"game": DIE, "wire": KEEN, "player": 0, "run": RUN}]),
+    "mending": (roads, [{"device": DEVICE}]),
+    "known_by_gaps": (gaps, [GAPPED, {**GAPPED, "row": [None]}, {**GAPPED, "row": (None, [0, None])}]),
+    "asked_enough": (gaps, with_each(GAPPED, "numbers", (), (1,), [1], (0,))),
+    "full_error": (gaps, with_each({**GAPPED, "numbers": ()}, "value", ((3, None), (0, None), (2, 1)), [], (None, [0], {}))),
+    "least_asked": (gaps, [GAPPED, {**GAPPED, "row": (None,) * 9}, {**GAPPED, "row": [None]}]),
+    "gap_paper": (gaps, with_each(GAPPED, "numbers", (), (1,), [1])),
+    "gap_paper_error": (gaps, with_each({**GAPPED, "numbers": (1,)}, "value", gaps.gap_paper(**GAPPED, numbers=(1,)), [],
+                                        ([], {}, ((((0,),), [(0,)]),)))),
+})
+
+
 def outcome(function, *args, **named):
     """What a call returns, or the error that it raises, as Python shows it."""
     try:
@@ -93,6 +212,9 @@ def is_plain(value):
     """Whether a value is made of tuples, integers, strings, bools and None alone."""
     if type(value) is tuple:
         return all(is_plain(item) for item in value)
+    # Devices have letters of any kind in them, which stay what they were.
+    if value in ([2, 1], {}, [7]):
+        return True
     return value is None or type(value) in (int, str, bool)
 
 

@@ -21,6 +21,7 @@ METHODS = set("""
 BARRED = set("""
     mro elements open input law register type eval exec exit vars dir id help locals globals super getattr setattr
 """.split())
+CHANGING = set("append clear extend insert pop remove reverse setdefault update sort add discard".split())
 TAKEN = {name for name in dir(builtins) if not name.startswith("_")}
 STATEMENTS = (
     ast.Assign, ast.AugAssign, ast.If, ast.While, ast.For, ast.Return, ast.Break, ast.Continue, ast.Pass, ast.Raise,
@@ -187,6 +188,36 @@ class Language(unittest.TestCase):
         for place, node in self.nodes(ast.Call):
             if isinstance(node.func, ast.Attribute):
                 self.assertIn(node.func.attr, METHODS | own, place)
+
+    def test_no_name_is_a_method_and_an_attribute(self):
+        methods = {node.name for _, kind in self.nodes(ast.ClassDef) for node in kind.body
+                   if isinstance(node, ast.FunctionDef)}
+        stored = {node.attr for _, node in self.nodes(ast.Attribute) if isinstance(node.ctx, ast.Store)}
+        self.assertFalse(methods & stored)
+        read = {node.attr for _, node in self.nodes(ast.Attribute) if isinstance(node.ctx, ast.Load)}
+        self.assertLessEqual(read, methods | stored | METHODS | {"__init__"})
+
+    def test_what_a_loop_goes_over_is_not_changed_in_it(self):
+        for place, loop in self.nodes(ast.For):
+            over = {ast.unparse(node) for node in ast.walk(loop.iter) if isinstance(node, (ast.Name, ast.Attribute))}
+            for node in [node for part in loop.body for node in ast.walk(part)]:
+                changed = []
+                if isinstance(node, ast.Call) and isinstance(node.func, ast.Attribute) and node.func.attr in CHANGING:
+                    changed = [node.func.value]
+                elif isinstance(node, (ast.Assign, ast.AugAssign)):
+                    targets = node.targets if isinstance(node, ast.Assign) else [node.target]
+                    changed = [target.value for target in targets if isinstance(target, ast.Subscript)]
+                for thing in changed:
+                    self.assertNotIn(ast.unparse(thing), over, place)
+
+    def test_sets_stand_only_where_they_may(self):
+        for name, tree in self.trees.items():
+            for node in ast.walk(tree):
+                for child in ast.iter_child_nodes(node):
+                    plain_set = isinstance(child, (ast.Set, ast.SetComp)) or (
+                        isinstance(child, ast.Call) and isinstance(child.func, ast.Name) and child.func.id == "set")
+                    if plain_set and not isinstance(node, (ast.Assign, ast.Compare)):
+                        self.assertIn(ast.unparse(node).split("(")[0], ("len", "sorted"), name)
 
     def test_the_interface_is_defined_where_it_is_listed(self):
         for name, functions in INTERFACE.items():
