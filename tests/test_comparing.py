@@ -239,7 +239,8 @@ class Papers(unittest.TestCase):
         paper = comparing_paper(PARITY, SHOWN, 2)
         speakers, some, sets = paper[0]
         state = some[0]
-        bad = [None, (), (speakers, some), (speakers, some, sets, ()), [speakers, some, sets], ((), some, sets), (None, some, sets),
+        bad = [None, (), (speakers, some), (speakers, some, sets, ()), [speakers, some, sets], ((), some, sets),
+               ((), some, ()), ((), (), ()), (None, some, sets),
                ((0, 0), some, sets), (speakers[::-1], some, sets), ((0, 1, 3), some, sets), ((0, True, 2), some, sets),
                ([0, 1, 2], some, sets), (speakers, None, sets), (speakers, [state], sets), (speakers, (state, state), sets),
                (speakers, ((0, 0, 0, 3),), sets), (speakers, (state[:3],), sets), (speakers, some, ()), (speakers, some, None),

@@ -28,6 +28,36 @@ EARLY = (((YES, ("cell", 0)),), ((YES, ("cell", 1)),), ((YES, ("cell", 2)),))
 LATE = (((YES, ("cell", 0)), (AT_TWO, ("cell", 1))), ((AT_TWO, ("cell", 1)),), ((AT_TWO, ("cell", 2)),))
 SHOWN = (((YES, ("cell", 0)),), ((AT_TWO, ("cell", 0)),), ())
 PAIR = (((YES, ("cell", 0)),), ((YES, ("cell", 1)),), ())
+NO_SIGHT = (((HIDDEN,) * 3), ((HIDDEN,) * 3))
+
+
+def staged(*deeds):
+    """A game of two bits and a stage from 0 to 5, of the server's own deeds (stage, effects on bits, next stage)."""
+    found = []
+    for stage, cells, behind in deeds:
+        effects = tuple((c, DRAW) for c in cells) + ((2, ("is", behind)),)
+        found.append((None, 2 if cells else 1, ("same", ("cell", 2), ("is", stage)), effects, ()))
+    return (2, ((2, 0), (2, 0), (6, 0)), tuple(found), NO_SIGHT)
+
+
+def at_stage(stage, cell):
+    """The entry that tells a bit at a stage alone."""
+    return (("same", ("cell", 2), ("is", stage)), ("cell", cell))
+
+
+OWN_BITS = ((YES, ("cell", 0)), (YES, ("cell", 1)))
+# A bit that is told anew at once, and one laid later that is told to the other player three ticks later.
+SLOWLY = staged((0, (0,), 1), (1, (1,), 2), (2, (), 3), (3, (), 4), (4, (), 5))
+SLOW_WIRE = (OWN_BITS, (at_stage(2, 0), at_stage(5, 1)))
+# The first bit is laid at once, and told two ticks later.
+LATER = staged((0, (0,), 1), (1, (), 2), (2, (), 3), (3, (), 4))
+LATER_WIRE = (OWN_BITS, (at_stage(3, 0),))
+# The game ends a tick behind a bit, or else goes on in a ring of three; and the other way about, with a ring of one.
+END_SOON = staged((0, (0,), 1), (0, (0,), 2), (2, (), 3), (3, (), 0))
+RING_SOON = staged((0, (0,), 0), (0, (0,), 2), (2, (), 3), (3, (), 4))
+BITS_AND_STAGE = OWN_BITS + ((YES, ("cell", 2)),)
+STAGED = ((SLOWLY, SLOW_WIRE), (LATER, LATER_WIRE), (END_SOON, (BITS_AND_STAGE, ())), (RING_SOON, (BITS_AND_STAGE, ())),
+          (END_SOON, (BITS_AND_STAGE, (at_stage(1, 0),))), (RING_SOON, (OWN_BITS, ())))
 TOSS = (2, ((2, 0),), ((None, 2, YES, ((0, DRAW),), ()),), ((YES,), (HIDDEN,)))
 MUTE = (((YES, ("cell", 0)),), ())
 
@@ -282,6 +312,7 @@ def some_liars(seed, many):
     things = Things(seed)
     found = [Liar(PARITY, wire, p) for wire in (EARLY, LATE, SHOWN, PAIR) for p in range(3)]
     found += [Liar(TOSS, MUTE, p) for p in range(2)]
+    found += [Liar(game, wire, p) for game, wire in STAGED for p in range(2)]
     for knowing in some_knowing(seed, many):
         liar = Liar(knowing.game, knowing.wire, things.random.randrange(knowing.game[0]))
         if liar.nodes(150) is not None:
@@ -331,7 +362,20 @@ class Lies(unittest.TestCase):
             paper = lie_paper(*arguments)
             self.assertIsNone(lie_paper_error(*arguments, paper))
             self.assertEqual((paper[0], good_error(*arguments, None)), (most, "form"))
-        self.assertTrue({0, 1} <= lengths)
+        self.assertTrue({0, 1, 2, 3} <= lengths, lengths)
+
+    def test_lies_that_last_some_ticks(self):
+        for (game, wire), ticks, lasts in zip(STAGED[:2], (4, 2), (3, 2)):
+            self.assertEqual(lie_lasts(game, wire, 0), lasts)
+            play, row = longest_lie(game, wire, 0)
+            self.assertEqual(len(play), ticks)
+            self.assertIsNone(lie_error(game, wire, 0, lasts, (play, row)))
+
+    def test_the_end_of_the_game_or_a_ring_whichever_is_nearer(self):
+        for (game, wire), ticks, ends in zip(STAGED[2:5], (1, 2, 4), (True, False, None)):
+            play, _, back = lie_for_good(game, wire, 0)
+            # The last one may be brought to either in as many ticks.
+            self.assertEqual((len(play), None if ends is None else back is None), (ticks, ends))
 
     def fewest_ticks(self, liar, lasting, most):
         """The fewest ticks of a lie that lasts most."""
@@ -425,6 +469,8 @@ class Lies(unittest.TestCase):
         for value in ODD_VALUES + MIXED:
             if not (isinstance(value, tuple) and len(value) == 2):
                 self.assertEqual(lie_error(TOSS, MUTE, 0, 1, value), "form")
+        self.assertEqual(lie_error(TOSS, MUTE, 0, 1, (play, row, None)), "form")
+        self.assertEqual(lie_error(TOSS, MUTE, 0, 1, (play, row, row)), "form")
         # What is told may be any value: then it is another item than the letter, and found.
         for value in ODD_VALUES + MIXED:
             if repr(value) not in ("(0,)", "(1,)"):

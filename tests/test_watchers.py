@@ -343,6 +343,9 @@ class Rings(unittest.TestCase):
             self.assertEqual(self.error(row, state, way, bad), "round", bad)
             self.assertEqual(self.error(row, state, bad, bad), "way")
         self.assertEqual(self.error(row, state, way, ()), "round")
+        # These can come behind the set known, but not behind the state.
+        self.assertEqual(self.error(row, state, (((0, 1, 1),),), ring), "way")
+        self.assertEqual(self.error(row, state, way, (((0, 1, 1),),)), "round")
         for value in MIXED + ODD_VALUES:
             self.assertEqual(self.error(row, state, (value,), ring), "way")
             self.assertEqual(self.error(row, state, way, (value,)), "round")
