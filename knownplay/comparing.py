@@ -2,7 +2,7 @@
 
 from knownplay.lies import alone, everybody, first_found, told_error
 from knownplay.sets import is_set
-from knownplay.tellers import found_from, lots_of, way_to
+from knownplay.tellers import choices_of, found_from, way_to
 from knownplay.values import is_ascending, is_row
 
 
@@ -15,7 +15,7 @@ class Comparers:
     def __init__(self, game, wire, many):
         self.players = tuple(range(game[0]))
         self.ear = everybody(game, wire)
-        self.circles = lots_of(tuple(range(game[0])), many)
+        self.circles = choices_of(tuple(range(game[0])), many)
         self.kept_parts = {}
 
     def first_node(self):
@@ -57,15 +57,15 @@ class Comparers:
         """The telling of nobody."""
         return (None,) * len(self.players)
 
-    def lots(self, node):
-        """The list of all lots of those who still speak in node."""
+    def next_speakers(self, node):
+        """The list of all tuples of those who may speak next in node."""
         speakers = node[0]
-        return [lot for many in range(1, len(speakers) + 1) for lot in lots_of(speakers, many)]
+        return [some for many in range(1, len(speakers) + 1) for some in choices_of(speakers, many)]
 
     def behind(self, node):
         """A list of the tellings that lead from node, one that comes, to nodes with a set of all, and of these."""
         found = []
-        for speakers in self.lots(node):
+        for speakers in self.next_speakers(node):
             for heard in self.heard_parts(node[1], speakers):
                 told = list(self.nothing())
                 for p, letter in zip(speakers, heard):
@@ -75,14 +75,14 @@ class Comparers:
 
     def telling_amiss(self, node, nodes):
         """A telling that leads from node elsewhere than to one of nodes; None if there is none."""
-        for speakers in self.lots(node):
+        for speakers in self.next_speakers(node):
             told = self.told_amiss(node, nodes, speakers, self.nothing())
             if told is not None:
                 return told
         return None
 
     def told_amiss(self, node, nodes, speakers, told):
-        """The same of the tellings by speakers whose first letters are told."""
+        """The same of those tellings by speakers that go on from told, which may lack the letters of the last ones."""
         left = [p for p in speakers if told[p] is None]
         if not left:
             return None if self.led(node, told) in nodes else told
@@ -135,7 +135,7 @@ def comparing_error(game, wire, many, value):
     ear = everybody(game, wire)
     if first_found(ear, value) is None:
         return "honest"
-    for circle in lots_of(tuple(range(game[0])), many):
+    for circle in choices_of(tuple(range(game[0])), many):
         if first_found(ear, alone(value, circle)) is not None:
             return ("lot", circle)
     return None

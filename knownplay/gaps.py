@@ -3,7 +3,7 @@
 from knownplay.bounds import MAX_OPEN, MAX_TABLE
 from knownplay.errors import TooMany, Unfit
 from knownplay.sets import is_set
-from knownplay.tellers import Ears, fits, lots_of
+from knownplay.tellers import Ears, choices_of, fits
 from knownplay.values import ascends, is_ascending, is_letter, is_row
 
 
@@ -115,7 +115,7 @@ def least_asked(game, wire, player, row):
     least = None
     # Also the lots behind the one that is found are gone through: any of them may have too many pairs.
     for many in range(len(gaps) + 1):
-        for numbers in lots_of(gaps, many):
+        for numbers in choices_of(gaps, many):
             enough = unlike_pair(ear, pairs_of(ear, row, numbers)) is None
             if enough and least is None:
                 least = numbers

@@ -3,7 +3,7 @@
 from knownplay.errors import Unfit
 from knownplay.plays import is_state, play_error, states
 from knownplay.sets import is_set
-from knownplay.tellers import Ears, fits, found_from, layers_from, lots_of, moves_to, ranks_of, way_to
+from knownplay.tellers import Ears, choices_of, fits, found_from, layers_from, moves_to, ranks_of, way_to
 from knownplay.values import ascends, is_count, is_letter, is_row, is_whole
 
 
@@ -103,7 +103,7 @@ def finders(game, wire, told):
     ear = everybody(game, wire)
     found = []
     for many in range(1, game[0] + 1):
-        for lot in lots_of(tuple(range(game[0])), many):
+        for lot in choices_of(tuple(range(game[0])), many):
             lesser = [other for other in found if all([p in lot for p in other])]
             if not lesser and first_found(ear, alone(told, lot)) is not None:
                 found.append(lot)

@@ -2,7 +2,7 @@
 
 from knownplay.plays import is_state, play_error
 from knownplay.sets import is_set
-from knownplay.tellers import Ears, Fewer, found_from, lots_of, way_to
+from knownplay.tellers import Ears, Fewer, choices_of, found_from, way_to
 from knownplay.values import ascends, is_row
 
 
@@ -86,7 +86,7 @@ def cheaper(game, wire, player):
     entries = len(wire[player])
     # The whole rule is always enough, so some lot is found.
     for many in range(entries + 1):
-        for places in lots_of(tuple(range(entries)), many):
+        for places in choices_of(tuple(range(entries)), many):
             part = Fewer(whole, places)
             if worse_play(part, triples_from(part, whole)) is None:
                 return places

@@ -199,13 +199,13 @@ class Viewer(Teller):
         return (seen_of(self.game, self.player, move[0], done), sight(self.game, self.player, behind))
 
 
-def lots_of(items, many):
+def choices_of(items, many):
     """The list of all tuples of so many of items, a tuple, in their order: by the first ones, then the second ones."""
     if many == 0:
         return [()]
     found = []
     for k, item in enumerate(items):
-        found.extend([(item, *rest) for rest in lots_of(items[k + 1:], many - 1)])
+        found.extend([(item, *rest) for rest in choices_of(items[k + 1:], many - 1)])
     return found
 
 
