@@ -65,7 +65,7 @@ class Road:
         self.state = first_state(game)
         self.play = []
         self.copies = {0: 1}
-        self.come = []
+        self.arrived = []
 
     def happen(self, event):
         """Lets event, any value, be; returns whether it is one that can be there."""
@@ -97,7 +97,7 @@ class Road:
             return False
         self.copies[number] += 1 if word == "twice" else -1
         if word == "come":
-            self.come.append(number)
+            self.arrived.append(number)
         return True
 
 
@@ -121,7 +121,7 @@ def road_end(game, wire, player, run):
     # What is sent stays as it is, so the device can take it from the end of the run.
     row = heard_by(game, wire, player, play)
     device = ((), ())
-    for number in road.come:
+    for number in road.arrived:
         device = taken(device, number, row[number])
     on_road = [number for number in sorted(list(road.copies)) for _ in range(road.copies[number])]
     return (play, tuple(on_road), device)

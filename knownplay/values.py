@@ -1,14 +1,19 @@
 """Of what kind a value is that may be any value."""
 
 
+def is_integer(value):
+    """Whether value is an integer, so no bool."""
+    return isinstance(value, int) and not isinstance(value, bool)
+
+
 def is_whole(value, least, most):
     """Whether value is an integer, so no bool, from least to most."""
-    return isinstance(value, int) and not isinstance(value, bool) and least <= value <= most
+    return is_integer(value) and least <= value <= most
 
 
 def is_count(value):
     """Whether value is an integer from 0 on."""
-    return isinstance(value, int) and not isinstance(value, bool) and value >= 0
+    return is_integer(value) and value >= 0
 
 
 def is_row(value, least, most):
@@ -40,7 +45,7 @@ def is_letter(value):
     """Whether value is a tuple of integers and of None, as letters are: only then == tells whether it is a letter."""
     if not isinstance(value, tuple):
         return False
-    return all([item is None or (isinstance(item, int) and not isinstance(item, bool)) for item in value])
+    return all([item is None or is_integer(item) for item in value])
 
 
 def is_letters(value):
