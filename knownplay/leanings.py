@@ -45,7 +45,7 @@ def few_states(game):
     try:
         some = states(game)
     except TooMany:
-        raise TooMany(MAX_HINTED)
+        raise TooMany(MAX_HINTED) from None
     if len(some) > MAX_HINTED:
         raise TooMany(MAX_HINTED)
     return some
