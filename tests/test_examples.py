@@ -41,10 +41,25 @@ class Examples(unittest.TestCase):
     def test_roads_and_gaps(self):
         self.assertEqual(run_examples(self, "roads.txt"), 21)
 
+    def test_tries_and_firmness(self):
+        self.assertEqual(run_examples(self, "tries.txt"), 28)
+
+    def test_odds_and_leanings(self):
+        self.assertEqual(run_examples(self, "odds.txt"), 33)
+
+    def test_shards(self):
+        self.assertEqual(run_examples(self, "shards.txt"), 31)
+
+    def test_houses_and_audits(self):
+        self.assertEqual(run_examples(self, "audits.txt"), 24)
+
+    def test_halls_logs_and_shells(self):
+        self.assertEqual(run_examples(self, "halls.txt"), 30)
+
     def test_readme(self):
         readme = os.path.join(os.path.dirname(os.path.dirname(os.path.abspath(__file__))), "README.md")
         found = doctest.testfile(readme, module_relative=False, encoding="ascii")
-        self.assertEqual((found.failed, found.attempted), (0, 33))
+        self.assertEqual((found.failed, found.attempted), (0, 43))
 
 
 if __name__ == "__main__":

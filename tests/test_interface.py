@@ -5,14 +5,20 @@ import inspect
 import itertools
 import unittest
 
-from knownplay import bounds, classes, comparing, errors, games, gametexts, gaps, joiners, justpapers, justparts
-from knownplay import knowngames, knownwires, leaks, lies, likeness, plays, playtexts, roads, sets, settables, terms
-from knownplay import termtexts, views, watchers, wires, wiretexts
+from knownplay import audits, bounds, classes, comparing, cuts, errors, firmness, games, gametexts, gaps, halllogs, halls
+from knownplay import histories, houses, joiners, justpapers, justparts, knowngames, knownwires, leaks, leanings, leanpapers
+from knownplay import lies, likeness, mixing, odds, plays, playtexts, roads, sets, settables, shells, terms, termtexts, tries
+from knownplay import views, watchers, wires, wiretexts
 from tests.test_classes import DIE, HIGH, KEEN, LOW
-from tests.test_leaks import BLAB, BOX, FAIR, MUTE
+from tests.test_histories import MINGLED, TWO
+from tests.test_houses import GOSSIP, PARLOUR
+from tests.test_leaks import BLAB, BOX, FAIR, MUTE, WHETHER
 from tests.test_lies import EARLY, MUTE as ONE_EAR, PARITY, SHOWN, TOSS
+from tests.test_odds import BEGUN, HINT, HUMMING, TOSSED
 from tests.test_sets import FLIP, QUIET, SPOKEN
-from tests.things import ALL_WORDS, ASKED_CARD, CARD, HIDE, YES
+from tests.test_tries import LAMP
+from tests.things import ALL_WORDS, ASKED_CARD, CARD, HIDE, ODD_VALUES, YES
+from tests.weaving import OWNERS, STORE
 
 BOUNDS = {
     "MAX_DEEP": 6, "MAX_PARTS": 60, "MAX_PLAYERS": 4, "MAX_CELLS": 6, "MAX_SIZE": 6, "MAX_DEEDS": 8,
@@ -199,6 +205,93 @@ CALLS.update({
                                         ([], {}, ((((0,),), [(0,)]),)))),
 })
 
+TRIED = {"game": LAMP, "player": 0, "known": ((0, 0, 0), (1, 0, 0)), "tries": (2, 0)}
+ROW = (("set", ((2, 1),)), None)
+CHANCED = {"game": HUMMING, "wire": HINT, "ears": (1,), "deeds": (0, 1)}
+HEARD_HUM = BEGUN + TOSSED + (((0, 1),),)
+LEANED = {"game": HUMMING, "wire": HINT, "player": 1}
+CUT = {"game": STORE, "owners": OWNERS}
+DONE = {**CUT, "some": TWO}
+PLAIN_ROW = ((("set", ((2, 1),)), ("set", ((1, 0),))), ((1, 0), (2, 0), (0, 0)))
+LOTS = ((("own", 0, 0), ("own", 1, 0)), [("meet", 0, 0, 1, 0)], {})
+CALL_LOG = (("serve", 0, 1), ("offer", 0, 1), ("take", 0, 0))
+HALL = {"game": BOX, "wire": (FAIR, FAIR), "rule": (WHETHER,)}
+
+# The same for tries, odds, shards, houses and logs.
+CALLS.update({
+    "result": (tries, [{"game": LAMP, "state": (1, 0, 0), "move": move} for move in ((0, 0), (1, 0), (3, 0))]),
+    "alone_rows": (tries, [{"game": LAMP, "state": (1, 0, 0), "tries": some} for some in ((), (2, 0, 3))]),
+    "guess_alone": (tries, [TRIED]),
+    "guess_cells": (tries, [TRIED]),
+    "tries_lot": (firmness, [TRIED]),
+    "firm_row": (firmness, [TRIED]),
+    "firm_then": (firmness, [TRIED]),
+    "firm_cells": (firmness, [TRIED]),
+    "firm_error": (firmness, with_each(TRIED, "value", ROW, list(ROW), (("set", [(2, 1)]), []), (("set", ([],)), None))),
+    "firm_paper": (firmness, with_each(TRIED, "shown", ROW, PLAIN_ROW[0])),
+    "firm_paper_error": (firmness, with_each({**TRIED, "shown": ROW}, "value", firmness.tries_lot(**TRIED), [], ((0, [0, 0, 0]), {}))),
+    "firm_tale": (firmness, with_each(TRIED, "shown", ROW, PLAIN_ROW[0])),
+    "firm_tale_error": (firmness, with_each({**TRIED, "shown": PLAIN_ROW[0]}, "value", ((0, 0, 0), PLAIN_ROW[1]), [[], []],
+                                            ((0, 0, 0), [(1, 0)]), ((0, [0], 0), ((1, 0),)))),
+    "disturbs": (firmness, [TRIED]),
+    "disturbs_error": (firmness, with_each({**TRIED, "tries": (0,)}, "value", ((0, 0, 0), (), 0, (1, 0)), [], ((0, 0, 0), [], 0, {}))),
+    "odds": (odds, with_each(CHANCED, "row", HEARD_HUM, list(HEARD_HUM), HEARD_HUM[:2] + ([(0, 1)],))),
+    "foretold": (odds, [{**CHANCED, "row": row, "cell": 0} for row in ((), BEGUN + TOSSED, [BEGUN], ([], {}))]),
+    "rows_by": (odds, [CHANCED]),
+    "hit": (odds, [{**CHANCED, "cell": 0}]),
+    "guess": (odds, [{**CHANCED, "row": row, "cell": 0} for row in (HEARD_HUM, [HEARD_HUM], ([], {}))]),
+    "leaning": (leanings, [LEANED, {**LEANED, "player": 0}]),
+    "leaning_error": (leanings, with_each(LEANED, "value", ((0, 0), (1, 0)), [(0, 0)], ((0, 0), [1, 0]))),
+    "lean_paper": (leanpapers, [LEANED, {**LEANED, "wire": ((), ())}]),
+    "lean_paper_error": (leanpapers, with_each(LEANED, "value", ((((0, 0, 1),),), (), ()), [], ([], [], []), ((([0, 0, 1],),), ({},), ()))),
+    "owners_error": (cuts, with_each({"game": STORE}, "value", OWNERS, list(OWNERS), (0, [1], 1))),
+    "uncut": (cuts, [CUT]),
+    "pieces": (cuts, [{**CUT, "deed": deed} for deed in (0, 2, 4)]),
+    "history_error": (histories, with_each(DONE, "value", MINGLED, list(MINGLED), (([0], 0),), ((0, 0), {}))),
+    "done_by_pieces": (histories, [{**CUT, "state": (0, 0, 0), "some": TWO, "history": MINGLED}]),
+    "done_whole": (histories, [{"game": STORE, "state": (0, 0, 0), "some": TWO, "order": (1, 0)}]),
+    "follows": (histories, [{**DONE, "history": MINGLED}, {**CUT, "some": ((2, 0),), "history": ((0, 0),)}]),
+    "ring_of": (histories, [{**DONE, "history": MINGLED}]),
+    "order_of": (histories, [{**DONE, "history": MINGLED}]),
+    "ring_error": (histories, with_each({**DONE, "history": MINGLED}, "value", (1, 0), [1, 0], ([1], 0), (0, {}))),
+    "order_error": (histories, with_each({**DONE, "history": MINGLED}, "value", (1, 0), [1, 0], ([1], 0), (0, {}))),
+    "mixed_ring": (mixing, [{**CUT, "many": (0, 0)}, {**CUT, "many": (0, 2)}]),
+    "mixed_error": (mixing, with_each({**CUT, "many": (0, 0)}, "value", ((0, 1, 0), (1, 0, 1)), [], ((0, [1], 0), {}))),
+    "bad_history": (mixing, [{**CUT, "many": (0, 0)}, {**CUT, "many": (0, 1, 3)}]),
+    "sorting": (mixing, [{**CUT, "many": (0, 1, 3)}, {**CUT, "many": (0, 0)}]),
+    "sorting_error": (mixing, with_each({**CUT, "many": (0, 0)}, "value", LOTS[:1], list(LOTS), LOTS)),
+    "ordered": (mixing, [CUT, {"game": STORE, "owners": (0, 0, 0)}]),
+    "house_error": (houses, with_each({}, "value", PARLOUR, list(PARLOUR), (BOX, [], {}, [], {}, []))),
+    "mended": (houses, [{"house": PARLOUR}, {"house": GOSSIP}]),
+    "audit": (audits, [{"house": PARLOUR}, {"house": GOSSIP}]),
+    "audit_error": (audits, [{"house": PARLOUR, "value": value} for value in (audits.audit(PARLOUR), [], (("kept", [[], {}]),) * 7,
+                                                                             (("broken", (0, "leak", [])),) * 7, (([], {}),) * 7)]),
+    "rule_text": (halllogs, with_each({}, "rule", (), (WHETHER,))),
+    "read_rule": (halllogs, with_each({"game": BOX}, "value", "if yes tell c1", "if yes tell c2", "none", ["if yes tell c1"])),
+    "log_text": (halllogs, [{"log": CALL_LOG}]),
+    "read_log": (halllogs, with_each({}, "value", "undo\nmend 1", "mend", ["undo"], {})),
+    "hall_behind": (halllogs, with_each(HALL, "value", CALL_LOG, list(CALL_LOG), CALL_LOG + (["undo"],), (("serve", [0], {}),))),
+    "hall_log": (halllogs, [{"hall": halllogs.hall_behind(**HALL, value=CALL_LOG)}]),
+})
+
+# The methods of the two classes, with arguments by names; each is called of an object behind some edits.
+HALL_METHODS = {
+    "offer": {"player": 0, "deed": 1}, "take": {"player": 0, "drawn": 0}, "serve": {"deed": 0, "drawn": 0},
+    "come": {"player": 0, "number": 1}, "twice": {"player": 1, "number": 0}, "lose": {"player": 1, "number": 0},
+    "ask": {"player": 0, "number": 1}, "mend": {"player": 1}, "join": {"player": 1}, "undo": {}, "redo": {}, "twin": {},
+    "sent": {"player": 0}, "road": {"player": 0}, "device": {"player": 1}, "tick": {"player": 1}, "lacks": {"player": 1},
+    "on_the_way": {"player": 0}, "open_tries": {"player": 0}, "shown": {"player": 1}, "ahead": {"player": 1},
+    "firm": {"player": 0}, "guests": {"player": 0}, "guest_shown": {"player": 0, "place": 0}, "elder_shown": {"player": 0},
+    "watched_shown": {"player": 0, "lag": 1}, "accused": {},
+}
+HALL_ATTRIBUTES = ("game", "wire", "rule", "play", "state", "version", "undone", "edits")
+
+
+def some_hall():
+    """A hall of which each of these calls can be made."""
+    log = (("serve", 0, 1), ("offer", 0, 1), ("come", 1, 1), ("come", 0, 0), ("join", 0), ("offer", 0, 1), ("undo",))
+    return halllogs.hall_behind(**HALL, value=log)
+
 
 def outcome(function, *args, **named):
     """What a call returns, or the error that it raises, as Python shows it."""
@@ -289,13 +382,14 @@ class Calls(unittest.TestCase):
     def test_what_is_handed_in_stays_as_it_was(self):
         for name, (module, calls) in CALLS.items():
             for call in calls:
-                before = repr(copy.deepcopy(call))
+                before = copy.deepcopy(call)
                 outcome(getattr(module, name), **call)
-                self.assertEqual(repr(call), before, name)
+                # Halls have no way to show themselves, but can be compared.
+                self.assertEqual(call if "hall" in call else repr(call), before if "hall" in call else repr(before), name)
 
     def test_results_are_of_pythons_own_kinds(self):
         for name, (module, calls) in CALLS.items():
-            for call in calls:
+            for call in calls if name != "hall_behind" else ():
                 try:
                     self.assertTrue(is_plain(getattr(module, name)(**call)), name)
                 except errors.KnowError as error:
@@ -306,6 +400,58 @@ class Calls(unittest.TestCase):
             for call in calls:
                 first, second = (outcome(getattr(module, name), **copy.deepcopy(call)) for _ in range(2))
                 self.assertEqual(first, second, name)
+
+
+class Methods(unittest.TestCase):
+    def test_each_class_has_its_methods_itself(self):
+        for kind, methods in ((halls.Hall, HALL_METHODS), (shells.Shell, {"say": {"line": "state"}})):
+            self.assertEqual(kind.__bases__, (object,))
+            for name, call in methods.items():
+                self.assertIn(name, vars(kind))
+                self.assertEqual(list(inspect.signature(vars(kind)[name]).parameters), ["self", *call], name)
+            self.assertIn("__eq__", vars(halls.Hall))
+        self.assertEqual(list(inspect.signature(halls.Hall).parameters), ["game", "wire", "rule"])
+        self.assertEqual(list(inspect.signature(shells.Shell).parameters), [])
+
+    def test_attributes_are_set_when_a_hall_is_made(self):
+        hall = halls.Hall(**HALL)
+        for name in HALL_ATTRIBUTES:
+            self.assertIn(name, vars(hall))
+            self.assertTrue(is_plain(getattr(hall, name)), name)
+
+    def test_arguments_by_place_and_by_name_in_any_order(self):
+        for name, call in HALL_METHODS.items():
+            wanted = some_hall()
+            result = getattr(wanted, name)(*call.values())
+            for names in itertools.permutations(call):
+                hall = some_hall()
+                told = getattr(hall, name)(**{field: call[field] for field in names})
+                self.assertEqual(told == result and hall == wanted, True, name)
+            self.assertTrue(name == "twin" or is_plain(result), name)
+        for names in itertools.permutations(HALL):
+            self.assertEqual(halls.Hall(**{field: HALL[field] for field in names}), halls.Hall(*HALL.values()))
+        self.assertEqual(shells.Shell().say(line="state"), shells.Shell().say("state"))
+
+    def test_what_is_handed_in_stays_as_it_was(self):
+        for name, call in HALL_METHODS.items():
+            for value in (*ODD_VALUES, [[0], {"a": [1]}], ([0], {0: []})):
+                before = repr(value)
+                outcome(getattr(some_hall(), name), *[value] * len(call))
+                self.assertEqual(repr(value), before)
+
+    def test_what_was_returned_does_not_change(self):
+        hall = some_hall()
+        told = {name: getattr(hall, name)(**call) for name, call in list(HALL_METHODS.items())[12:]}
+        before = repr(told)
+        for name in ("offer", "serve", "twice", "join", "undo"):
+            getattr(hall, name)(**HALL_METHODS[name])
+        self.assertEqual(repr(told), before)
+
+    def test_in_one_state_equal_calls_are_answered_alike(self):
+        for name, call in HALL_METHODS.items():
+            first, second = some_hall(), some_hall()
+            self.assertEqual(outcome(getattr(first, name), **call) == outcome(getattr(second, name), **call) or name == "twin", True)
+            self.assertTrue(first == second)
 
 
 if __name__ == "__main__":
