@@ -104,11 +104,9 @@ def cut_short(way, runs):
     come_to = sorted(list(places))
     twice = [(one, other) for one, other in zip(come_to, come_to[1:]) if one[0] == other[0]]
     one, other = [pair for pair in twice if places[pair[0]] != places[pair[1]]][0]
-    between = [(one[0], p) for p in range(one[1] + 1, other[1])]
-    at, to = way.index(one), way.index(other)
-    if at < to:
-        return way[at:to + 1] + between[::-1]
-    return way[to:at + 1] + between
+    at = way.index(other)
+    turned = way[at:] + way[:at]
+    return turned[:turned.index(one) + 1] + [(one[0], p) for p in range(one[1] + 1, other[1])]
 
 
 def mixed_ring(game, owners, many):
@@ -157,12 +155,11 @@ def bad_history(game, owners, many):
         for p in range(len(own)):
             numbers[(k, p)] = len(numbers)
     pairs = [(numbers[(k, p - 1)], numbers[(k, p)]) for k, p in numbers if p > 0]
-    # Either way round no wishes lead around: somewhere a piece would have to stand behind a later one of its own.
-    forward = any([a < b for _, a, b in ring])
+    # Each a stands ahead of the b that it meets. These wishes lead nowhere around, as somewhere a is ahead of its own b:
+    # what meets has one shard, and a deed's pieces stand by ascending shards, so a ring goes up and down.
     for at, (one, _, piece) in enumerate(ring):
         other, behind, _ = ring[at + 1 - len(ring)]
-        ahead, after = numbers[(one, piece)], numbers[(other, behind)]
-        pairs.append((after, ahead) if forward else (ahead, after))
+        pairs.append((numbers[(other, behind)], numbers[(one, piece)]))
     places = list(numbers)
     return tuple([places[number] for number in ordered_so(len(places), pairs)])
 

@@ -104,6 +104,9 @@ class Rows(unittest.TestCase):
             self.assertEqual(firm_error(LAMP, 0, DARK, (2, 0), (item, None)), 0, item)
         self.assertEqual(firm_error(LAMP, 0, DARK, (2, 0), (None, ("set", ((True, 0),)))), 1)
         self.assertIsNone(firm_error(LAMP, 0, DARK, (2, 0), (("set", ((2, 1),)), None)))
+        # Of the cell 0 and of the value 1, as bools.
+        for pair, wanted in (((0, 1), None), ((False, 1), 0), ((0, True), 0), ([0, 1], 0), ((0, 1, 0), 0)):
+            self.assertEqual(firm_error(LAMP, 0, DARK, (3,), (("set", (pair,)),)), wanted)
 
     def test_the_least_try_is_told(self):
         self.assertEqual(firm_error(LAMP, 0, DARK, (0, 0, 0), (None, REFUSED, REFUSED)), 1)
@@ -118,7 +121,8 @@ class Papers(unittest.TestCase):
         bad = lambda value, row=shown, known=DARK: firm_paper_error(LAMP, 0, known, (2, 0), row, value)
         self.assertIsNone(bad(lot))
         for value in (None, list(lot), lot[::-1], lot + lot[-1:], lot[:1] + lot, (lot[0][:1],), ((3, (0, 0, 0)),),
-                      ((True, (0, 0, 0)),), ((0, (0, 0, 2)),), ((0, (0, 0)),), ((0, [0, 0, 0]),), ((-1, (0, 0, 0)),), (0,)):
+                      ((True, (0, 0, 0)),), ((0, (0, 0, 2)),), ((0, (0, 0)),), ((0, [0, 0, 0]),), ((-1, (0, 0, 0)),), (0,),
+                      ((0, (0, 0, 0), 0),)):
             self.assertEqual(bad(value), "form", value)
         both = DARK + ((1, 0, 0),)
         self.assertEqual(bad((), known=both), ("begun", (0, 0, 0)))
@@ -160,7 +164,7 @@ class Tales(unittest.TestCase):
     def test_form(self):
         dark = DARK[0]
         for value in (None, (), (dark,), (dark, ()), (dark, [(1, 0)]), ([0, 0, 0], ((1, 0),)), (dark, ((1, 0), (2,))),
-                      (dark, ((1, True),)), (dark, ((1, None),)), (dark, ((1, 0),), ()), (dark, (1, 0)), (dark, ([1, 0],))):
+                      (dark, ((1, True),)), (dark, ((True, 0),)), (dark, ((1, None),)), (dark, ((1, 0, 0),)), (dark, ((1, 0),), ()), (dark, (1, 0)), (dark, ([1, 0],))):
             self.assertEqual(self.bad(value), "form", value)
 
     def test_states_that_are_not_known(self):
@@ -255,7 +259,7 @@ class Disturbing(unittest.TestCase):
         self.assertIsNone(bad(dark, (), 0, (1, 0)))
         for value in ((), (dark, (), 0), (dark, (), 0, (1, 0), 0), ([0, 0, 0], (), 0, (1, 0)), (dark, [], 0, (1, 0)),
                       (dark, ((1,),), 0, (1, 0)), (dark, (), False, (1, 0)), (dark, (), None, (1, 0)), (dark, (), 0, [1, 0]),
-                      (dark, (), 0, (1, False)), (dark, (), 0, (1,)), (dark, (), 0, ())):
+                      (dark, (), 0, (1, False)), (dark, (), 0, (True, 0)), (dark, (), 0, (1, 0, 0)), (dark, (), 0, (1,)), (dark, (), 0, ())):
             self.assertEqual(bad(*value), "form", value)
         self.assertEqual(disturbs_error(LAMP, 0, DARK, (0,), [dark, (), 0, (1, 0)]), "form")
         self.assertEqual(bad((1, 0, 0), ((9, 9),), 5, (9, 9)), "state")

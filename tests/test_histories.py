@@ -78,7 +78,7 @@ class Owners(unittest.TestCase):
 class Histories(unittest.TestCase):
     def test_faults_in_their_order(self):
         bad = lambda value, some=TWO: history_error(STORE, OWNERS, some, value)
-        for value in (None, [], list(MINGLED), MINGLED[:3] + ((0,),), MINGLED[:3] + ((0, True),), MINGLED[:3] + ([0, 1],),
+        for value in (None, [], list(MINGLED), MINGLED[:3] + ((0,),), MINGLED[:3] + ((0, True),), MINGLED[:3] + ((False, 1),), MINGLED[:3] + ([0, 1],),
                       MINGLED[:3] + ((0, 1, 0),), MINGLED[:3] + (None,), ((9, 9), (0, "1"))):
             self.assertEqual(bad(value), "form", value)
         for k, value in ((0, ((0, 1),)), (0, ((1, 1), (1, 0))), (1, ((0, 0), (0, 0))), (1, ((0, 0), (2, 0))), (1, ((0, 0), (-1, 0))),

@@ -5,7 +5,7 @@ import unittest
 
 from knownplay.errors import Unfit
 from knownplay.histories import history_error, ring_error, ring_of
-from knownplay.mixing import bad_history, mixed_error, mixed_ring, ordered, sorting, sorting_error
+from knownplay.mixing import bad_history, mixed_error, mixed_ring, ordered, shortened, sorting, sorting_error
 from tests.knowing import MIXED
 from tests.test_leanings import chosen
 from tests.things import ODD_VALUES, YES, Things
@@ -116,16 +116,34 @@ class MixedRings(unittest.TestCase):
         self.assertEqual(len(lots), 9)
 
     def test_a_way_that_comes_to_one_occurrence_twice(self):
-        # Links lead from the long deed's piece 0 to its piece 2 and from its piece 3 to its piece 5, and between those.
-        cells = ((2, 0),) * 6
-        game = (2, cells, (deed_at(0, 1, 2, 3, 4, 5), deed_at(0, 2), deed_at(3, 5), deed_at(2, 3)), ((YES,) * 6,) * 2)
-        for many in ((0, 1), (0, 2), (0, 1, 2), (1, 2, 3), (3, 2, 1, 0), (0, 3), (1, 3, 2, 0)):
-            ring = mixed_ring(game, tuple(range(6)), many)
-            if many == (1, 2, 3):
-                self.assertIsNone(ring)
-                continue
-            self.assertIsNone(mixed_error(game, tuple(range(6)), many, ring), many)
-            self.assertEqual(len({k for k, _, _ in ring}), len(ring))
+        # The deed 1 has five pieces. Both others ask the cell 0 at its first one, and set what is not the same at its last
+        # one: so they meet it alone, and the shortest way between its ends, by the deed 2, makes no ring as it stands.
+        cells, sights = ((2, 0),) * 6, ((YES,) * 6,) * 2
+        game = (2, cells, (reading((0,), (4,)), deed_at(0, 1, 2, 3, 4, 5), reading((0,), (5,))), sights)
+        owners = (0, 1, 2, 3, 4, 4)
+        for many in itertools.permutations((0, 1, 2)):
+            ring = mixed_ring(game, owners, many)
+            self.assertIsNone(mixed_error(game, owners, many, ring), many)
+            self.assertEqual(len(ring), 2)
+            history = bad_history(game, owners, many)
+            self.assertIsNotNone(ring_of(game, owners, tuple((deed, 0) for deed in many), history))
+        self.assertEqual(self.rings_of(game, owners, (0, 1, 2)), {(0, 1), (1, 2)})
+
+    def rings_of(self, game, owners, many):
+        """The occurrences of all mixed rings."""
+        return {tuple(sorted(k for k, _, _ in ring)) for ring in mixed_rings([pieces_of(owners, game[2][deed]) for deed in many])}
+
+    def test_ways_are_cut_short(self):
+        # A way by hand, as pieces (occurrence, piece): it comes to the occurrence 0 three times.
+        way = [(0, 0), (1, 0), (1, 1), (0, 4), (2, 0), (2, 1), (0, 2), (3, 0), (3, 1)]
+        for turn in range(len(way)):
+            for row in (way[turn:] + way[:turn], (way[turn:] + way[:turn])[::-1]):
+                short = shortened(row)
+                places = [piece[0] for piece in short]
+                self.assertEqual(len(set(short)), len(short))
+                self.assertEqual(sum(one != other for one, other in zip(places, places[1:] + places[:1])), 2)
+                for (k, p), (m, q) in zip(short, short[1:] + short[:1]):
+                    self.assertTrue(k != m or abs(p - q) == 1)
 
     def test_copies(self):
         self.assertIsNotNone(mixed_ring(STORE, OWNERS, (0, 0)))
@@ -163,7 +181,8 @@ class Judges(unittest.TestCase):
         for value in ODD_VALUES + MIXED + ([(0, 1, 0), (1, 0, 1)], ((0, 1, 0),), ((0, 1, 0), (0, 0, 1)), ((0, 1, 0), (1, 0, 2)),
                                            ((0, 1, 0), (1, 0)), ((0, 1, 0), (3, 0, 1)), ((0, 1, 0), (1, False, 1)), ((0, 1, 0), [1, 0, 1]),
                                            ((0, 1, 0), (True, 0, 1)), ((0, 1, 0), (-1, 0, 1)), ((0, 1, 0), (1, 0, -1)),
-                                           ((0, 1, 0), (1, 0, 1), None), ((0, 1, 0), (1, 0, 1), (2, 0, 2))):
+                                           ((0, 1, 0), (1, 0, 1), None), ((0, 1, 0), (1, 0, 1), (2, 0, 2)),
+                                           ((0, 1, 0), (1, 0, 1, 0)), ((0, 1, 0), (1, 0, 1, 0, 0))):
             self.assertEqual(bad(value), "form", value)
         self.assertEqual(bad(((0, 1, 0), (1, 0, 1), (2, 0, 1))), ("meets", 1))
         self.assertEqual(bad(((0, 1, 0), (2, 0, 1), (1, 0, 1))), ("meets", 1))
@@ -194,7 +213,7 @@ class Judges(unittest.TestCase):
         for value in (((),), (list(links[:1]),), (links[::-1],), (links[:1] * 2,), (("own", 0, 1),), ((("own", 0, 1),),),
                       ((("own", 0, False),),), ((("meet", 1, 0, 0, 0),),), ((("meet", 0, 0, 1, 1),),), ((("own", 2, 0),),),
                       ((["own", 0, 0],),), ((("own", 0),),), ((("meet", 0, 0, 1),),), ((("meet", 0, 0, True, 0),),), ((None,),),
-                      (links, None), ((("owns", 0, 0),),), (((0, 0, 0),),), ((("own", 0, 0), ("own", 0, 0)),)):
+                      (links, None), ((("owns", 0, 0),),), (((0, 0, 0),),), ((("own", 0, 0), ("own", 0, 0)),), ((("own", True, 0),),), ((([], 0, 0),),), ((("meet", 0, 0, 1, 0, 0),),)):
             self.assertEqual(bad(*value), "form", value)
         for value in ODD_VALUES + MIXED:
             self.assertEqual(sorting_error(STORE, OWNERS, (0, 0), value), ("link", links[0]) if value == () else "form", value)
