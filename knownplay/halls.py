@@ -11,7 +11,7 @@ from knownplay.plays import step
 from knownplay.roads import gap_row, lacking, taken
 from knownplay.sets import gone_on, known, sure
 from knownplay.values import is_count, is_whole
-from knownplay.watchers import is_lag, watched
+from knownplay.watchers import watched
 from knownplay.wires import heard_by, wire_error
 
 # A seat is a tuple of its road, its device, its tries and its guests; these are their places, and a new one.
@@ -136,7 +136,6 @@ class Hall:
     def come(self, player, number):
         """Lets a copy of this number come to the player's device."""
         self.check_copy(player, number)
-        self.check_room()
         road, device, tries, guests = self.seats[player]
         device = taken(device, number, heard_by(self.game, self.wire, player, self.play)[number])
         at = road.index(number)
@@ -173,7 +172,6 @@ class Hall:
         numbers = lacking(device)
         if not numbers:
             raise Refused("whole")
-        self.check_room()
         row = heard_by(self.game, self.wire, player, self.play)
         for number in numbers:
             device = taken(device, number, row[number])
@@ -299,8 +297,6 @@ class Hall:
     def watched_shown(self, player, lag):
         """What is sure to a watcher with this lag, any value, who hears what is sent to the player."""
         self.seat(player)
-        if not is_lag(lag):
-            raise Unfit()
         return sure(self.game, watched(self.game, self.wire, player, lag, self.play))
 
     def accused(self):

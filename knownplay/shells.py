@@ -178,8 +178,8 @@ class Shell:
         return "kept"
 
     def begin(self):
-        """Begins a new hall of what is kept."""
-        if self.kept_game is None or self.kept_wire is None:
+        """Begins a new hall of what is kept: a wire is kept beside a game alone."""
+        if self.kept_wire is None:
             raise Unfit()
         self.hall = Hall(self.kept_game, self.kept_wire, self.kept_rule)
         return "begun"

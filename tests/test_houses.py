@@ -122,22 +122,24 @@ class Mended(unittest.TestCase):
         self.assertEqual(lags, {(True, False), (False, False), (False, True)})
         self.assertGreater(min(wires, owners, spares, same), 5)
 
-    def test_a_lag_that_would_be_too_great(self):
-        # The player hears nothing, and the server's clock tells only in the end whether it was a 0 or a 1: reach is great.
-        size, ticks = 6, ("cell", 1)
-        full = ("both", ("same", ticks, ("is", 5)), ("both", ("same", ("cell", 2), ("is", 5)), ("same", ("cell", 3), ("is", 5))))
-        wrap = lambda c: ("choose", ("same", ("cell", c), ("is", 5)), ("is", 0), ("sum", ("cell", c), ("is", 1)))
-        go = (None, 1, ("both", ("not", ("same", ("cell", 0), ("is", 0))), ("not", full)),
-              ((1, wrap(1)), (2, ("choose", ("same", ("cell", 1), ("is", 5)), wrap(2), ("cell", 2))),
-               (3, ("choose", ("both", ("same", ("cell", 1), ("is", 5)), ("same", ("cell", 2), ("is", 5))), wrap(3), ("cell", 3)))), ())
-        toss = (None, 2, ("same", ("cell", 0), ("is", 0)), ((0, ("sum", ("draw",), ("is", 1))),), ())
-        game = (2, ((3, 0), (size, 0), (size, 0), (size, 0)), (toss, go), ((("not", YES),) * 4,) * 2)
-        wire = (((full, ("is", 1)),), ())
-        house = (game, wire, (), 7, (0,) * 4, wire)
-        reaches = [reach(game, greatest(game, wire, player), player) for player in range(2)]
-        self.assertEqual(house_error(house), None)
-        self.assertGreater(max(reaches), 200)
-        self.assertEqual(mended(house)[3], 7)
+    def test_the_greatest_lag_and_one_more(self):
+        for ticks, reaches, lag in ((199, 200, 200), (200, 201, 7), (215, 216, 7)):
+            game, wire = self.clock(ticks)
+            house = (game, wire, (), 7, (0,) * 4, wire)
+            self.assertEqual((house_error(house), reach(game, wire, 0), reach(game, wire, 1)), (None, reaches, reaches))
+            self.assertEqual(mended(house)[3], lag)
+
+    def clock(self, ticks):
+        """A game in which a coin is tossed, and then so many ticks are counted; the players hear nothing, or the end alone."""
+        figures = (ticks % 6, ticks // 6 % 6, ticks // 36)
+        ended = ("both", ("same", ("cell", 1), ("is", figures[0])), ("both", ("same", ("cell", 2), ("is", figures[1])),
+                                                                     ("same", ("cell", 3), ("is", figures[2]))))
+        full = lambda c: ("same", ("cell", c), ("is", 5))
+        more = lambda c: ("choose", full(c), ("is", 0), ("sum", ("cell", c), ("is", 1)))
+        tossed = ("same", ("cell", 0), ("is", 0))
+        count = ((1, more(1)), (2, ("choose", full(1), more(2), ("cell", 2))), (3, ("choose", ("both", full(1), full(2)), more(3), ("cell", 3))))
+        deeds = ((None, 2, tossed, ((0, ("sum", ("draw",), ("is", 1))),), ()), (None, 1, ("both", ("not", tossed), ("not", ended)), count, ()))
+        return (2, ((3, 0), (6, 0), (6, 0), (6, 0)), deeds, ((("not", YES),) * 4,) * 2), (((ended, ("is", 1)),), ())
 
     def test_too_many(self):
         # More than 3000 pairs by views are too many for the first player, for the second one too.

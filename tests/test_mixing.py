@@ -134,9 +134,10 @@ class MixedRings(unittest.TestCase):
         return {tuple(sorted(k for k, _, _ in ring)) for ring in mixed_rings([pieces_of(owners, game[2][deed]) for deed in many])}
 
     def test_ways_are_cut_short(self):
-        # A way by hand, as pieces (occurrence, piece): it comes to the occurrence 0 three times.
-        way = [(0, 0), (1, 0), (1, 1), (0, 4), (2, 0), (2, 1), (0, 2), (3, 0), (3, 1)]
-        for turn in range(len(way)):
+        # Ways by hand, as pieces (occurrence, piece): one comes to the occurrence 0 three times, others twice.
+        ways = ([(0, 0), (1, 0), (1, 1), (0, 4), (2, 0), (2, 1), (0, 2), (3, 0), (3, 1)],
+                [(0, 0), (1, 0), (1, 1), (0, 1), (2, 0), (2, 1)], [(0, 0), (0, 1), (1, 0), (1, 1), (0, 3), (0, 2), (2, 0), (2, 1)])
+        for way, turn in [(way, turn) for way in ways for turn in range(len(way))]:
             for row in (way[turn:] + way[:turn], (way[turn:] + way[:turn])[::-1]):
                 short = shortened(row)
                 places = [piece[0] for piece in short]

@@ -9,7 +9,7 @@ from knownplay.knowngames import known_game, known_names
 from knownplay.knownwires import bare_wire, changes_wire, plain_wire, silent_wire
 from knownplay.leaks import lack, leak
 from knownplay.playtexts import play_text
-from knownplay.shells import Shell
+from knownplay.shells import Shell, lots_text
 from knownplay.wiretexts import wire_text
 from tests.going import Going, Wrong, some_edit
 from tests.knowing import MIXED, counting
@@ -132,6 +132,10 @@ class Answers(unittest.TestCase):
         for line in (f"game {text} | sights | see yes | see yes | sights | see yes | see yes", "wire to | to", "begin", "offer 0 0", "offer 0 1", "come 0 0"):
             answer = shell.say(line)
         self.assertEqual((answer, shell.say("firm 0"), shell.say("sent 0")), ("version 3", "set; set 0:1 1:0", "-"))
+
+    def test_lots_of_players(self):
+        # No device of a hall is ever found to lie, so this is asked of the text itself.
+        self.assertEqual([lots_text(lots) for lots in ((), ((0,),), ((0, 2), (1,)))], ["nobody", "0", "0,2; 1"])
 
     def test_plays_that_leak_and_lack(self):
         shell = kept_shell((BLAB, MUTE), log=())
