@@ -134,7 +134,7 @@ def audit_error(house, value):
 
 def pair_error(house, number, word, thing):
     """What is wrong with the pair of word and thing, any values, for the promise of this number; otherwise None."""
-    if not isinstance(word, str) or word not in ("kept", "broken", "open"):
+    if word not in ("kept", "broken", "open"):
         return "word"
     if word == "open":
         return "open"
@@ -177,7 +177,7 @@ def is_tale(house, number, value):
         return False
     if many == 2:
         return True
-    return isinstance(value[1], str) and value[1] in (JUST_WORDS if number == JUST else JOINER_WORDS)
+    return value[1] in (JUST_WORDS if number == JUST else JOINER_WORDS)
 
 
 def tale_error(house, number, thing):

@@ -35,10 +35,10 @@ def copies(game):
 def tales_for(house, number, player):
     """The tales of a promise for a player that the defs tell, without the player, first ones first."""
     game, wire, rule, lag, _, spare = house
-    calls = {0: (("leak", leak(game, wire, player)), ("lack", lack(game, wire, player))), 1: ((leaning(game, wire, player),),),
-             2: (("gap", join_gap(game, wire, player, rule)), ("spill", join_spill(game, wire, player, rule))),
-             3: ((helps(game, wire, player, lag),),), 6: ((as_good(game, spare, wire, player),),)}
-    return [tale for tale in calls[number] if tale[-1] is not None]
+    calls = {0: lambda: (("leak", leak(game, wire, player)), ("lack", lack(game, wire, player))), 1: lambda: ((leaning(game, wire, player),),),
+             2: lambda: (("gap", join_gap(game, wire, player, rule)), ("spill", join_spill(game, wire, player, rule))),
+             3: lambda: ((helps(game, wire, player, lag),),), 6: lambda: ((as_good(game, spare, wire, player),),)}
+    return [tale for tale in calls[number]() if tale[-1] is not None]
 
 
 def papers_of(house, number):

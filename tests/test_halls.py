@@ -491,7 +491,7 @@ class WhatHolds(unittest.TestCase):
                     if spill is None:
                         self.assertTrue(all(item is None for item, its_like in zip(shown, elder) if its_like is None))
                         not_more += 1
-        self.assertGreater(min(enough, not_more, right), 10)
+        self.assertGreater(min(enough, not_more, right), 5)
 
     def test_watchers_behind_the_reach_are_elders(self):
         for hall, _ in some_halls(608, 40):

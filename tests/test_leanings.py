@@ -9,7 +9,7 @@ from knownplay.errors import TooMany
 from knownplay.justpapers import is_just
 from knownplay.knowngames import known_game, known_names
 from knownplay.knownwires import bare_wire, changes_wire, plain_wire, silent_wire
-from knownplay.leanings import leaning, leaning_error
+from knownplay.leanings import leaning, leaning_error, leans
 from knownplay.leanpapers import lean_paper, lean_paper_error
 from knownplay.odds import hit
 from knownplay.plays import moves, states, stepped
@@ -124,6 +124,31 @@ class Leaning(unittest.TestCase):
         self.assertIsNone(lean_paper(HUMMING, HINT, 1))
         self.assertGreater(Fraction(*hit(HUMMING, HINT, (1,), (0, 1), 0)), Fraction(*hit(HUMMING, QUIET, (1,), (0, 1), 0)))
 
+    def test_wires_that_leak_and_do_not_lean(self):
+        # A coin that nobody sees is 1 with odds of 2 to 3; then it may be turned to 0. Each letter is told of moves of unlike
+        # numbers and weights, and leaves the odds as they are by the view: 2 to 1.
+        first, second = ("same", ("cell", 1), ("is", 0)), ("same", ("cell", 1), ("is", 1))
+        low = lambda least: ("choose", ("below", ("draw",), ("is", least)), ("is", 0), ("is", 1))
+        throw = (None, 3, first, ((0, low(1)), (1, ("is", 1))), ())
+        turn = (None, 4, second, ((0, ("choose", ("same", ("cell", 0), ("is", 0)), ("is", 0), low(2))), (1, ("is", 2))), ())
+        idle = (None, 2, ("same", ("cell", 1), ("is", 2)), (), ())
+        game = (2, ((2, 0), (3, 0)), (throw, turn, idle), ((NO, YES), (YES, YES)))
+        told = ("both", ("same", ("deed",), ("is", 1)), ("either", ("same", ("was", 0), ("is", 0)), ("same", ("draw",), ("is", 3))))
+        for more in ((), ((("same", ("deed",), ("is", 2)), ("draw",)),)):
+            wire = (((told, ("is", 1)),) + more, ())
+            self.assertEqual(Chances(game, wire).both_sides(0, ((0, 0), (1, 0))), ({(0, 2): Fraction(2, 3), (1, 2): Fraction(1, 3)},
+                                                                                  {(0, 2): Fraction(1, 3), (1, 2): Fraction(1, 6)}))
+            self.assertFalse(is_just(game, wire, 0))
+            self.assertIsNone(leaning(game, wire, 0))
+            self.assertIsNone(lean_paper_error(game, wire, 0, lean_paper(game, wire, 0)))
+            for play in Chances(game, wire).plays(4):
+                self.assertEqual(leaning_error(game, wire, 0, play), "even")
+
+    def test_unlike_states_by_both_sides(self):
+        self.assertTrue(leans({0: 1, 1: 1}, {0: 1, 2: 1}))
+        self.assertTrue(leans({0: 1, 1: 1}, {0: 1}))
+        self.assertFalse(leans({0: 2, 1: 4}, {1: 6, 0: 3}))
+
     def test_just_wires_never_lean(self):
         for name in known_names():
             game = known_game(name)
@@ -196,7 +221,7 @@ class Papers(unittest.TestCase):
             self.assertEqual(bad(value), wanted.get(str(value)[:99], "form"))
 
     def test_planes_that_are_none(self):
-        for own in ((), None, [(1, 2, 1)], ((1, 2),), ((1, 2, 0),), ((1, 2, True),), ((True, 2, 1),), ((1, 3, 1),), ((-1, 2, 1),),
+        for own in ((), None, [(1, 2, 1)], ((1, 2),), ((1, 2, 0),), ((1, 2, True),), ((True, 2, 1),), ((1, 3, 1),), ((3, 1, 1),), ((-1, 2, 1),), ((2, -1, 1),),
                     ((1, 2, 1), (1, 2, 2)), ((2, 1, 1), (1, 2, 1)), ((1, 2, 1), (1, 2, 1)), ((1, 2, None),), ([1, 2, 1],), (1, 2, 1),
                     ((1, 2, 1, 1),), FLAT, tuple((one, other, -7 * whole) for one, other, whole in FLAT)):
             self.assertEqual(lean_paper_error(HUMMING, QUIET, 1, PAPER[:1] + ((FLAT, own),) + PAPER[2:]), ("plane", 1, 1), own)
@@ -302,7 +327,7 @@ class Papers(unittest.TestCase):
             if piece != FLAT and piece != ((1, 2, 1),):
                 self.assertEqual(error, ("plane", number, 0), piece)
             words.add(error and error[0])
-        self.assertEqual(words, {"plane", None, "even"})
+        self.assertLessEqual(words, {"plane", None, "even"})
 
 
 class Bounds(unittest.TestCase):

@@ -208,13 +208,13 @@ class IdleCells(unittest.TestCase):
                 for call in (leak, lack):
                     self.assertEqual(call(more, wire, player), call(game, wire, player))
                 self.assertEqual(reach(more, wire, player), reach(game, wire, player))
-                for call in (join_gap, join_spill):
-                    rule = ((YES, things.tiny_term(len(game[1]), ())),)
-                    self.assertEqual(call(more, wire, player, rule), call(game, wire, player, rule))
-                try:
-                    self.assertEqual(leaning(more, wire, player), leaning(game, wire, player))
-                except TooMany as error:
-                    self.assertEqual(error.limit, 100)
+                rule = ((YES, things.tiny_term(len(game[1]), ())),)
+                for call, limit in ((lambda own: join_gap(own, wire, player, rule), 3000), (lambda own: join_spill(own, wire, player, rule), 3000),
+                                    (lambda own: leaning(own, wire, player), 100)):
+                    try:
+                        self.assertEqual(call(more), call(game))
+                    except TooMany as error:
+                        self.assertEqual(error.limit, limit)
                 tries = tries_of(things, game, player)
                 if tries:
                     some = states(game)[:2]
