@@ -155,8 +155,8 @@ def bad_history(game, owners, many):
         for p in range(len(own)):
             numbers[(k, p)] = len(numbers)
     pairs = [(numbers[(k, p - 1)], numbers[(k, p)]) for k, p in numbers if p > 0]
-    # Each a stands ahead of the b that it meets. These wishes lead nowhere around, as somewhere a is ahead of its b: what
-    # meets has one shard, and pieces of a deed stand by ascending shards, so a ring goes up and down.
+    # Each a stands ahead of the b that it meets. These wishes lead nowhere around, as somewhere a is ahead of its b:
+    # what meets has one shard, and pieces of a deed stand by ascending shards, so a ring goes up and down.
     for at, (one, _, piece) in enumerate(ring):
         other, behind, _ = ring[at + 1 - len(ring)]
         pairs.append((numbers[(other, behind)], numbers[(one, piece)]))
