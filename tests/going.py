@@ -133,7 +133,8 @@ class Going(Knowing):
     def device(self, player):
         """The device behind all that came."""
         letters, last = self.letters(player), self.tick(player)
-        return (letters[:last + 1], tuple((number, letters[number]) for number in sorted(self.got[player]) if number > last))
+        return (letters[:last + 1], tuple((number, letters[number]) for number in sorted(self.got[player])
+                                          if number > last))
 
     def known_by(self, player, numbers, most):
         """The states behind all plays of so many ticks of which a player hears what was sent, at certain numbers."""
@@ -181,7 +182,8 @@ class Going(Knowing):
             self.come_to = self.far()
         some = as_set(state for state in self.come_to if self.join_letter(state) == letter)
         for number in range(tick + 1, len(self.play) + 1):
-            some = as_set(behind for state in some for _, heard, behind in self.moves_heard(state) if heard[player] == letters[number])
+            some = as_set(behind for state in some for _, heard, behind in self.moves_heard(state)
+                          if heard[player] == letters[number])
         return sure_of(some)
 
     def elder_shown(self, player):
@@ -193,13 +195,15 @@ class Going(Knowing):
         letters, seen = self.letters(player), max(len(self.play) - lag, 0)
         some = (self.played[seen],)
         for number in range(seen + 1, len(self.play) + 1):
-            some = as_set(behind for state in some for _, heard, behind in self.moves_heard(state) if heard[player] == letters[number])
+            some = as_set(behind for state in some for _, heard, behind in self.moves_heard(state)
+                          if heard[player] == letters[number])
         return sure_of(some)
 
 
 def some_edit(random, going):
     """A call of an edit that can be there, more often than not."""
-    word = random.choice(("offer", "offer", "take", "take", "serve", "serve", "serve", "come", "come", "come", "come", "twice", "lose",
+    word = random.choice(("offer", "offer", "take", "take", "serve", "serve", "serve", "come", "come", "come", "come",
+                          "twice", "lose",
                           "ask", "mend", "join"))
     player = random.randrange(going.game[0])
     if random.random() < 0.03:

@@ -35,7 +35,8 @@ def copies(game):
 def tales_for(house, number, player):
     """The tales of a promise for a player that the defs tell, without the player, first ones first."""
     game, wire, rule, lag, _, spare = house
-    calls = {0: lambda: (("leak", leak(game, wire, player)), ("lack", lack(game, wire, player))), 1: lambda: ((leaning(game, wire, player),),),
+    calls = {0: lambda: (("leak", leak(game, wire, player)), ("lack", lack(game, wire, player))),
+             1: lambda: ((leaning(game, wire, player),),),
              2: lambda: (("gap", join_gap(game, wire, player, rule)), ("spill", join_spill(game, wire, player, rule))),
              3: lambda: ((helps(game, wire, player, lag),),), 6: lambda: ((as_good(game, spare, wire, player),),)}
     return [tale for tale in calls[number]() if tale[-1] is not None]
@@ -125,7 +126,8 @@ class Audits(unittest.TestCase):
         self.assertIsNotNone(lack(BOX, house[1], 1))
         self.assertEqual(audit(with_item(house, 1, (FAIR, MUTE)))[0][1][:2], (1, "lack"))
         self.assertEqual(audit((BOX, (FAIR, FAIR), (), 0, (0, 0), (FAIR, MUTE)))[6][1][0], 1)
-        for rule in ((), ((("same", ("cell", 0), ("is", 0)), ("is", 7)),), ((YES, ("cell", 0)),), ((YES, ("cell", 1)),)):
+        for rule in ((), ((("same", ("cell", 0), ("is", 0)), ("is", 7)),), ((YES, ("cell", 0)),),
+                     ((YES, ("cell", 1)),)):
             found = audit(with_item(PARLOUR, 2, rule))[2]
             gap, spill = join_gap(BOX, PARLOUR[1], 0, rule), join_spill(BOX, PARLOUR[1], 0, rule)
             self.assertEqual(found[1][:2], (0, "gap" if gap else "spill"))
@@ -170,7 +172,8 @@ class Open(unittest.TestCase):
         game = counting((6, 6, 6, 6, 6))
         house = (game, silent_wire(game), (), 0, (0,) * 5, silent_wire(game))
         found = audit(house)
-        self.assertEqual([found[number] for number in (0, 1, 2, 3, 6)], [("open", 3000), ("open", 30)] + [("open", 3000)] * 3)
+        self.assertEqual([found[number] for number in (0, 1, 2, 3, 6)],
+                         [("open", 3000), ("open", 30)] + [("open", 3000)] * 3)
         self.assertEqual((found[4], found[5][0]), (("kept", ()), "kept"))
         self.assertEqual(audit_error(house, found), (0, "open"))
         # Of three players who hear nothing few nodes come, of three who hear all there are too many.
@@ -205,7 +208,8 @@ class Open(unittest.TestCase):
         self.assertEqual(audit_error(house, with_pair(found, 1, ("broken", (0, ())))), (1, "even"))
         great = counting((6, 6, 6, 6, 6))
         house = (great, silent_wire(great), (), 0, (0,) * 5, silent_wire(great))
-        pairs = (("kept", ((), ())), ("kept", ((), ())), ("kept", (((), ()), ((), ()))), ("kept", ((), ())), ("kept", ()), ("kept", ()),
+        pairs = (("kept", ((), ())), ("kept", ((), ())), ("kept", (((), ()), ((), ()))), ("kept", ((), ())),
+                 ("kept", ()), ("kept", ()),
                  ("kept", ((), ())))
         self.assertEqual(audit_error(house, pairs), (0, (0, "first")))
         self.assertEqual(audit_error(house, with_pair(pairs, 0, None)), "form")
@@ -221,7 +225,8 @@ class Judges(unittest.TestCase):
 
     def test_form(self):
         found = self.found[PARLOUR]
-        for value in ODD_VALUES + MIXED + (list(found), found[:6], found + found[:1], found[:6] + (None,), found[:6] + ([1, 2],),
+        for value in ODD_VALUES + MIXED + (list(found), found[:6], found + found[:1], found[:6] + (None,),
+                                           found[:6] + ([1, 2],),
                                            found[:6] + (("kept",),), found[:6] + (("kept", (), ()),)):
             self.assertEqual(audit_error(PARLOUR, value), "form")
 
@@ -242,7 +247,8 @@ class Judges(unittest.TestCase):
                 error = self.bad(number, ("kept", (papers[0], value)))
                 self.assertEqual(error[0], number)
                 self.assertEqual(error[1][0], 1)
-        for value in (None, (), ((), ()), (((), ()),), (((), ()), ((),)), (((), ()), [(), ()]), (((), ()), ((), (), ()))):
+        for value in (None, (), ((), ()), (((), ()),), (((), ()), ((),)), (((), ()), [(), ()]),
+                      (((), ()), ((), (), ()))):
             self.assertEqual(self.bad(2, ("kept", value)), (2, "form"))
         for value in (None, [], ((),), 0, False, "", "x"):
             self.assertEqual(self.bad(4, ("kept", value)), (4, "form"))
@@ -253,12 +259,16 @@ class Judges(unittest.TestCase):
     def test_tales_without_form(self):
         for number in (0, 2):
             words = ("leak", "lack") if number == 0 else ("gap", "spill")
-            for value in (None, (), (0,), (0, words[0]), (0, words[0], TALE, None), (2, words[0], TALE), (-1, words[0], TALE),
-                          (True, words[0], TALE), (False, words[0], TALE), (0, "word", TALE), (0, None, TALE), (0, (words[0],), TALE),
-                          [0, words[0], TALE], (None, words[0], TALE), (0, words[0] + " ", TALE), (0, ("leak", "gap")[number == 0], TALE)):
+            for value in (None, (), (0,), (0, words[0]), (0, words[0], TALE, None), (2, words[0], TALE),
+                          (-1, words[0], TALE),
+                          (True, words[0], TALE), (False, words[0], TALE), (0, "word", TALE), (0, None, TALE),
+                          (0, (words[0],), TALE),
+                          [0, words[0], TALE], (None, words[0], TALE), (0, words[0] + " ", TALE),
+                          (0, ("leak", "gap")[number == 0], TALE)):
                 self.assertEqual(self.bad(number, ("broken", value)), (number, "form"), value)
         for number in (1, 3, 6):
-            for value in (None, (), (0,), (0, (), ()), (2, ()), (-1, ()), (True, ()), (None, ()), [0, ()], "xx", ((0,), ())):
+            for value in (None, (), (0,), (0, (), ()), (2, ()), (-1, ()), (True, ()), (None, ()), [0, ()], "xx",
+                          ((0,), ())):
                 self.assertEqual(self.bad(number, ("broken", value)), (number, "form"), value)
         for value in (None, (), (0, ()), ((), ())):
             self.assertEqual(self.bad(4, ("broken", value)), (4, "form"))
@@ -280,11 +290,16 @@ class Judges(unittest.TestCase):
             self.assertIsNone(self.bad(2, (word, (player,) + tale[1:]), PARLOUR))
 
     def test_what_is_told_of_tales(self):
-        for number, tale, told in ((0, (0, "leak", (TALE[0], TALE[0])), "rows"), (0, (1, "lack", ((), ((1, 0),))), ("rows", 1)), (0, (0, "leak", None), "form"),
-                                   (0, (0, "leak", (((0, 2),), ())), ("play", 0, ("move", 0))), (1, (0, ((0, 0),)), "even"),
-                                   (1, (1, ((0, 2),)), "play"), (2, (0, "gap", None), "form"), (2, (0, "spill", ((), ())), "none"),
-                                   (2, (1, "gap", (((0, 2),), ())), ("ahead", 0)), (2, (1, "gap", ((), ((0, 2),))), ("behind", 0)),
-                                   (3, (0, None), "form"), (3, (1, ()), "none"), (6, (1, "play"), "form"), (6, (0, ((0, 0),)), "none")):
+        for number, tale, told in ((0, (0, "leak", (TALE[0], TALE[0])), "rows"),
+                                   (0, (1, "lack", ((), ((1, 0),))), ("rows", 1)), (0, (0, "leak", None), "form"),
+                                   (0, (0, "leak", (((0, 2),), ())), ("play", 0, ("move", 0))),
+                                   (1, (0, ((0, 0),)), "even"),
+                                   (1, (1, ((0, 2),)), "play"), (2, (0, "gap", None), "form"),
+                                   (2, (0, "spill", ((), ())), "none"),
+                                   (2, (1, "gap", (((0, 2),), ())), ("ahead", 0)),
+                                   (2, (1, "gap", ((), ((0, 2),))), ("behind", 0)),
+                                   (3, (0, None), "form"), (3, (1, ()), "none"), (6, (1, "play"), "form"),
+                                   (6, (0, ((0, 0),)), "none")):
             self.assertEqual(self.bad(number, ("broken", tale)), (number, told), tale)
 
     def test_what_is_told_of_papers(self):
@@ -311,9 +326,12 @@ class Judges(unittest.TestCase):
         found, wire = audit(full), full[1]
         gaps = tuple(join_paper(BOX, wire, player, full[2], "gap") for player in range(2))
         self.assertEqual(found[2][1][:2], (0, "spill"))
-        self.assertEqual(audit_error(full, with_pair(found, 2, ("kept", tuple((gap, None) for gap in gaps)))), (2, (0, "form")))
-        self.assertEqual(audit_error(full, with_pair(found, 2, ("kept", tuple((None, gap) for gap in gaps)))), (2, (0, "form")))
-        self.assertEqual(audit_error(full, with_pair(found, 2, ("kept", ((gaps[0], gaps[0]), (None, None)))))[1][1][0], "triple")
+        self.assertEqual(audit_error(full, with_pair(found, 2, ("kept", tuple((gap, None) for gap in gaps)))),
+                         (2, (0, "form")))
+        self.assertEqual(audit_error(full, with_pair(found, 2, ("kept", tuple((None, gap) for gap in gaps)))),
+                         (2, (0, "form")))
+        self.assertEqual(audit_error(full, with_pair(found, 2, ("kept", ((gaps[0], gaps[0]), (None, None)))))[1][1][0],
+                         "triple")
 
     def test_rings_and_lags(self):
         ring = ("kept", tuple(reach_paper(BOX, (MUTE, MUTE), player) for player in range(2)))
@@ -363,14 +381,17 @@ class Judges(unittest.TestCase):
                 if "open" in [word for word, _ in found[:number] + others[number:number + 1]]:
                     continue
                 pair = others[number]
-                error = audit_error(house, with_pair(found, number, pair)) if "open" not in [word for word, _ in found] else None
+                error = audit_error(house, with_pair(found, number,
+                                                     pair)) if "open" not in [word for word, _ in found] else None
                 if error is None and "open" not in [word for word, _ in found]:
                     # What is let by is so.
                     self.assertEqual(pair[0], found[number][0])
 
     def test_values_of_any_kind(self):
         things = Things(597)
-        pieces = ODD_VALUES + MIXED + tuple(thing for _, thing in self.found[GOSSIP]) + tuple(thing for _, thing in self.found[PARLOUR])
+        pieces = ODD_VALUES + MIXED + tuple(thing for _,
+                                            thing in self.found[GOSSIP]) + tuple(thing for _,
+                                                                                 thing in self.found[PARLOUR])
         for _ in range(400):
             number = things.random.choice(NUMBERS)
             word = things.random.choice(("kept", "broken", "kept", "broken", None))

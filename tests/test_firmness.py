@@ -60,7 +60,8 @@ class Lots(unittest.TestCase):
             wanted = tuple(min(found) if len(found) == 1 else None for found in trying.results(lot))
             self.assertEqual(firm_row(*trying.arguments), wanted)
             last = len(trying.tries) - 1
-            then = [behind[1] for pair in lot for _, behind in trying.ons(pair) if (pair[0], behind[0]) == (last, last + 1)]
+            then = [behind[1] for pair in lot for _, behind in trying.ons(pair)
+                    if (pair[0], behind[0]) == (last, last + 1)]
             self.assertEqual(firm_then(*trying.arguments), trying.cells(then))
             cells = firm_cells(*trying.arguments)
             self.assertEqual(cells, trying.cells([state for many, state in lot if many > last]))
@@ -92,7 +93,8 @@ class Rows(unittest.TestCase):
 
     def test_form(self):
         right = (("set", ((2, 1),)), None)
-        for value in (None, [], list(right), right[:1], right + (None,), ("set", None), (True, None), ({}, None), ([], None)):
+        for value in (None, [], list(right), right[:1], right + (None,), ("set", None), (True, None), ({}, None),
+                      ([], None)):
             self.assertEqual(firm_error(LAMP, 0, DARK, (2, 0), value), "form", value)
         for value in ODD_VALUES + MIXED:
             if not isinstance(value, tuple) or len(value) != 2:
@@ -100,7 +102,8 @@ class Rows(unittest.TestCase):
 
     def test_results_that_are_none(self):
         for item in ((), ("set",), ("set", ((2, True),)), ("set", ((2, 1, 0),)), ("set", [(2, 1)]), ("set", ([2, 1],)),
-                     ("set", ((2, 1), (2, 1))), ("set", ((2, 0),)), ("refused", ()), REFUSED, (True,), ("sets", ((2, 1),))):
+                     ("set", ((2, 1), (2, 1))), ("set", ((2, 0),)), ("refused", ()), REFUSED, (True,),
+                     ("sets", ((2, 1),))):
             self.assertEqual(firm_error(LAMP, 0, DARK, (2, 0), (item, None)), 0, item)
         self.assertEqual(firm_error(LAMP, 0, DARK, (2, 0), (None, ("set", ((True, 0),)))), 1)
         self.assertIsNone(firm_error(LAMP, 0, DARK, (2, 0), (("set", ((2, 1),)), None)))
@@ -121,7 +124,8 @@ class Papers(unittest.TestCase):
         bad = lambda value, row=shown, known=DARK: firm_paper_error(LAMP, 0, known, (2, 0), row, value)
         self.assertIsNone(bad(lot))
         for value in (None, list(lot), lot[::-1], lot + lot[-1:], lot[:1] + lot, (lot[0][:1],), ((3, (0, 0, 0)),),
-                      ((True, (0, 0, 0)),), ((0, (0, 0, 2)),), ((0, (0, 0)),), ((0, [0, 0, 0]),), ((-1, (0, 0, 0)),), (0,),
+                      ((True, (0, 0, 0)),), ((0, (0, 0, 2)),), ((0, (0, 0)),), ((0, [0, 0, 0]),), ((-1, (0, 0, 0)),),
+                      (0,),
                       ((0, (0, 0, 0), 0),)):
             self.assertEqual(bad(value), "form", value)
         both = DARK + ((1, 0, 0),)
@@ -164,7 +168,8 @@ class Tales(unittest.TestCase):
     def test_form(self):
         dark = DARK[0]
         for value in (None, (), (dark,), (dark, ()), (dark, [(1, 0)]), ([0, 0, 0], ((1, 0),)), (dark, ((1, 0), (2,))),
-                      (dark, ((1, True),)), (dark, ((True, 0),)), (dark, ((1, None),)), (dark, ((1, 0, 0),)), (dark, ((1, 0),), ()), (dark, (1, 0)), (dark, ([1, 0],))):
+                      (dark, ((1, True),)), (dark, ((True, 0),)), (dark, ((1, None),)), (dark, ((1, 0, 0),)),
+                      (dark, ((1, 0),), ()), (dark, (1, 0)), (dark, ([1, 0],))):
             self.assertEqual(self.bad(value), "form", value)
 
     def test_states_that_are_not_known(self):
@@ -173,8 +178,10 @@ class Tales(unittest.TestCase):
 
     def test_moves_that_are_no_steps(self):
         dark = DARK[0]
-        for k, moves in ((0, ((9, 0),)), (0, ((0, 0), (9, 0))), (1, ((2, 0), (2, 0))), (0, ((2, 1),)), (2, ((1, 0), (1, 0), (3, 0))),
-                         (2, ((2, 0), (0, 0), (0, 0))), (0, ((-1, 0),)), (0, ((10 ** 399, 0),)), (1, ((2, 0), (-2, 0)))):
+        for k, moves in ((0, ((9, 0),)), (0, ((0, 0), (9, 0))), (1, ((2, 0), (2, 0))), (0, ((2, 1),)),
+                         (2, ((1, 0), (1, 0), (3, 0))),
+                         (2, ((2, 0), (0, 0), (0, 0))), (0, ((-1, 0),)), (0, ((10 ** 399, 0),)),
+                         (1, ((2, 0), (-2, 0)))):
             self.assertEqual(self.bad((dark, moves)), ("move", k), moves)
         # A longer tale will do, with moves of others ahead.
         self.assertIsNone(self.bad((dark, ((1, 0),) * 3 + ((2, 0), (1, 0), (0, 0)))))
@@ -258,8 +265,10 @@ class Disturbing(unittest.TestCase):
         bad = lambda *value: disturbs_error(LAMP, 0, DARK, (0,), value)
         self.assertIsNone(bad(dark, (), 0, (1, 0)))
         for value in ((), (dark, (), 0), (dark, (), 0, (1, 0), 0), ([0, 0, 0], (), 0, (1, 0)), (dark, [], 0, (1, 0)),
-                      (dark, ((1,),), 0, (1, 0)), (dark, (), False, (1, 0)), (dark, (), None, (1, 0)), (dark, (), 0, [1, 0]),
-                      (dark, (), 0, (1, False)), (dark, (), 0, (True, 0)), (dark, (), 0, (1, 0, 0)), (dark, (), 0, (1,)), (dark, (), 0, ())):
+                      (dark, ((1,),), 0, (1, 0)), (dark, (), False, (1, 0)), (dark, (), None, (1, 0)),
+                      (dark, (), 0, [1, 0]),
+                      (dark, (), 0, (1, False)), (dark, (), 0, (True, 0)), (dark, (), 0, (1, 0, 0)),
+                      (dark, (), 0, (1,)), (dark, (), 0, ())):
             self.assertEqual(bad(*value), "form", value)
         self.assertEqual(disturbs_error(LAMP, 0, DARK, (0,), [dark, (), 0, (1, 0)]), "form")
         self.assertEqual(bad((1, 0, 0), ((9, 9),), 5, (9, 9)), "state")

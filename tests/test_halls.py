@@ -20,7 +20,8 @@ from tests.test_leaks import BLAB, BOX, FAIR, WHETHER
 from tests.test_tries import LAMP
 from tests.things import ODD_VALUES, YES, Things
 
-LOOKS = ("sent", "road", "device", "tick", "lacks", "on_the_way", "open_tries", "shown", "ahead", "firm", "guests", "elder_shown")
+LOOKS = ("sent", "road", "device", "tick", "lacks", "on_the_way", "open_tries", "shown", "ahead", "firm", "guests",
+         "elder_shown")
 EDITS = {"offer": 2, "take": 2, "come": 2, "twice": 2, "lose": 2, "ask": 2, "mend": 1, "join": 1}
 WIRE = (FAIR, FAIR)
 
@@ -33,7 +34,8 @@ def new_hall():
 def everything(hall):
     """All that a hall tells, but for what takes long."""
     shown = [(player, [getattr(hall, word)(player) for word in LOOKS]) for player in range(hall.game[0])]
-    return (hall.game, hall.wire, hall.rule, hall.play, hall.state, hall.version, hall.undone, hall.edits, shown, hall.accused())
+    return (hall.game, hall.wire, hall.rule, hall.play, hall.state, hall.version, hall.undone, hall.edits, shown,
+            hall.accused())
 
 
 def some_halls(seed, many, edits=30):
@@ -86,12 +88,14 @@ class Walks(unittest.TestCase):
                 self.compare(hall, going, log)
             self.compare_shown(hall, going)
         self.assertLessEqual({"offer", "take", "serve", "come", "twice", "lose", "ask", "mend", "join"}, seen)
-        self.assertLessEqual({("offer", "deed"), ("take", "way"), ("take", "move"), ("serve", "move"), ("come", "number"), ("twice", "number"),
+        self.assertLessEqual({("offer", "deed"), ("take", "way"), ("take", "move"), ("serve", "move"),
+                              ("come", "number"), ("twice", "number"),
                               ("lose", "number"), ("ask", "number"), ("mend", "whole"), ("come", "player")}, seen)
 
     def compare(self, hall, going, log):
         """What hangs on edits alone."""
-        self.assertEqual((hall.play, hall.state, hall.version, hall.undone), (going.play, going.played[-1], len(log), 0))
+        self.assertEqual((hall.play, hall.state, hall.version, hall.undone),
+                         (going.play, going.played[-1], len(log), 0))
         self.assertEqual((hall.edits, hall.state), (tuple(log), state_of(hall.game, hall.play)))
         for player in range(hall.game[0]):
             self.assertEqual(hall.sent(player), going.letters(player))
@@ -118,7 +122,8 @@ class Walks(unittest.TestCase):
 
     def test_the_new_hall(self):
         hall = new_hall()
-        self.assertEqual((hall.game, hall.wire, hall.rule, hall.play, hall.state, hall.version, hall.undone, hall.edits),
+        self.assertEqual((hall.game, hall.wire, hall.rule, hall.play, hall.state, hall.version, hall.undone,
+                          hall.edits),
                          (BOX, WIRE, (WHETHER,), (), (0, 0), 0, 0, ()))
         for player in range(2):
             told = [getattr(hall, word)(player) for word in LOOKS]
@@ -227,7 +232,8 @@ class Words(unittest.TestCase):
 
     def test_copies(self):
         hall = new_hall()
-        self.assertEqual([hall.twice(0, 0), hall.road(0), hall.lose(0, 0), hall.lose(0, 0), hall.road(0)], [1, (0, 0), 2, 3, ()])
+        self.assertEqual([hall.twice(0, 0), hall.road(0), hall.lose(0, 0), hall.lose(0, 0), hall.road(0)],
+                         [1, (0, 0), 2, 3, ()])
         for word in ("come", "twice", "lose"):
             refused(self, "number", getattr(hall, word), 0, 0)
         refused(self, "number", hall.ask, 0, 1)
@@ -283,13 +289,16 @@ class ManyEdits(unittest.TestCase):
             self.assertEqual(hall.serve(0, many % 2), many + 1)
         self.assertEqual((hall.offer(0, 1), hall.come(0, 5), hall.join(0), hall.version), (118, 119, 120, 120))
         before = everything(hall)
-        for word, arguments in (("offer", (0, 1)), ("take", (0, 0)), ("serve", (0, 1)), ("come", (0, 7)), ("twice", (0, 7)), ("lose", (0, 7)),
+        for word, arguments in (("offer", (0, 1)), ("take", (0, 0)), ("serve", (0, 1)), ("come", (0, 7)),
+                                ("twice", (0, 7)), ("lose", (0, 7)),
                                 ("ask", (0, 7)), ("mend", (0,)), ("join", (0,))):
             with self.assertRaises(TooManyEdits):
                 getattr(hall, word)(*arguments)
         # The words come ahead of it.
-        for word, arguments, told in (("offer", (0, 0), "deed"), ("take", (1, 0), "way"), ("serve", (1, 1), "move"), ("come", (0, 5), "number"),
-                                      ("twice", (0, 118), "number"), ("lose", (0, -1), "number"), ("ask", (0, 118), "number"), ("mend", (1,), "whole"),
+        for word, arguments, told in (("offer", (0, 0), "deed"), ("take", (1, 0), "way"), ("serve", (1, 1), "move"),
+                                      ("come", (0, 5), "number"),
+                                      ("twice", (0, 118), "number"), ("lose", (0, -1), "number"),
+                                      ("ask", (0, 118), "number"), ("mend", (1,), "whole"),
                                       ("join", (2,), "player"), ("take", (0, 1), "move")):
             refused(self, told, getattr(hall, word), *arguments)
         self.assertEqual(everything(hall), before)
@@ -375,7 +384,8 @@ class Equality(unittest.TestCase):
         base = new_hall()
         for call in (("serve", 0, 1), ("offer", 0, 1)):
             getattr(base, call[0])(*call[1:])
-        for call in (("serve", 0, 1), ("offer", 0, 1), ("take", 0, 0), ("come", 0, 0), ("come", 0, 1), ("come", 1, 0), ("twice", 0, 0),
+        for call in (("serve", 0, 1), ("offer", 0, 1), ("take", 0, 0), ("come", 0, 0), ("come", 0, 1), ("come", 1, 0),
+                     ("twice", 0, 0),
                      ("lose", 1, 1), ("ask", 1, 1), ("join", 0), ("join", 1)):
             other = base.twin()
             getattr(other, call[0])(*call[1:])
@@ -399,7 +409,8 @@ class Equality(unittest.TestCase):
     def test_games_wires_and_rules(self):
         base = Hall(BOX, WIRE, ())
         self.assertTrue(base == Hall(BOX, WIRE, ()))
-        for other in (Hall(BOX[:3] + (((YES, YES), (YES, YES)),), WIRE, ()), Hall(BOX, (FAIR, BLAB), ()), Hall(BOX, WIRE, (WHETHER,))):
+        for other in (Hall(BOX[:3] + (((YES, YES), (YES, YES)),), WIRE, ()), Hall(BOX, (FAIR, BLAB), ()),
+                      Hall(BOX, WIRE, (WHETHER,))):
             self.assertFalse(base == other)
             self.assertTrue(base != other)
 
@@ -418,14 +429,17 @@ class WhatHolds(unittest.TestCase):
                 row, kept = hall.device(player)
                 sent = hall.sent(player)
                 self.assertEqual((row, kept), (sent[:len(row)], tuple((number, sent[number]) for number, _ in kept)))
-                for told, tick in ((hall.shown(player), hall.tick(player)), (hall.ahead(player), max(going.got[player], default=0)),
-                                   (hall.elder_shown(player), len(hall.play)), (hall.watched_shown(player, 1), len(hall.play))):
+                for told, tick in ((hall.shown(player), hall.tick(player)),
+                                   (hall.ahead(player), max(going.got[player], default=0)),
+                                   (hall.elder_shown(player), len(hall.play)),
+                                   (hall.watched_shown(player, 1), len(hall.play))):
                     state = going.played[tick]
                     for value, right in zip(told or (), state):
                         self.assertIn(value, (None, right))
                         shown += value is not None
                 if row:
-                    self.assertIsNone(wrong_play(hall.game, hall.wire, (player,), tuple((letter,) for letter in row), hall.shown(player)))
+                    self.assertIsNone(wrong_play(hall.game, hall.wire, (player,), tuple((letter,) for letter in row),
+                                                 hall.shown(player)))
                 if hall.lacks(player) and hall.version < 120:
                     twin = hall.twin()
                     twin.mend(player)
@@ -486,7 +500,8 @@ class WhatHolds(unittest.TestCase):
                     self.assertTrue(all(item in (None, value) for item, value in zip(shown, hall.state)))
                     right += 1
                     if gap is None:
-                        self.assertTrue(all(item is not None for item, its_like in zip(shown, elder) if its_like is not None))
+                        self.assertTrue(all(item is not None for item, its_like in zip(shown, elder)
+                                            if its_like is not None))
                         enough += 1
                     if spill is None:
                         self.assertTrue(all(item is None for item, its_like in zip(shown, elder) if its_like is None))

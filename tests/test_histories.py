@@ -21,9 +21,11 @@ class Owners(unittest.TestCase):
     def test_owners(self):
         for value in ((0, 1, 1), (5, 5, 5), (0, 0, 0), (5, 0, 3)):
             self.assertIsNone(owners_error(STORE, value))
-        for value in ODD_VALUES + MIXED + ((0, 1), (0, 1, 1, 1), (0, 1, 6), (0, -1, 1), (0, True, 1), (False, 1, 1), [0, 1, 1],
+        for value in ODD_VALUES + MIXED + ((0, 1), (0, 1, 1, 1), (0, 1, 6), (0, -1, 1), (0, True, 1), (False, 1, 1),
+                                           [0, 1, 1],
                                            (0, None, 1), (0, "1", 1), (0, (1,), 1), (10 ** 399, 0, 0)):
-            right = isinstance(value, tuple) and len(value) == 3 and all(type(item) is int and 0 <= item < 6 for item in value)
+            right = isinstance(value, tuple) and len(value) == 3 and all(type(item) is int and 0 <= item < 6
+                                                                         for item in value)
             wanted = None if right else "form"
             self.assertEqual(owners_error(STORE, value), wanted, value)
 
@@ -61,15 +63,18 @@ class Owners(unittest.TestCase):
         cells, sights = ((2, 0),) * 3, ((YES,) * 3,) * 2
         same = lambda c: ("same", ("cell", c), ("is", 0))
         for cut, guard, effects in (
-                (True, same(0), ((1, ("is", 0)),)), (False, same(1), ((0, ("is", 0)),)), (False, ("both", same(0), same(1)), ()),
-                (True, same(1), ()), (True, YES, ((0, ("is", 0)), (1, C0))), (False, YES, ((0, C1),)), (False, YES, ((0, C1), (1, C0))),
+                (True, same(0), ((1, ("is", 0)),)), (False, same(1), ((0, ("is", 0)),)),
+                (False, ("both", same(0), same(1)), ()),
+                (True, same(1), ()), (True, YES, ((0, ("is", 0)), (1, C0))), (False, YES, ((0, C1),)),
+                (False, YES, ((0, C1), (1, C0))),
                 (True, YES, ((2, C1), (1, ("draw",)))[::-1]), (True, YES, ((1, ("choose", same(0), ("is", 0), C1)),)),
                 (False, same(1), ((1, C0),)), (True, same(0), ((2, C0),))):
             game = (2, cells, ((None, 1, guard, effects, ()),), sights)
             self.assertEqual(uncut(game, (0, 1, 1)), () if cut else (0,), (guard, effects))
 
     def test_deeds_that_touch_nothing_ask_alone_or_set_alone(self):
-        game = (2, ((2, 0),) * 2, ((None, 1, YES, (), ()), (None, 1, ("same", C1, C1), (), ()), (None, 1, YES, ((1, ("is", 1)),), ())),
+        game = (2, ((2, 0),) * 2, ((None, 1, YES, (), ()), (None, 1, ("same", C1, C1), (), ()),
+                                   (None, 1, YES, ((1, ("is", 1)),), ())),
                 ((YES,) * 2,) * 2)
         self.assertEqual([pieces(game, (4, 5), number) for number in range(3)],
                          [((0, (), ()),), ((5, (1,), ()),), ((5, (), (1,)),)])
@@ -78,14 +83,18 @@ class Owners(unittest.TestCase):
 class Histories(unittest.TestCase):
     def test_faults_in_their_order(self):
         bad = lambda value, some=TWO: history_error(STORE, OWNERS, some, value)
-        for value in (None, [], list(MINGLED), MINGLED[:3] + ((0,),), MINGLED[:3] + ((0, True),), MINGLED[:3] + ((False, 1),), MINGLED[:3] + ([0, 1],),
+        for value in (None, [], list(MINGLED), MINGLED[:3] + ((0,),), MINGLED[:3] + ((0, True),),
+                      MINGLED[:3] + ((False, 1),), MINGLED[:3] + ([0, 1],),
                       MINGLED[:3] + ((0, 1, 0),), MINGLED[:3] + (None,), ((9, 9), (0, "1"))):
             self.assertEqual(bad(value), "form", value)
-        for k, value in ((0, ((0, 1),)), (0, ((1, 1), (1, 0))), (1, ((0, 0), (0, 0))), (1, ((0, 0), (2, 0))), (1, ((0, 0), (-1, 0))),
-                         (2, ((0, 0), (0, 1), (0, 2))), (1, ((0, 0), (1, -1))), (4, MINGLED + ((1, 1),)), (0, ((10 ** 399, 0),)),
+        for k, value in ((0, ((0, 1),)), (0, ((1, 1), (1, 0))), (1, ((0, 0), (0, 0))), (1, ((0, 0), (2, 0))),
+                         (1, ((0, 0), (-1, 0))),
+                         (2, ((0, 0), (0, 1), (0, 2))), (1, ((0, 0), (1, -1))), (4, MINGLED + ((1, 1),)),
+                         (0, ((10 ** 399, 0),)),
                          (3, ((0, 0), (1, 0), (0, 1), (0, 1)))):
             self.assertEqual(bad(value), ("item", k), value)
-        for pair, value in (((0, 0), ()), ((0, 1), ((0, 0),)), ((1, 0), ((0, 0), (0, 1))), ((0, 0), ((1, 0), (1, 1))), ((0, 1), MINGLED[:3]),
+        for pair, value in (((0, 0), ()), ((0, 1), ((0, 0),)), ((1, 0), ((0, 0), (0, 1))), ((0, 0), ((1, 0), (1, 1))),
+                            ((0, 1), MINGLED[:3]),
                             ((1, 1), ((0, 0), (1, 0), (0, 1)))):
             self.assertEqual(bad(value), ("lacks", pair), value)
         self.assertEqual(bad(((0, 0), (1, 0), (2, 0)), ((0, 0), (4, 0), (1, 0))), ("lacks", (0, 1)))
@@ -117,8 +126,10 @@ class Histories(unittest.TestCase):
     def test_deeds_that_are_not_cut(self):
         some, history = ((0, 0), (2, 0)), ((0, 0),)
         for call in (lambda: history_error(STORE, OWNERS, some, None), lambda: follows(STORE, OWNERS, some, history),
-                     lambda: done_by_pieces(STORE, OWNERS, (0, 0, 0), some, history), lambda: ring_of(STORE, OWNERS, some, history),
-                     lambda: order_of(STORE, OWNERS, some, history), lambda: ring_error(STORE, OWNERS, some, history, None),
+                     lambda: done_by_pieces(STORE, OWNERS, (0, 0, 0), some, history),
+                     lambda: ring_of(STORE, OWNERS, some, history),
+                     lambda: order_of(STORE, OWNERS, some, history),
+                     lambda: ring_error(STORE, OWNERS, some, history, None),
                      lambda: order_error(STORE, OWNERS, some, history, None)):
             with self.assertRaises(Unfit):
                 call()
@@ -156,8 +167,10 @@ class Done(unittest.TestCase):
     def test_a_guard_is_looked_at_with_the_first_piece_alone(self):
         # The guard of the second put fails at its first piece, the one of the first put did not.
         state, some = (2, 0, 0), ((0, 0), (0, 0))
-        self.assertEqual(done_by_pieces(STORE, OWNERS, state, some, ((0, 0), (1, 0), (0, 1), (1, 1))), ((3, 2, 0), (True, False)))
-        self.assertEqual(done_by_pieces(STORE, OWNERS, state, some, ((1, 0), (0, 0), (0, 1), (1, 1))), ((3, 2, 0), (False, True)))
+        self.assertEqual(done_by_pieces(STORE, OWNERS, state, some, ((0, 0), (1, 0), (0, 1), (1, 1))),
+                         ((3, 2, 0), (True, False)))
+        self.assertEqual(done_by_pieces(STORE, OWNERS, state, some, ((1, 0), (0, 0), (0, 1), (1, 1))),
+                         ((3, 2, 0), (False, True)))
         # A piece reads what stands there then, and keeps it.
         self.assertEqual(done_by_pieces(STORE, OWNERS, (0, 3, 3), ((3, 0), (0, 0)), ((0, 0), (1, 0), (1, 1), (0, 1))),
                          ((1, 0, 0), (True, True)))

@@ -29,7 +29,8 @@ def with_item(house, place, item):
 def some_rule(things, game):
     """A joiners' rule of few entries."""
     cells = len(game[1])
-    return tuple((things.tiny_condition(cells), things.tiny_term(cells, ())) for _ in range(things.random.randint(0, 2)))
+    return tuple((things.tiny_condition(cells), things.tiny_term(cells, ()))
+                 for _ in range(things.random.randint(0, 2)))
 
 
 def some_owners(things, game):
@@ -67,7 +68,8 @@ class HouseErrors(unittest.TestCase):
             self.assertEqual(house_error(value), "form")
             self.assertEqual(bad(0, value)[0], "game", value)
             error = wire_error(BOX, value)
-            self.assertEqual((bad(1, value), bad(5, value)), (("wire", error), ("spare", error)) if error else (None, None))
+            self.assertEqual((bad(1, value), bad(5, value)), (("wire", error), ("spare", error)) if error
+                             else (None, None))
             error = rule_error(BOX, value)
             self.assertEqual(bad(2, value), ("rule", error) if error else None, value)
             lag = isinstance(value, int) and not isinstance(value, bool) and 0 <= value <= 200
@@ -112,10 +114,12 @@ class Mended(unittest.TestCase):
             least = lag if None in reaches else max(reaches + [lag])
             good = all(as_good(game, spare, wanted, player) is None for player in range(game[0]))
             self.assertEqual(better, (game, wanted, rule, least if least <= 200 else lag,
-                                      kept_by if ordered(game, kept_by) else (0,) * len(game[1]), spare if good else wanted))
+                                      kept_by if ordered(game, kept_by) else (0,) * len(game[1]), spare if good
+                                      else wanted))
             self.assertEqual(mended(better), better)
             can = all(can_be_just(game, wire, player) for player in range(game[0]))
-            self.assertEqual(can, all(can_be_just(game, wanted, player) and not leak(game, wanted, player) for player in range(game[0])))
+            self.assertEqual(can, all(can_be_just(game, wanted, player) and not leak(game, wanted, player)
+                                      for player in range(game[0])))
             lags.add((None in reaches, least > lag))
             wires, owners, spares = wires + (wanted != wire), owners + (better[4] != kept_by), spares + (better[5] != spare)
             same += better == house
@@ -137,8 +141,10 @@ class Mended(unittest.TestCase):
         full = lambda c: ("same", ("cell", c), ("is", 5))
         more = lambda c: ("choose", full(c), ("is", 0), ("sum", ("cell", c), ("is", 1)))
         tossed = ("same", ("cell", 0), ("is", 0))
-        count = ((1, more(1)), (2, ("choose", full(1), more(2), ("cell", 2))), (3, ("choose", ("both", full(1), full(2)), more(3), ("cell", 3))))
-        deeds = ((None, 2, tossed, ((0, ("sum", ("draw",), ("is", 1))),), ()), (None, 1, ("both", ("not", tossed), ("not", ended)), count, ()))
+        count = ((1, more(1)), (2, ("choose", full(1), more(2), ("cell", 2))),
+                 (3, ("choose", ("both", full(1), full(2)), more(3), ("cell", 3))))
+        deeds = ((None, 2, tossed, ((0, ("sum", ("draw",), ("is", 1))),), ()),
+                 (None, 1, ("both", ("not", tossed), ("not", ended)), count, ()))
         return (2, ((3, 0), (6, 0), (6, 0), (6, 0)), deeds, ((("not", YES),) * 4,) * 2), (((ended, ("is", 1)),), ())
 
     def test_too_many(self):
@@ -162,7 +168,8 @@ class Mended(unittest.TestCase):
         # All see all. The spare wire leaves the last cell out for the player 0, so it is worse; the player 1 is told
         # nothing by it: its sets are as many as the ticks till all can be, and with the states in them too many.
         cells = ((6, 0), (6, 0), (5, 0), (4, 0))
-        deeds = tuple((0, 1, YES, ((c, ("sum", ("cell", c), ("is", 1))),), (0, 1)) for c in range(4)) + ((0, 1, YES, (), (0, 1)),)
+        deeds = tuple((0, 1, YES, ((c, ("sum", ("cell", c), ("is", 1))),), (0, 1))
+                      for c in range(4)) + ((0, 1, YES, (), (0, 1)),)
         game = (2, cells, deeds, ((YES,) * 4,) * 2)
         rule = tuple((YES, ("cell", c)) for c in range(3))
         plain = plain_wire(game)

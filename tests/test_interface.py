@@ -133,7 +133,8 @@ CALLS.update({
     "leak_error": (leaks, with_each(SEEN_TOO, "value", (((0, 0),), ((0, 1),)), [[], []], ([(0, 0)], ((0, 0),)))),
     "lack_error": (leaks, with_each(SEEN, "value", (((0, 0),), ((0, 1),)), [[], []], ((), ([0, 0],)))),
     "just_paper": (justpapers, [SEEN, {**SEEN, "wire": (FAIR, FAIR)}]),
-    "just_paper_error": (justpapers, with_each(SEEN, "value", (((0, 0), (0, 0)),), [((0, 0), (0, 0))], (([0, 0], {}),))),
+    "just_paper_error": (justpapers, with_each(SEEN, "value", (((0, 0), (0, 0)),), [((0, 0), (0, 0))],
+                                               (([0, 0], {}),))),
     "is_just": (justpapers, [SEEN, {**SEEN, "wire": (FAIR, FAIR)}]),
     "lasting": (justpapers, [SEEN, SEEN_TOO]),
     "lasting_paper": (justpapers, [SEEN, {**SEEN, "wire": (FAIR, FAIR)}]),
@@ -154,7 +155,8 @@ CALLS.update({
     "joined": (joiners, with_each({"game": DIE, "rule": JOIN["rule"]}, "letter", (None,), [None], ([],))),
     "join_gap": (joiners, [JOIN, {**JOIN, "rule": ()}]),
     "join_spill": (joiners, [JOIN, {**JOIN, "rule": ()}]),
-    "join_tale_error": (joiners, with_each({**JOIN, "word": "gap"}, "value", (((0, 1),), ((2, 0),)), [[], []], ((), ([],)))),
+    "join_tale_error": (joiners, with_each({**JOIN, "word": "gap"}, "value", (((0, 1),), ((2, 0),)), [[], []],
+                                           ((), ([],)))),
     "join_paper": (joiners, with_each(JOIN, "word", "gap", "spill")),
     "join_paper_error": (joiners, with_each({**JOIN, "word": "spill"}, "value", (), [], (((0,), [(0,)], {}),))),
     "watched": (watchers, with_each({**WATCH, "lag": 1}, "play", ((0, 1), (2, 0)), ())
@@ -163,12 +165,14 @@ CALLS.update({
     "helps_error": (watchers, with_each({**WATCH, "lag": 1}, "value", ((0, 1), (2, 0)), [(0, 1)], ([0, 1],))),
     "reach": (watchers, [WATCH, {**WATCH, "wire": QUIET}]),
     "reach_paper": (watchers, [WATCH, {**WATCH, "wire": QUIET}]),
-    "reach_error": (watchers, with_each(WATCH, "value", watchers.reach_paper(**WATCH), ("ranks", [], {}), ("ring", (), [], (), ()),
+    "reach_error": (watchers, with_each(WATCH, "value", watchers.reach_paper(**WATCH), ("ranks", [], {}),
+                                        ("ring", (), [], (), ()),
                                         ["ranks", (), ()])),
     "as_good": (likeness, [LIKE, {**LIKE, "wire": SPOKEN}]),
     "as_good_error": (likeness, with_each(LIKE, "value", ((2, 0),), [[2, 0]], ([2, 0],))),
     "good_paper": (likeness, [LIKE, {**LIKE, "wire": SPOKEN}]),
-    "good_paper_error": (likeness, with_each(LIKE, "value", likeness.good_paper(FLIP, SPOKEN, QUIET, 1), [], (([], {}, ()),))),
+    "good_paper_error": (likeness, with_each(LIKE, "value", likeness.good_paper(FLIP, SPOKEN, QUIET, 1), [],
+                                             (([], {}, ()),))),
     "cheaper": (likeness, [WATCH]),
     "told_error": (lies, with_each({"game": PARITY}, "value", TOLD, list(TOLD), (None, [], {}))),
     "honest": (lies, with_each({"game": PARITY, "wire": EARLY}, "told", TOLD, (((0,), (1,)), None, ((0,),)))),
@@ -177,31 +181,38 @@ CALLS.update({
     "finders": (lies, with_each({"game": PARITY, "wire": EARLY}, "told", TOLD, (((0,), (1,)),) * 3)),
     "lie_for_good": (lies, [LIE, {"game": TOSS, "wire": ONE_EAR, "player": 0}]),
     "good_error": (lies, with_each({"game": TOSS, "wire": ONE_EAR, "player": 0}, "value", (((0, 0),), ((0,), (1,)), 0),
-                                   [((0, 0),), ((0,), [1]), 0], (((0, 0),), ((0,), [1]), 0), (((0, 0),), ((0,), (1,)), []))),
+                                   [((0, 0),), ((0,), [1]), 0], (((0, 0),), ((0,), [1]), 0),
+                                   (((0, 0),), ((0,), (1,)), []))),
     "lie_lasts": (lies, [LIE, {"game": TOSS, "wire": ONE_EAR, "player": 0}]),
     "longest_lie": (lies, [LIE, {"game": TOSS, "wire": ONE_EAR, "player": 0}]),
-    "lie_error": (lies, with_each({**LIE, "number": 1}, "value", (((0, 0),), ((0,), (1,))), [[], []], (((0, 0),), ((0,), {})))),
+    "lie_error": (lies, with_each({**LIE, "number": 1}, "value", (((0, 0),), ((0,), (1,))), [[], []],
+                                  (((0, 0),), ((0,), {})))),
     "lie_paper": (lies, [LIE, {"game": TOSS, "wire": ONE_EAR, "player": 0}]),
-    "lie_paper_error": (lies, with_each(LIE, "value", lies.lie_paper(**LIE), [0, (), ()], (0, [], {}), (1, (([], {}),), ()))),
+    "lie_paper_error": (lies, with_each(LIE, "value", lies.lie_paper(**LIE), [0, (), ()], (0, [], {}),
+                                        (1, (([], {}),), ()))),
     "comparing": (comparing, with_each({"game": PARITY, "wire": EARLY}, "many", 1, 2)),
     "comparing_error": (comparing, with_each({"game": PARITY, "wire": EARLY, "many": 2}, "value", TOLD, list(TOLD),
                                              (((0,), (1,)),) * 3, (None, [], {}))),
-    "comparing_paper": (comparing, [{"game": PARITY, "wire": SHOWN, "many": 2}, {"game": PARITY, "wire": EARLY, "many": 2}]),
+    "comparing_paper": (comparing, [{"game": PARITY, "wire": SHOWN, "many": 2},
+                                    {"game": PARITY, "wire": EARLY, "many": 2}]),
     "comparing_paper_error": (comparing, with_each({"game": PARITY, "wire": SHOWN, "many": 2}, "value",
                                                    comparing.comparing_paper(PARITY, SHOWN, 2), [], (([], {}, ()),))),
     "device_error": (roads, with_each({}, "value", DEVICE, list(DEVICE), ((), ([1, 2],)))),
     "taken": (roads, [{"device": DEVICE, "number": number, "letter": [7]} for number in (0, 1, 2, 3, 9)]),
     "lacking": (roads, [{"device": DEVICE}]),
     "gap_row": (roads, [{"device": DEVICE}]),
-    "run_error": (roads, with_each({"game": DIE, "wire": KEEN, "player": 0}, "value", RUN, list(RUN), (["tick", 0, 1],))),
+    "run_error": (roads, with_each({"game": DIE, "wire": KEEN, "player": 0}, "value", RUN, list(RUN),
+                                   (["tick", 0, 1],))),
     "road_end": (roads, [{"game": DIE, "wire": KEEN, "player": 0, "run": RUN}]),
     "mending": (roads, [{"device": DEVICE}]),
     "known_by_gaps": (gaps, [GAPPED, {**GAPPED, "row": [None]}, {**GAPPED, "row": (None, [0, None])}]),
     "asked_enough": (gaps, with_each(GAPPED, "numbers", (), (1,), [1], (0,))),
-    "full_error": (gaps, with_each({**GAPPED, "numbers": ()}, "value", ((3, None), (0, None), (2, 1)), [], (None, [0], {}))),
+    "full_error": (gaps, with_each({**GAPPED, "numbers": ()}, "value", ((3, None), (0, None), (2, 1)), [],
+                                   (None, [0], {}))),
     "least_asked": (gaps, [GAPPED, {**GAPPED, "row": (None,) * 9}, {**GAPPED, "row": [None]}]),
     "gap_paper": (gaps, with_each(GAPPED, "numbers", (), (1,), [1])),
-    "gap_paper_error": (gaps, with_each({**GAPPED, "numbers": (1,)}, "value", gaps.gap_paper(**GAPPED, numbers=(1,)), [],
+    "gap_paper_error": (gaps, with_each({**GAPPED, "numbers": (1,)}, "value", gaps.gap_paper(**GAPPED, numbers=(1,)),
+                                        [],
                                         ([], {}, ((((0,),), [(0,)]),)))),
 })
 
@@ -227,14 +238,18 @@ CALLS.update({
     "firm_row": (firmness, [TRIED]),
     "firm_then": (firmness, [TRIED]),
     "firm_cells": (firmness, [TRIED]),
-    "firm_error": (firmness, with_each(TRIED, "value", ROW, list(ROW), (("set", [(2, 1)]), []), (("set", ([],)), None))),
+    "firm_error": (firmness, with_each(TRIED, "value", ROW, list(ROW), (("set", [(2, 1)]), []),
+                                       (("set", ([],)), None))),
     "firm_paper": (firmness, with_each(TRIED, "shown", ROW, PLAIN_ROW[0])),
-    "firm_paper_error": (firmness, with_each({**TRIED, "shown": ROW}, "value", firmness.tries_lot(**TRIED), [], ((0, [0, 0, 0]), {}))),
+    "firm_paper_error": (firmness, with_each({**TRIED, "shown": ROW}, "value", firmness.tries_lot(**TRIED), [],
+                                             ((0, [0, 0, 0]), {}))),
     "firm_tale": (firmness, with_each(TRIED, "shown", ROW, PLAIN_ROW[0])),
-    "firm_tale_error": (firmness, with_each({**TRIED, "shown": PLAIN_ROW[0]}, "value", ((0, 0, 0), PLAIN_ROW[1]), [[], []],
+    "firm_tale_error": (firmness, with_each({**TRIED, "shown": PLAIN_ROW[0]}, "value", ((0, 0, 0), PLAIN_ROW[1]),
+                                            [[], []],
                                             ((0, 0, 0), [(1, 0)]), ((0, [0], 0), ((1, 0),)))),
     "disturbs": (firmness, [TRIED]),
-    "disturbs_error": (firmness, with_each({**TRIED, "tries": (0,)}, "value", ((0, 0, 0), (), 0, (1, 0)), [], ((0, 0, 0), [], 0, {}))),
+    "disturbs_error": (firmness, with_each({**TRIED, "tries": (0,)}, "value", ((0, 0, 0), (), 0, (1, 0)), [],
+                                           ((0, 0, 0), [], 0, {}))),
     "odds": (odds, with_each(CHANCED, "row", HEARD_HUM, list(HEARD_HUM), HEARD_HUM[:2] + ([(0, 1)],))),
     "foretold": (odds, [{**CHANCED, "row": row, "cell": 0} for row in ((), BEGUN + TOSSED, [BEGUN], ([], {}))]),
     "rows_by": (odds, [CHANCED]),
@@ -243,7 +258,8 @@ CALLS.update({
     "leaning": (leanings, [LEANED, {**LEANED, "player": 0}]),
     "leaning_error": (leanings, with_each(LEANED, "value", ((0, 0), (1, 0)), [(0, 0)], ((0, 0), [1, 0]))),
     "lean_paper": (leanpapers, [LEANED, {**LEANED, "wire": ((), ())}]),
-    "lean_paper_error": (leanpapers, with_each(LEANED, "value", ((((0, 0, 1),),), (), ()), [], ([], [], []), ((([0, 0, 1],),), ({},), ()))),
+    "lean_paper_error": (leanpapers, with_each(LEANED, "value", ((((0, 0, 1),),), (), ()), [], ([], [], []),
+                                               ((([0, 0, 1],),), ({},), ()))),
     "owners_error": (cuts, with_each({"game": STORE}, "value", OWNERS, list(OWNERS), (0, [1], 1))),
     "uncut": (cuts, [CUT]),
     "pieces": (cuts, [{**CUT, "deed": deed} for deed in (0, 2, 4)]),
@@ -264,13 +280,17 @@ CALLS.update({
     "house_error": (houses, with_each({}, "value", PARLOUR, list(PARLOUR), (BOX, [], {}, [], {}, []))),
     "mended": (houses, [{"house": PARLOUR}, {"house": GOSSIP}]),
     "audit": (audits, [{"house": PARLOUR}, {"house": GOSSIP}]),
-    "audit_error": (audits, [{"house": PARLOUR, "value": value} for value in (audits.audit(PARLOUR), [], (("kept", [[], {}]),) * 7,
-                                                                             (("broken", (0, "leak", [])),) * 7, (([], {}),) * 7)]),
+    "audit_error": (audits, [{"house": PARLOUR, "value": value}
+                             for value in (audits.audit(PARLOUR), [], (("kept", [[], {}]),) * 7,
+                                                                             (("broken", (0, "leak", [])),) * 7,
+                                                                             (([], {}),) * 7)]),
     "rule_text": (halllogs, with_each({}, "rule", (), (WHETHER,))),
-    "read_rule": (halllogs, with_each({"game": BOX}, "value", "if yes tell c1", "if yes tell c2", "none", ["if yes tell c1"])),
+    "read_rule": (halllogs, with_each({"game": BOX}, "value", "if yes tell c1", "if yes tell c2", "none",
+                                      ["if yes tell c1"])),
     "log_text": (halllogs, [{"log": CALL_LOG}]),
     "read_log": (halllogs, with_each({}, "value", "undo\nmend 1", "mend", ["undo"], {})),
-    "hall_behind": (halllogs, with_each(HALL, "value", CALL_LOG, list(CALL_LOG), CALL_LOG + (["undo"],), (("serve", [0], {}),))),
+    "hall_behind": (halllogs, with_each(HALL, "value", CALL_LOG, list(CALL_LOG), CALL_LOG + (["undo"],),
+                                        (("serve", [0], {}),))),
     "hall_log": (halllogs, [{"hall": halllogs.hall_behind(**HALL, value=CALL_LOG)}]),
 })
 
@@ -279,9 +299,11 @@ HALL_METHODS = {
     "offer": {"player": 0, "deed": 1}, "take": {"player": 0, "drawn": 0}, "serve": {"deed": 0, "drawn": 0},
     "come": {"player": 0, "number": 1}, "twice": {"player": 1, "number": 0}, "lose": {"player": 1, "number": 0},
     "ask": {"player": 0, "number": 1}, "mend": {"player": 1}, "join": {"player": 1}, "undo": {}, "redo": {}, "twin": {},
-    "sent": {"player": 0}, "road": {"player": 0}, "device": {"player": 1}, "tick": {"player": 1}, "lacks": {"player": 1},
+    "sent": {"player": 0}, "road": {"player": 0}, "device": {"player": 1}, "tick": {"player": 1},
+    "lacks": {"player": 1},
     "on_the_way": {"player": 0}, "open_tries": {"player": 0}, "shown": {"player": 1}, "ahead": {"player": 1},
-    "firm": {"player": 0}, "guests": {"player": 0}, "guest_shown": {"player": 0, "place": 0}, "elder_shown": {"player": 0},
+    "firm": {"player": 0}, "guests": {"player": 0}, "guest_shown": {"player": 0, "place": 0},
+    "elder_shown": {"player": 0},
     "watched_shown": {"player": 0, "lag": 1}, "accused": {},
 }
 HALL_ATTRIBUTES = ("game", "wire", "rule", "play", "state", "version", "undone", "edits")
@@ -385,7 +407,8 @@ class Calls(unittest.TestCase):
                 before = copy.deepcopy(call)
                 outcome(getattr(module, name), **call)
                 # Halls have no way to show themselves, but can be compared.
-                self.assertEqual(call if "hall" in call else repr(call), before if "hall" in call else repr(before), name)
+                self.assertEqual(call if "hall" in call else repr(call), before if "hall" in call else repr(before),
+                                 name)
 
     def test_results_are_of_pythons_own_kinds(self):
         for name, (module, calls) in CALLS.items():
@@ -450,7 +473,8 @@ class Methods(unittest.TestCase):
     def test_in_one_state_equal_calls_are_answered_alike(self):
         for name, call in HALL_METHODS.items():
             first, second = some_hall(), some_hall()
-            self.assertEqual(outcome(getattr(first, name), **call) == outcome(getattr(second, name), **call) or name == "twin", True)
+            self.assertEqual(outcome(getattr(first, name), **call) == outcome(getattr(second, name), **call)
+                             or name == "twin", True)
             self.assertTrue(first == second)
 
 

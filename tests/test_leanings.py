@@ -42,7 +42,8 @@ def blind(sizes):
         here = ("same", ("cell", 1), ("is", phase))
         if size > 1:
             deeds.append((None, 1, here, ((0, chosen(0, [(k + 1) % size for k in range(size)])),), ()))
-            lifted = ("choose", ("both", ("same", ("cell", 0), ("is", 0)), ("same", ("draw",), ("is", 1))), ("is", 1), ("cell", 0))
+            lifted = ("choose", ("both", ("same", ("cell", 0), ("is", 0)), ("same", ("draw",), ("is", 1))), ("is", 1),
+                      ("cell", 0))
             deeds.append((None, 2, here, ((0, lifted),), ()))
     begin = ((0, ("is", 0)), (1, ("sum", ("cell", 1), ("is", 1))))
     deeds.append((None, 1, ("below", ("cell", 1), ("is", len(sizes) - 1)), begin, ()))
@@ -122,7 +123,8 @@ class Leaning(unittest.TestCase):
         seen, heard = Chances(HUMMING, HINT).both_sides(1, ((0, 0), (1, 0)))
         self.assertEqual(set(seen), set(heard))
         self.assertIsNone(lean_paper(HUMMING, HINT, 1))
-        self.assertGreater(Fraction(*hit(HUMMING, HINT, (1,), (0, 1), 0)), Fraction(*hit(HUMMING, QUIET, (1,), (0, 1), 0)))
+        self.assertGreater(Fraction(*hit(HUMMING, HINT, (1,), (0, 1), 0)),
+                           Fraction(*hit(HUMMING, QUIET, (1,), (0, 1), 0)))
 
     def test_wires_that_leak_and_do_not_lean(self):
         # A coin that nobody sees is 1 with odds of 2 to 3; then it may be turned to 0. Each letter is told of moves of unlike
@@ -130,14 +132,18 @@ class Leaning(unittest.TestCase):
         first, second = ("same", ("cell", 1), ("is", 0)), ("same", ("cell", 1), ("is", 1))
         low = lambda least: ("choose", ("below", ("draw",), ("is", least)), ("is", 0), ("is", 1))
         throw = (None, 3, first, ((0, low(1)), (1, ("is", 1))), ())
-        turn = (None, 4, second, ((0, ("choose", ("same", ("cell", 0), ("is", 0)), ("is", 0), low(2))), (1, ("is", 2))), ())
+        turn = (None, 4, second, ((0, ("choose", ("same", ("cell", 0), ("is", 0)), ("is", 0), low(2))), (1, ("is", 2))),
+                ())
         idle = (None, 2, ("same", ("cell", 1), ("is", 2)), (), ())
         game = (2, ((2, 0), (3, 0)), (throw, turn, idle), ((NO, YES), (YES, YES)))
-        told = ("both", ("same", ("deed",), ("is", 1)), ("either", ("same", ("was", 0), ("is", 0)), ("same", ("draw",), ("is", 3))))
+        told = ("both", ("same", ("deed",), ("is", 1)), ("either", ("same", ("was", 0), ("is", 0)),
+                                                         ("same", ("draw",), ("is", 3))))
         for more in ((), ((("same", ("deed",), ("is", 2)), ("draw",)),)):
             wire = (((told, ("is", 1)),) + more, ())
-            self.assertEqual(Chances(game, wire).both_sides(0, ((0, 0), (1, 0))), ({(0, 2): Fraction(2, 3), (1, 2): Fraction(1, 3)},
-                                                                                  {(0, 2): Fraction(1, 3), (1, 2): Fraction(1, 6)}))
+            self.assertEqual(Chances(game, wire).both_sides(0, ((0, 0), (1, 0))),
+                             ({(0, 2): Fraction(2, 3), (1, 2): Fraction(1, 3)},
+                                                                                  {(0, 2): Fraction(1, 3),
+                                                                                   (1, 2): Fraction(1, 6)}))
             self.assertFalse(is_just(game, wire, 0))
             self.assertIsNone(leaning(game, wire, 0))
             self.assertIsNone(lean_paper_error(game, wire, 0, lean_paper(game, wire, 0)))
@@ -195,7 +201,8 @@ class Papers(unittest.TestCase):
                 if paper is not None:
                     self.assertIsNone(lean_paper_error(game, wire, player, paper))
                     self.assertEqual(len(paper), len(states(game)))
-                    self.assertTrue(all(abs(whole) < 10 ** 300 for planes in paper for plane in planes for _, _, whole in plane))
+                    self.assertTrue(all(abs(whole) < 10 ** 300 for planes in paper for plane in planes for _, _,
+                                        whole in plane))
                     papers += 1
         self.assertGreater(papers, 50)
 
@@ -209,23 +216,29 @@ class Papers(unittest.TestCase):
                     continue
                 for play in chances.plays(2)[:30]:
                     number = come.index(chances.through(play)[-1])
-                    planes = [{(come[one], come[other]): Fraction(whole) for one, other, whole in plane} for plane in paper[number]]
+                    planes = [{(come[one], come[other]): Fraction(whole) for one, other, whole in plane}
+                              for plane in paper[number]]
                     self.assertEqual(rank(planes), len(planes))
                     self.assertEqual(rank(planes + [pair_table(*chances.both_sides(player, play))]), len(planes))
 
     def test_form(self):
         bad = lambda value: lean_paper_error(HUMMING, QUIET, 1, value)
         self.assertIsNone(bad(PAPER))
-        for value in ODD_VALUES + MIXED + (list(PAPER), PAPER + ((),), PAPER[:2] + (list(PAPER[2]),), PAPER[:2] + (None,)):
+        for value in ODD_VALUES + MIXED + (list(PAPER), PAPER + ((),), PAPER[:2] + (list(PAPER[2]),),
+                                           PAPER[:2] + (None,)):
             wanted = {"((), (), ())": "first", str(((0, 0, 0),) * 3): ("plane", 0, 0)}
             self.assertEqual(bad(value), wanted.get(str(value)[:99], "form"))
 
     def test_planes_that_are_none(self):
-        for own in ((), None, [(1, 2, 1)], ((1, 2),), ((1, 2, 0),), ((1, 2, True),), ((True, 2, 1),), ((1, 3, 1),), ((3, 1, 1),), ((-1, 2, 1),), ((2, -1, 1),),
-                    ((1, 2, 1), (1, 2, 2)), ((2, 1, 1), (1, 2, 1)), ((1, 2, 1), (1, 2, 1)), ((1, 2, None),), ([1, 2, 1],), (1, 2, 1),
+        for own in ((), None, [(1, 2, 1)], ((1, 2),), ((1, 2, 0),), ((1, 2, True),), ((True, 2, 1),), ((1, 3, 1),),
+                    ((3, 1, 1),), ((-1, 2, 1),), ((2, -1, 1),),
+                    ((1, 2, 1), (1, 2, 2)), ((2, 1, 1), (1, 2, 1)), ((1, 2, 1), (1, 2, 1)), ((1, 2, None),),
+                    ([1, 2, 1],), (1, 2, 1),
                     ((1, 2, 1, 1),), FLAT, tuple((one, other, -7 * whole) for one, other, whole in FLAT)):
-            self.assertEqual(lean_paper_error(HUMMING, QUIET, 1, PAPER[:1] + ((FLAT, own),) + PAPER[2:]), ("plane", 1, 1), own)
-            self.assertEqual(lean_paper_error(HUMMING, QUIET, 1, PAPER[:1] + ((FLAT,), (FLAT, own, own))), ("plane", 2, 1), own)
+            self.assertEqual(lean_paper_error(HUMMING, QUIET, 1, PAPER[:1] + ((FLAT, own),) + PAPER[2:]),
+                             ("plane", 1, 1), own)
+            self.assertEqual(lean_paper_error(HUMMING, QUIET, 1, PAPER[:1] + ((FLAT,), (FLAT, own, own))),
+                             ("plane", 2, 1), own)
         # A plane that comes of two ahead of it by fractions.
         halves = (FLAT[:2], FLAT[2:], tuple((one, other, 3 if one == 1 else -5) for one, other, _ in FLAT))
         self.assertEqual(lean_paper_error(HUMMING, QUIET, 1, PAPER[:1] + (halves,) + PAPER[2:]), ("plane", 1, 2))
@@ -270,7 +283,8 @@ class Papers(unittest.TestCase):
     def fault(self, chances, player, paper):
         """What is told of a paper of which all planes are such and even."""
         come, game = states(chances.game), chances.game
-        tables = [[{(come[one], come[other]): Fraction(whole) for one, other, whole in plane} for plane in planes] for planes in paper]
+        tables = [[{(come[one], come[other]): Fraction(whole) for one, other, whole in plane} for plane in planes]
+                  for planes in paper]
         first = come.index(chances.first)
         if rank(tables[first] + [{(chances.first, chances.first): Fraction(1)}]) > len(tables[first]):
             return "first"
@@ -278,7 +292,8 @@ class Papers(unittest.TestCase):
             for k, table in enumerate(planes):
                 for move in moves(game, come[number]):
                     behind = come.index(stepped(game, come[number], move))
-                    if rank(tables[behind] + [self.behind(chances, player, table, come[number], move)]) > len(tables[behind]):
+                    if rank(tables[behind] + [self.behind(chances, player, table, come[number],
+                                                          move)]) > len(tables[behind]):
                         return ("behind", number, k, move)
         return None
 

@@ -67,7 +67,8 @@ class MixedRings(unittest.TestCase):
         for game, owners, many, cut in some_many(572, 150, 3, 3):
             every = list(itertools.islice(histories(cut), 1000))
             if len(every) < 1000:
-                bad = [history for history in every if ring_of(game, owners, tuple((deed, 0) for deed in many), history)]
+                bad = [history for history in every if ring_of(game, owners, tuple((deed, 0) for deed in many),
+                                                               history)]
                 self.assertEqual(bad_history(game, owners, many) is None, not bad)
                 if bad:
                     self.assertIn(bad_history(game, owners, many), bad)
@@ -131,12 +132,14 @@ class MixedRings(unittest.TestCase):
 
     def rings_of(self, game, owners, many):
         """The occurrences of all mixed rings."""
-        return {tuple(sorted(k for k, _, _ in ring)) for ring in mixed_rings([pieces_of(owners, game[2][deed]) for deed in many])}
+        return {tuple(sorted(k for k, _, _ in ring))
+                for ring in mixed_rings([pieces_of(owners, game[2][deed]) for deed in many])}
 
     def test_ways_are_cut_short(self):
         # Ways by hand, as pieces (occurrence, piece): one comes to the occurrence 0 three times, others twice.
         ways = ([(0, 0), (1, 0), (1, 1), (0, 4), (2, 0), (2, 1), (0, 2), (3, 0), (3, 1)],
-                [(0, 0), (1, 0), (1, 1), (0, 1), (2, 0), (2, 1)], [(0, 0), (0, 1), (1, 0), (1, 1), (0, 3), (0, 2), (2, 0), (2, 1)])
+                [(0, 0), (1, 0), (1, 1), (0, 1), (2, 0), (2, 1)],
+                [(0, 0), (0, 1), (1, 0), (1, 1), (0, 3), (0, 2), (2, 0), (2, 1)])
         for way, turn in [(way, turn) for way in ways for turn in range(len(way))]:
             for row in (way[turn:] + way[:turn], (way[turn:] + way[:turn])[::-1]):
                 short = shortened(row)
@@ -179,8 +182,10 @@ class Judges(unittest.TestCase):
     def test_mixed_form(self):
         bad = lambda value: mixed_error(STORE, OWNERS, (0, 0, 3), value)
         self.assertIsNone(bad(((0, 1, 0), (1, 0, 1))))
-        for value in ODD_VALUES + MIXED + ([(0, 1, 0), (1, 0, 1)], ((0, 1, 0),), ((0, 1, 0), (0, 0, 1)), ((0, 1, 0), (1, 0, 2)),
-                                           ((0, 1, 0), (1, 0)), ((0, 1, 0), (3, 0, 1)), ((0, 1, 0), (1, False, 1)), ((0, 1, 0), [1, 0, 1]),
+        for value in ODD_VALUES + MIXED + ([(0, 1, 0), (1, 0, 1)], ((0, 1, 0),), ((0, 1, 0), (0, 0, 1)),
+                                           ((0, 1, 0), (1, 0, 2)),
+                                           ((0, 1, 0), (1, 0)), ((0, 1, 0), (3, 0, 1)), ((0, 1, 0), (1, False, 1)),
+                                           ((0, 1, 0), [1, 0, 1]),
                                            ((0, 1, 0), (True, 0, 1)), ((0, 1, 0), (-1, 0, 1)), ((0, 1, 0), (1, 0, -1)),
                                            ((0, 1, 0), (1, 0, 1), None), ((0, 1, 0), (1, 0, 1), (2, 0, 2)),
                                            ((0, 1, 0), (1, 0, 1, 0)), ((0, 1, 0), (1, 0, 1, 0, 0))):
@@ -211,13 +216,18 @@ class Judges(unittest.TestCase):
         links = (("meet", 0, 0, 1, 0), ("meet", 0, 1, 1, 1), ("own", 0, 0), ("own", 1, 0))
         bad = lambda *value: sorting_error(STORE, OWNERS, (0, 0), value)
         self.assertEqual(bad(links[:1], links[1:2], links[2:3], links[3:]), "round")
-        for value in (((),), (list(links[:1]),), (links[::-1],), (links[:1] * 2,), (("own", 0, 1),), ((("own", 0, 1),),),
-                      ((("own", 0, False),),), ((("meet", 1, 0, 0, 0),),), ((("meet", 0, 0, 1, 1),),), ((("own", 2, 0),),),
-                      ((["own", 0, 0],),), ((("own", 0),),), ((("meet", 0, 0, 1),),), ((("meet", 0, 0, True, 0),),), ((None,),),
-                      (links, None), ((("owns", 0, 0),),), (((0, 0, 0),),), ((("own", 0, 0), ("own", 0, 0)),), ((("own", True, 0),),), ((([], 0, 0),),), ((("meet", 0, 0, 1, 0, 0),),)):
+        for value in (((),), (list(links[:1]),), (links[::-1],), (links[:1] * 2,), (("own", 0, 1),),
+                      ((("own", 0, 1),),),
+                      ((("own", 0, False),),), ((("meet", 1, 0, 0, 0),),), ((("meet", 0, 0, 1, 1),),),
+                      ((("own", 2, 0),),),
+                      ((["own", 0, 0],),), ((("own", 0),),), ((("meet", 0, 0, 1),),), ((("meet", 0, 0, True, 0),),),
+                      ((None,),),
+                      (links, None), ((("owns", 0, 0),),), (((0, 0, 0),),), ((("own", 0, 0), ("own", 0, 0)),),
+                      ((("own", True, 0),),), ((([], 0, 0),),), ((("meet", 0, 0, 1, 0, 0),),)):
             self.assertEqual(bad(*value), "form", value)
         for value in ODD_VALUES + MIXED:
-            self.assertEqual(sorting_error(STORE, OWNERS, (0, 0), value), ("link", links[0]) if value == () else "form", value)
+            self.assertEqual(sorting_error(STORE, OWNERS, (0, 0), value), ("link", links[0]) if value == () else "form",
+                             value)
             self.assertEqual(sorting_error(STORE, OWNERS, (1,), value), None if value == () else "form", value)
 
     def test_links_that_do_not_stand_in_just_one_lot(self):
@@ -290,10 +300,12 @@ class AnyNumber(unittest.TestCase):
 
     def test_eight_deeds(self):
         cells = ((6, 0),) * 6
-        game = (2, cells, tuple(reading((0, 1, 2), (k,)) for k in (3, 4, 5)) * 2 + (deed_at(3), deed_at(4)), ((YES,) * 6,) * 2)
+        game = (2, cells, tuple(reading((0, 1, 2), (k,)) for k in (3, 4, 5)) * 2 + (deed_at(3), deed_at(4)),
+                ((YES,) * 6,) * 2)
         self.assertTrue(ordered(game, (0, 1, 2, 3, 4, 5)))
         self.assertTrue(ordered(game, (0,) * 6))
-        self.assertEqual(ordered(game[:2] + ((PUT[:3] + (((0, chosen(0, [1, 2])), (1, C0)), (0, 1)),) * 8,) + game[3:], (0, 1, 1, 1, 1, 1)),
+        self.assertEqual(ordered(game[:2] + ((PUT[:3] + (((0, chosen(0, [1, 2])), (1, C0)), (0, 1)),) * 8,) + game[3:],
+                                 (0, 1, 1, 1, 1, 1)),
                          False)
 
 

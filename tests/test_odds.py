@@ -61,7 +61,8 @@ class Odds(unittest.TestCase):
         self.assertGreater(max(kinds), 3)
 
     def test_deeds_that_are_refused_or_cannot_be_done(self):
-        game = (2, ((3, 0),), ((None, 3, YES, ((0, ("draw",)),), ()), (0, 2, ("same", ("cell", 0), ("is", 0)), (), (0,)),
+        game = (2, ((3, 0),), ((None, 3, YES, ((0, ("draw",)),), ()),
+                               (0, 2, ("same", ("cell", 0), ("is", 0)), (), (0,)),
                                (None, 4, ("below", ("cell", 0), ("is", 2)), (), ())), ((YES,), (YES,)))
         wire = silent_wire(game)
         thirds = tuple(((n,), (1, 3)) for n in range(3))
@@ -111,7 +112,8 @@ class Foretold(unittest.TestCase):
                 some = [(weight, state) for its_row, weight, state in plays if its_row[:len(row)] == row]
                 whole = sum(weight for weight, _ in some)
                 for cell, (size, _) in enumerate(game[1]):
-                    wanted = tuple(as_odds(sum((weight for weight, state in some if state[cell] == value), Fraction(0)) / whole)
+                    wanted = tuple(as_odds(sum((weight for weight, state in some if state[cell] == value),
+                                               Fraction(0)) / whole)
                                    for value in range(size))
                     self.assertEqual(foretold(game, wire, ears, deeds, row, cell), wanted)
             if not plays:
@@ -128,7 +130,8 @@ class Foretold(unittest.TestCase):
                         if whole[:many] == row:
                             longer[whole[:many + 1]] = longer.get(whole[:many + 1], 0) + weight
                     means = [sum(weight * Fraction(*foretold(game, wire, ears, deeds, one, 0)[value])
-                                 for one, weight in longer.items()) / sum(longer.values()) for value in range(game[1][0][0])]
+                                 for one, weight in longer.items()) / sum(longer.values())
+                                 for value in range(game[1][0][0])]
                     self.assertEqual(foretold(game, wire, ears, deeds, row, 0), tuple(map(as_odds, means)))
 
 
@@ -184,7 +187,8 @@ class Rows(unittest.TestCase):
         """
         ticks = ("cell", 5)
         size = [(4, 0)] * 5 + [(6, 0)]
-        effects = tuple((cell, ("choose", ("same", ticks, ("is", cell)), ("draw",), ("cell", cell))) for cell in range(5))
+        effects = tuple((cell, ("choose", ("same", ticks, ("is", cell)), ("draw",), ("cell", cell)))
+                        for cell in range(5))
         deed = (None, 4, YES, effects + ((5, ("sum", ticks, ("is", 1))),), ())
         # 3000 numbers below 4096 are unlike if those from 2999 on are one.
         least = 2999 + more
@@ -192,7 +196,8 @@ class Rows(unittest.TestCase):
         values = [("cell", k) for k in range(5)] + [("draw",)]
         below = ("below", values[5], ("is", figures[5]))
         for k in reversed(range(5)):
-            below = ("either", ("below", values[k], ("is", figures[k])), ("both", ("same", values[k], ("is", figures[k])), below))
+            below = ("either", ("below", values[k], ("is", figures[k])),
+                     ("both", ("same", values[k], ("is", figures[k])), below))
         last = ("both", ("same", ("was", 5), ("is", 5)), below)
         return (2, tuple(size), (deed,), ((YES,) * 6,) * 2), (self.entries(last, values), ())
 

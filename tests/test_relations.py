@@ -44,28 +44,33 @@ def moved(thing, cells, deeds):
 def beside(game, other):
     """Two games of as many players side by side."""
     many, before = len(game[1]), len(game[2])
-    deeds = tuple((doer, outcomes, moved(guard, many, before), tuple((c + many, moved(term, many, before)) for c, term in effects), seen)
+    deeds = tuple((doer, outcomes, moved(guard, many, before),
+                   tuple((c + many, moved(term, many, before)) for c, term in effects), seen)
                   for doer, outcomes, guard, effects, seen in other[2])
-    sights = tuple(sees + tuple(moved(see, many, before) for see in its_sees) for sees, its_sees in zip(game[3], other[3]))
+    sights = tuple(sees + tuple(moved(see, many, before) for see in its_sees) for sees,
+                   its_sees in zip(game[3], other[3]))
     return (game[0], game[1] + other[1], game[2] + deeds, sights)
 
 
 def wires_beside(game, wire, other):
     """The wire of both."""
-    return tuple(rule + tuple((moved(when, len(game[1]), len(game[2])), moved(what, len(game[1]), len(game[2]))) for when, what in its_rule)
+    return tuple(rule + tuple((moved(when, len(game[1]), len(game[2])), moved(what, len(game[1]), len(game[2])))
+                              for when, what in its_rule)
                  for rule, its_rule in zip(wire, other))
 
 
 def cells_wire(things, game):
     """A wire that asks cells alone."""
     cells = len(game[1])
-    return tuple(tuple((things.tiny_condition(cells), things.tiny_term(cells, ())) for _ in range(things.random.randint(0, 2))) for _ in range(game[0]))
+    return tuple(tuple((things.tiny_condition(cells), things.tiny_term(cells, ()))
+                       for _ in range(things.random.randint(0, 2))) for _ in range(game[0]))
 
 
 def some_pairs(seed, many):
     """So many pairs of games of two players side by side, with wires that tell of cells alone."""
     things = Things(seed)
-    return [[(game, cells_wire(things, game)) for game in (things.tiny_game(2), things.tiny_game(2))] for _ in range(many)]
+    return [[(game, cells_wire(things, game)) for game in (things.tiny_game(2), things.tiny_game(2))]
+            for _ in range(many)]
 
 
 def with_idle_cell(game):
@@ -123,7 +128,8 @@ class SideBySide(unittest.TestCase):
             (game, wire), (other, its_wire) = [(self.shown(one), own) for one, own in pair]
             both, both_wire = beside(game, other), wires_beside(game, wire, its_wire)
             for player in range(2):
-                pairs = [(s + u, t + v) for s, t in pairs_by_views(game, player) for u, v in pairs_by_views(other, player)]
+                pairs = [(s + u, t + v) for s, t in pairs_by_views(game, player) for u,
+                         v in pairs_by_views(other, player)]
                 self.assertEqual(pairs_by_views(both, player), tuple(sorted(pairs)))
                 told = [leak(game, wire, player), leak(other, its_wire, player), leak(both, both_wire, player)]
                 self.assertEqual(told[2] is None, told[0] is None and told[1] is None)
@@ -150,10 +156,13 @@ class SideBySide(unittest.TestCase):
                 self.assertEqual(firm_row(both, player, together, tries), row)
                 self.assertEqual(guess_alone(both, player, together, tries), guess_alone(game, player, some, tries))
                 for call in (firm_then, firm_cells, guess_cells):
-                    self.assertEqual(call(both, player, together, tries)[:len(game[1])], call(game, player, some, tries))
-                self.assertEqual(disturbs(both, player, together, tries) is None, disturbs(game, player, some, tries) is None)
+                    self.assertEqual(call(both, player, together, tries)[:len(game[1])],
+                                     call(game, player, some, tries))
+                self.assertEqual(disturbs(both, player, together, tries) is None,
+                                 disturbs(game, player, some, tries) is None)
                 lot = tries_lot(both, player, together, tries)
-                self.assertEqual({(many, state[:len(game[1])]) for many, state in lot}, set(tries_lot(game, player, some, tries)))
+                self.assertEqual({(many, state[:len(game[1])]) for many, state in lot},
+                                 set(tries_lot(game, player, some, tries)))
                 shown += sum(item is not None for item in row)
         self.assertGreater(shown, 40)
 
@@ -163,7 +172,8 @@ class SideBySide(unittest.TestCase):
             both, both_wire = beside(game, other), wires_beside(game, wire, its_wire)
             one = tuple(things.random.randrange(len(game[2])) for _ in range(2))
             two = tuple(things.random.randrange(len(other[2])) for _ in range(2))
-            deeds = tuple(deed + len(game[2]) for deed in two[:1]) + one + tuple(deed + len(game[2]) for deed in two[1:])
+            deeds = tuple(deed + len(game[2]) for deed in two[:1]) + one + tuple(deed + len(game[2])
+                                                                                 for deed in two[1:])
             rows, its_rows = rows_by(game, wire, (0,), one), rows_by(other, its_wire, (0,), two)
             told = rows_by(both, both_wire, (0,), deeds)
             self.assertEqual(len(told), len(rows) * len(its_rows))
@@ -171,7 +181,8 @@ class SideBySide(unittest.TestCase):
                 continue
             for cell in range(len(game[1])):
                 self.assertEqual(hit(both, both_wire, (0,), deeds, cell), hit(game, wire, (0,), one, cell))
-                self.assertEqual(foretold(both, both_wire, (0,), deeds, (), cell), foretold(game, wire, (0,), one, (), cell))
+                self.assertEqual(foretold(both, both_wire, (0,), deeds, (), cell),
+                                 foretold(game, wire, (0,), one, (), cell))
             products = sorted(as_odds(Fraction(*x) * Fraction(*y)) for _, x in rows for _, y in its_rows)
             self.assertEqual(sorted(x for _, x in told), products)
             for row, _ in told[:4]:
@@ -204,12 +215,14 @@ class IdleCells(unittest.TestCase):
             wider = lambda some: tuple(state + (2,) for state in some)
             self.assertEqual(states(more), wider(states(game)))
             for player in range(game[0]):
-                self.assertEqual(pairs_by_rows(more, wire, player), tuple(tuple(wider(pair)) for pair in pairs_by_rows(game, wire, player)))
+                self.assertEqual(pairs_by_rows(more, wire, player),
+                                 tuple(tuple(wider(pair)) for pair in pairs_by_rows(game, wire, player)))
                 for call in (leak, lack):
                     self.assertEqual(call(more, wire, player), call(game, wire, player))
                 self.assertEqual(reach(more, wire, player), reach(game, wire, player))
                 rule = ((YES, things.tiny_term(len(game[1]), ())),)
-                for call, limit in ((lambda own: join_gap(own, wire, player, rule), 3000), (lambda own: join_spill(own, wire, player, rule), 3000),
+                for call, limit in ((lambda own: join_gap(own, wire, player, rule), 3000),
+                                    (lambda own: join_spill(own, wire, player, rule), 3000),
                                     (lambda own: leaning(own, wire, player), 100)):
                     try:
                         self.assertEqual(call(more), call(game))
@@ -219,12 +232,15 @@ class IdleCells(unittest.TestCase):
                 if tries:
                     some = states(game)[:2]
                     self.assertEqual(firm_row(more, player, wider(some), tries), firm_row(game, player, some, tries))
-                    self.assertEqual(firm_cells(more, player, wider(some), tries), firm_cells(game, player, some, tries) + ("hidden",))
+                    self.assertEqual(firm_cells(more, player, wider(some), tries),
+                                     firm_cells(game, player, some, tries) + ("hidden",))
                     self.assertEqual(alone_rows(more, wider(some)[0], tries), alone_rows(game, some[0], tries))
             self.assertEqual(rows_by(more, wire, ears, deeds), rows_by(game, wire, ears, deeds))
             for row, _ in rows_by(game, wire, ears, deeds)[:5]:
-                self.assertEqual(odds(more, wire, ears, deeds, row), tuple((state + (2,), one) for state, one in odds(game, wire, ears, deeds, row)))
-                self.assertEqual(sure(more, known(more, wire, ears, row)), sure(game, known(game, wire, ears, row)) + (2,))
+                self.assertEqual(odds(more, wire, ears, deeds, row),
+                                 tuple((state + (2,), one) for state, one in odds(game, wire, ears, deeds, row)))
+                self.assertEqual(sure(more, known(more, wire, ears, row)),
+                                 sure(game, known(game, wire, ears, row)) + (2,))
                 self.assertEqual(foretold(more, wire, ears, deeds, row, len(game[1])), ((0, 1), (0, 1), (1, 1)))
                 self.assertEqual(hit(more, wire, ears, deeds, 0), hit(game, wire, ears, deeds, 0))
 
@@ -238,11 +254,14 @@ class NamedAnew(unittest.TestCase):
             some = tuple(sorted(map(named.state, trying.known)))
             new = (named.new_game, player, some, tries)
             told = lambda shown: tuple(self.named(named, item) for item in shown)
-            self.assertEqual(tries_lot(*new), tuple(sorted((many, named.state(state)) for many, state in tries_lot(*trying.arguments))))
+            self.assertEqual(tries_lot(*new), tuple(sorted((many, named.state(state)) for many,
+                                                           state in tries_lot(*trying.arguments))))
             self.assertEqual(firm_row(*new), told(firm_row(*trying.arguments)))
             self.assertEqual(guess_alone(*new), told(guess_alone(*trying.arguments)))
             for call in (firm_then, firm_cells, guess_cells):
-                self.assertEqual(call(*new), tuple(item for _, item in sorted(zip(named.cells, call(*trying.arguments)), key=lambda one: one[0])))
+                self.assertEqual(call(*new), tuple(item for _,
+                                                   item in sorted(zip(named.cells, call(*trying.arguments)),
+                                                                  key=lambda one: one[0])))
             found = [disturbs(*trying.arguments), disturbs(*new)]
             self.assertEqual(*[None if one is None else len(one[1]) for one in found])
             state = trying.known[0]
@@ -262,17 +281,20 @@ class NamedAnew(unittest.TestCase):
         things = Things(685)
         for chances, ears, deeds in some_chances(686, 80):
             named = Named(chances.game, chances.wire, things.naming(chances.game))
-            new = (named.new_game, named.new_wire, tuple(sorted(named.players[ear] for ear in ears)), tuple(named.deeds[deed] for deed in deeds))
+            new = (named.new_game, named.new_wire, tuple(sorted(named.players[ear] for ear in ears)),
+                   tuple(named.deeds[deed] for deed in deeds))
             old = (chances.game, chances.wire, ears, deeds)
             order = sorted(range(len(ears)), key=lambda k: named.players[ears[k]])
             for row, chance in rows_by(*old):
                 its_row = tuple(tuple(letters[k] for k in order) for letters in row)
                 self.assertIn((its_row, chance), rows_by(*new))
-                self.assertEqual(odds(*new, its_row), tuple(sorted((named.state(state), one) for state, one in odds(*old, row))))
+                self.assertEqual(odds(*new, its_row), tuple(sorted((named.state(state), one) for state,
+                                                                   one in odds(*old, row))))
                 for cell in range(len(chances.game[1])):
                     self.assertEqual(foretold(*new, its_row[:2], named.cells[cell]), foretold(*old, row[:2], cell))
             if rows_by(*old):
-                self.assertEqual([hit(*new, named.cells[cell]) for cell in range(2)], [hit(*old, cell) for cell in range(2)])
+                self.assertEqual([hit(*new, named.cells[cell]) for cell in range(2)],
+                                 [hit(*old, cell) for cell in range(2)])
             for player in range(chances.game[0]):
                 try:
                     told = [leaning(chances.game, chances.wire, player), leaning(*new[:2], named.players[player])]
@@ -286,7 +308,8 @@ class NamedAnew(unittest.TestCase):
             game, wire, rule, lag, owners, spare = house
             named = Named(game, wire, things.naming(game))
             its_spare = Named(game, spare, (named.players, named.cells, named.deeds)).new_wire
-            new = (named.new_game, named.new_wire, tuple((named.thing(when), named.thing(what)) for when, what in rule), lag, named.state(owners), its_spare)
+            new = (named.new_game, named.new_wire, tuple((named.thing(when), named.thing(what)) for when, what in rule),
+                   lag, named.state(owners), its_spare)
             words = [[word for word, _ in audit(one)] for one in (house, new)]
             if "open" not in words[0]:
                 self.assertEqual(*words)
@@ -301,7 +324,8 @@ class MoreTold(unittest.TestCase):
             more = tuple(rule + own for rule, own in zip(wire, things.tiny_wire(game)))
             for play, _, state in chances.plays_by(deeds)[:6]:
                 rows = [heard(game, one, ears, play) for one in (wire, more)]
-                self.assertEqual(tuple(tuple(letter[:len(wire[ear])] for ear, letter in zip(ears, letters)) for letters in rows[1]), rows[0])
+                self.assertEqual(tuple(tuple(letter[:len(wire[ear])] for ear, letter in zip(ears, letters))
+                                       for letters in rows[1]), rows[0])
                 some = [known(game, one, ears, row) for one, row in zip((wire, more), rows)]
                 self.assertLessEqual(set(some[1]), set(some[0]))
                 self.assertIn(state, some[1])
@@ -315,7 +339,8 @@ class MoreTold(unittest.TestCase):
                 lacks = [lack(game, one, player) for one in (wire, more)]
                 self.assertTrue(lacks[1] is None or lacks[0] is not None)
                 self.assertLessEqual(set(pairs_by_rows(game, more, player)), set(pairs_by_rows(game, wire, player)))
-                self.assertEqual(spilling(game, more, player)[:len(spilling(game, wire, player))], spilling(game, wire, player))
+                self.assertEqual(spilling(game, more, player)[:len(spilling(game, wire, player))],
+                                 spilling(game, wire, player))
         self.assertEqual(len(kinds), 3)
 
     def test_an_entry_that_is_told_twice_tells_nothing_more(self):
@@ -325,7 +350,8 @@ class MoreTold(unittest.TestCase):
             for cell in range(len(game[1])):
                 if rows_by(game, wire, ears, deeds):
                     self.assertEqual(hit(game, twice, ears, deeds, cell), hit(game, wire, ears, deeds, cell))
-            self.assertEqual([one for _, one in rows_by(game, twice, ears, deeds)], [one for _, one in rows_by(game, wire, ears, deeds)])
+            self.assertEqual([one for _, one in rows_by(game, twice, ears, deeds)],
+                             [one for _, one in rows_by(game, wire, ears, deeds)])
             for player in range(game[0]):
                 self.assertEqual((leak(game, twice, player), lack(game, twice, player), reach(game, twice, player)),
                                  (leak(game, wire, player), lack(game, wire, player), reach(game, wire, player)))
@@ -335,7 +361,8 @@ class KnownGames(unittest.TestCase):
     def wires(self, name):
         """The wires of a known game."""
         game = known_game(name)
-        return game, [plain_wire(game), bare_wire(game), silent_wire(game)] + ([changes_wire(game)] if name not in ("coin", "door") else [])
+        return game, [plain_wire(game), bare_wire(game), silent_wire(game)] + ([changes_wire(game)]
+                                                                               if name not in ("coin", "door") else [])
 
     def test_odds(self):
         things = Things(692)
@@ -348,10 +375,12 @@ class KnownGames(unittest.TestCase):
                     told = chances.heard_by_deeds((player,), deeds)
                     whole = sum(sum(weights.values()) for weights in told.values())
                     self.assertEqual(rows_by(game, wire, (player,), deeds),
-                                     tuple((row, as_odds(sum(weights.values()) / whole)) for row, weights in told.items()))
+                                     tuple((row, as_odds(sum(weights.values()) / whole)) for row,
+                                           weights in told.items()))
                     for row, weights in list(told.items())[:5]:
                         self.assertEqual(odds(game, wire, (player,), deeds, row),
-                                         tuple((state, as_odds(weights[state] / sum(weights.values()))) for state in sorted(weights)))
+                                         tuple((state, as_odds(weights[state] / sum(weights.values())))
+                                               for state in sorted(weights)))
 
     def test_by_plain_and_by_changes_the_same_is_known(self):
         things = Things(693)
@@ -366,7 +395,8 @@ class KnownGames(unittest.TestCase):
                 self.assertTrue(all(set(one) <= set(some[2]) for one in some))
                 self.assertEqual(some[0], some[-1] if len(wires) == 4 else some[0])
                 if play:
-                    rows = [odds(game, wire, (player,), tuple(deed for deed, _ in play), heard(game, wire, (player,), play)) for wire in wires]
+                    rows = [odds(game, wire, (player,), tuple(deed for deed, _ in play),
+                                 heard(game, wire, (player,), play)) for wire in wires]
                     self.assertEqual(rows[0], rows[-1] if len(wires) == 4 else rows[0])
                 told = tuple(heard_by(game, plain, one, play) for one in range(game[0]))
                 self.assertEqual(finders(game, plain, told), ())

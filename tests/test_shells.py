@@ -20,7 +20,8 @@ WIRES = {"plain": plain_wire, "changes": changes_wire, "bare": bare_wire, "silen
 ASKS = ("sent", "row", "road", "lacks", "way", "open", "shown", "ahead", "elder", "firm", "leak", "lack")
 LINES = ["state", "play", "log", "accused", "undo", "redo"] + [f"{word} 0" for word in ASKS + ("mend", "join")]
 LINES += [f"{word} 0 0" for word in ("offer", "take", "serve", "come", "twice", "lose", "ask", "guest", "watch")]
-LOG = (("serve", 0, 1), ("offer", 0, 1), ("take", 0, 0), ("come", 1, 0), ("come", 1, 2), ("join", 1), ("offer", 0, 1), ("come", 0, 0))
+LOG = (("serve", 0, 1), ("offer", 0, 1), ("take", 0, 0), ("come", 1, 0), ("come", 1, 2), ("join", 1), ("offer", 0, 1),
+       ("come", 0, 0))
 
 
 def one_line(text):
@@ -31,7 +32,8 @@ def one_line(text):
 def kept_shell(wire=(FAIR, FAIR), rule=(WHETHER,), log=LOG):
     """A shell with a hall of the box behind some calls."""
     shell = Shell()
-    for line in (f"game {one_line(game_text(BOX))}", f"wire {one_line(wire_text(wire))}", f"rule {one_line(rule_text(rule))}"):
+    for line in (f"game {one_line(game_text(BOX))}", f"wire {one_line(wire_text(wire))}",
+                 f"rule {one_line(rule_text(rule))}"):
         assert shell.say(line) == "kept"
     assert shell.say("begin") == "begun"
     for number, call in enumerate(log):
@@ -48,14 +50,16 @@ def cells(shown):
 
 def letters(row):
     """Letters as a shell tells them."""
-    return " / ".join(",".join("." if item is None else str(item) for item in letter) or "-" for letter in row) or "none"
+    return " / ".join(",".join("." if item is None else str(item) for item in letter) or "-"
+                      for letter in row) or "none"
 
 
 def firm(told):
     """What is firm as a shell tells it."""
     if told is None:
         return "none"
-    texts = ["-" if one is None else " ".join([one[0]] + [f"{c}:{value}" for pairs in one[1:] for c, value in pairs]) for one in told[0]]
+    texts = ["-" if one is None else " ".join([one[0]] + [f"{c}:{value}" for pairs in one[1:] for c, value in pairs])
+             for one in told[0]]
     return "; ".join(texts) or "nothing"
 
 
@@ -72,9 +76,12 @@ def answers(hall):
     for p in range(hall.game[0]):
         numbers = {"road": hall.road(p), "lacks": hall.lacks(p), "way": hall.on_the_way(p), "open": hall.open_tries(p)}
         found.update({f"{word} {p}": " ".join(map(str, some)) or "none" for word, some in numbers.items()})
-        found.update({f"sent {p}": letters(hall.sent(p)), f"row {p}": letters(hall.device(p)[0]), f"shown {p}": cells(hall.shown(p)),
-                      f"ahead {p}": cells(hall.ahead(p)), f"elder {p}": cells(hall.elder_shown(p)), f"firm {p}": firm(hall.firm(p)),
-                      f"leak {p}": plays(leak(hall.game, hall.wire, p)), f"lack {p}": plays(lack(hall.game, hall.wire, p))})
+        found.update({f"sent {p}": letters(hall.sent(p)), f"row {p}": letters(hall.device(p)[0]),
+                      f"shown {p}": cells(hall.shown(p)),
+                      f"ahead {p}": cells(hall.ahead(p)), f"elder {p}": cells(hall.elder_shown(p)),
+                      f"firm {p}": firm(hall.firm(p)),
+                      f"leak {p}": plays(leak(hall.game, hall.wire, p)),
+                      f"lack {p}": plays(lack(hall.game, hall.wire, p))})
         for lag in (0, 1, 200):
             found[f"watch {p} {lag}"] = cells(hall.watched_shown(p, lag))
         for place in range(len(hall.guests(p))):
@@ -106,12 +113,14 @@ class Answers(unittest.TestCase):
                     try:
                         going.edit(*call)
                     except Wrong:
-                        wanted = "error Refused" if all(type(number) is int and number >= 0 for number in call[1:]) else "what"
+                        wanted = "error Refused" if all(type(number) is int and number >= 0
+                                                        for number in call[1:]) else "what"
                         self.assertEqual(shell.say(line), wanted, line)
                         seen.add(wanted)
                     else:
                         self.assertEqual(shell.say(line), f"version {getattr(hall, call[0])(*call[1:])}")
-                some = answers(hall) if word == "plain" else {"log": " | ".join(" ".join(map(str, call)) for call in hall.edits) or "none"}
+                some = answers(hall) if word == "plain" else {"log": " | ".join(" ".join(map(str, call))
+                                                                                for call in hall.edits) or "none"}
                 for line, answer in some.items():
                     self.assertEqual(shell.say(line), answer, line)
                     seen.add(answer.split(" ")[0])
@@ -123,13 +132,16 @@ class Answers(unittest.TestCase):
         shell.say("known door plain")
         for line in ("offer 0 1", "offer 0 0", "offer 0 1", "come 0 0"):
             shell.say(line)
-        hall = hall_behind(game, plain_wire(game), (), (("offer", 0, 1), ("offer", 0, 0), ("offer", 0, 1), ("come", 0, 0)))
+        hall = hall_behind(game, plain_wire(game), (), (("offer", 0, 1), ("offer", 0, 0), ("offer", 0, 1),
+                                                        ("come", 0, 0)))
         self.assertEqual(hall.firm(0)[0], (("refused",), ("set", ((2, 0),)), ("set", ((3, 1),))))
         self.assertEqual(shell.say("firm 0"), "refused; set 2:0; set 3:1")
-        self.assertEqual((shell.say("firm 1"), shell.say("come 1 0"), shell.say("firm 1")), ("none", "version 5", "nothing"))
+        self.assertEqual((shell.say("firm 1"), shell.say("come 1 0"), shell.say("firm 1")),
+                         ("none", "version 5", "nothing"))
         self.assertEqual((shell.say("offer 1 3"), shell.say("firm 1")), ("version 6", "-"))
         text = "players 2 | cell 2 0 | cell 2 1 | deed 0 1 0 if yes | deed 0 1 0 if yes | set 0 to 1 | set 1 to 0"
-        for line in (f"game {text} | sights | see yes | see yes | sights | see yes | see yes", "wire to | to", "begin", "offer 0 0", "offer 0 1", "come 0 0"):
+        for line in (f"game {text} | sights | see yes | see yes | sights | see yes | see yes", "wire to | to", "begin",
+                     "offer 0 0", "offer 0 1", "come 0 0"):
             answer = shell.say(line)
         self.assertEqual((answer, shell.say("firm 0"), shell.say("sent 0")), ("version 3", "set; set 0:1 1:0", "-"))
 
@@ -151,26 +163,36 @@ class Lines(unittest.TestCase):
         shell = Shell()
         for line in LINES:
             self.assertEqual(shell.say(line), "no hall", line)
-        for line in ("state 0", "offer 0", "none", "", "shown", "shown x", "come 0 00", "hall", "known", "game", "wire", "rule", "begin "):
+        for line in ("state 0", "offer 0", "none", "", "shown", "shown x", "come 0 00", "hall", "known", "game", "wire",
+                     "rule", "begin "):
             self.assertEqual(shell.say(line), "what", line)
 
     def test_lines_that_are_none(self):
         for shell in (Shell(), kept_shell()):
             for value in ODD_VALUES + MIXED:
                 self.assertEqual(shell.say(value), "what", value)
-            for line in ("", " ", "\n", "State", "state ", " state", "state\n", "play 0", "log 0", "accused 0", "sent", "sent ", "sent 0 0", "sent -1",
-                         "sent 00", "sent 01", "sent 10000", "sent x", "sent 0 ", "sent  0", "sent\t0", "guest 0", "guest 0 0 0", "guest 0 00", "watch 0", "watch 0 x",
-                         "firm", "open", "way", "lack", "leak", "elder 0\n", "undo 0", "redo ", "mend", "mend 0 0", "offer 0 1 2", "come 0 12345", "twice 0 -1",
-                         "take 0 None", "join true", "begin 0", "begins", "begin ", "Begin", "known", "known ", "known coin", "known coin ", "known coin Plain",
-                         "known coin plain ", "known  coin plain", "known coin  plain", "known  plain", "known a b plain", "known coin none", "knowncoin plain",
-                         "game", "wire", "rule", "games x", "offer", "what", "no hall", "version 1", "hall", "tick 0", "device 0", "guests 0", "twin", "row", "say x"):
+            for line in ("", " ", "\n", "State", "state ", " state", "state\n", "play 0", "log 0", "accused 0", "sent",
+                         "sent ", "sent 0 0", "sent -1",
+                         "sent 00", "sent 01", "sent 10000", "sent x", "sent 0 ", "sent  0", "sent\t0", "guest 0",
+                         "guest 0 0 0", "guest 0 00", "watch 0", "watch 0 x",
+                         "firm", "open", "way", "lack", "leak", "elder 0\n", "undo 0", "redo ", "mend", "mend 0 0",
+                         "offer 0 1 2", "come 0 12345", "twice 0 -1",
+                         "take 0 None", "join true", "begin 0", "begins", "begin ", "Begin", "known", "known ",
+                         "known coin", "known coin ", "known coin Plain",
+                         "known coin plain ", "known  coin plain", "known coin  plain", "known  plain",
+                         "known a b plain", "known coin none", "knowncoin plain",
+                         "game", "wire", "rule", "games x", "offer", "what", "no hall", "version 1", "hall", "tick 0",
+                         "device 0", "guests 0", "twin", "row", "say x"):
                 self.assertEqual(shell.say(line), "what", line)
 
     def test_players_that_are_not_there(self):
         shell = kept_shell()
-        for line in [f"{word} {p}" for word in ASKS for p in (2, 9, 9999)] + ["guest 2 0", "watch 2 0", "guest 0 0", "guest 1 1", "guest 1 9999", "watch 0 201", "watch 1 9999"]:
+        for line in [f"{word} {p}" for word in ASKS for p in (2, 9, 9999)] + ["guest 2 0", "watch 2 0", "guest 0 0",
+                                                                              "guest 1 1", "guest 1 9999",
+                                                                              "watch 0 201", "watch 1 9999"]:
             self.assertEqual(shell.say(line), "error Unfit", line)
-        for line in ("offer 2 0", "take 2 0", "come 9 0", "twice 2 0", "lose 2 0", "ask 2 0", "mend 2", "join 9999", "serve 9 0", "serve 0 9", "take 1 0"):
+        for line in ("offer 2 0", "take 2 0", "come 9 0", "twice 2 0", "lose 2 0", "ask 2 0", "mend 2", "join 9999",
+                     "serve 9 0", "serve 0 9", "take 1 0"):
             self.assertEqual(shell.say(line), "error Refused", line)
         self.assertEqual(shell.say("log"), one_line(log_text(LOG))[:-3])
 
@@ -186,7 +208,8 @@ class Lines(unittest.TestCase):
         shell.say(f"game {one_line(game_text(game))}")
         shell.say(f"wire {one_line(wire_text(silent_wire(game)))}")
         self.assertEqual(shell.say("begin"), "begun")
-        self.assertEqual([shell.say(line) for line in ("join 0", "accused", "leak 0", "lack 0", "log")], ["error TooMany"] * 4 + ["none"])
+        self.assertEqual([shell.say(line) for line in ("join 0", "accused", "leak 0", "lack 0", "log")],
+                         ["error TooMany"] * 4 + ["none"])
 
 
 class Kept(unittest.TestCase):
@@ -196,12 +219,14 @@ class Kept(unittest.TestCase):
             for word, wire_of in WIRES.items():
                 shell = Shell()
                 if word == "changes" and name in ("coin", "door"):
-                    self.assertEqual((shell.say(f"known {name} {word}"), shell.say("state")), ("error Unfit", "no hall"))
+                    self.assertEqual((shell.say(f"known {name} {word}"), shell.say("state")),
+                                     ("error Unfit", "no hall"))
                     continue
                 self.assertEqual(shell.say(f"known {name} {word}"), "begun")
                 hall = Hall(game, wire_of(game), ())
                 self.assertEqual(shell.say("state"), ",".join(map(str, hall.state)))
-                self.assertEqual([shell.say(f"sent {p}") for p in range(game[0])], [letters(hall.sent(p)) for p in range(game[0])])
+                self.assertEqual([shell.say(f"sent {p}") for p in range(game[0])],
+                                 [letters(hall.sent(p)) for p in range(game[0])])
         shell = Shell()
         for name in ("chess", "Coin", "coin/", "x" * 999, "none", "12", "a\nb"):
             self.assertEqual(shell.say(f"known {name} plain"), "error Unfit")
@@ -210,7 +235,8 @@ class Kept(unittest.TestCase):
     def test_a_known_game_leaves_what_is_kept(self):
         shell = kept_shell()
         self.assertEqual((shell.say("known chess plain"), shell.say("state")), ("error Unfit", "1,1"))
-        self.assertEqual((shell.say("known coin plain"), shell.say("state"), shell.say("log")), ("begun", "0,0,0", "none"))
+        self.assertEqual((shell.say("known coin plain"), shell.say("state"), shell.say("log")),
+                         ("begun", "0,0,0", "none"))
         self.assertEqual((shell.say("begin"), shell.say("state"), shell.say("log")), ("begun", "0,0", "none"))
         self.assertEqual([shell.say(line) for line in ("join 0", "guest 0 0")], ["version 1", "c1 0"])
 
@@ -219,27 +245,38 @@ class Kept(unittest.TestCase):
         for line in ("begin", "wire to | to", "rule if yes tell c1", "rule ", "wire "):
             self.assertEqual(shell.say(line), "error Unfit", line)
         game = f"game {one_line(game_text(BOX))}"
-        self.assertEqual((shell.say(game), shell.say("begin"), shell.say("rule if yes tell c0"), shell.say("begin")), ("kept", "error Unfit", "kept", "error Unfit"))
+        self.assertEqual((shell.say(game), shell.say("begin"), shell.say("rule if yes tell c0"), shell.say("begin")),
+                         ("kept", "error Unfit", "kept", "error Unfit"))
         self.assertEqual((shell.say("wire to | to"), shell.say("begin")), ("kept", "begun"))
-        self.assertEqual([shell.say(line) for line in ("serve 0 1", "join 0", "guest 0 0")], ["version 1", "version 2", "c0 1"])
+        self.assertEqual([shell.say(line) for line in ("serve 0 1", "join 0", "guest 0 0")],
+                         ["version 1", "version 2", "c0 1"])
         # A game does away with the wire and the rule; the hall stays as it is.
-        self.assertEqual((shell.say(game), shell.say("begin"), shell.say("log")), ("kept", "error Unfit", "serve 0 1 | join 0"))
-        self.assertEqual((shell.say("wire to | to"), shell.say("begin"), shell.say("join 0"), shell.say("guest 0 0")), ("kept", "begun", "version 1", "nothing"))
+        self.assertEqual((shell.say(game), shell.say("begin"), shell.say("log")),
+                         ("kept", "error Unfit", "serve 0 1 | join 0"))
+        self.assertEqual((shell.say("wire to | to"), shell.say("begin"), shell.say("join 0"), shell.say("guest 0 0")),
+                         ("kept", "begun", "version 1", "nothing"))
 
     def test_texts_that_are_read(self):
         shell = kept_shell()
-        for line, answer in (("game ", "error BadText"), ("game players 2", "error BadText"), ("game players 1 | cell 2 0", "error BadText"), ("wire ", "error BadText"),
-                             ("wire to | if yes tell c2 | to", "error BadWire"), ("wire to", "error BadWire"), ("wire to|to", "error BadText"),
-                             ("rule if yes tell c2", "error BadRule"), ("rule if yes tell deed", "error BadText"), ("rule none", "error BadText"),
-                             ("game " + one_line(game_text(BOX)).replace("players 2", "players 9"), "error BadGame"), ("rule  ", "error BadText"),
-                             ("rule if yes tell c0 | ", "error BadText"), ("rule " + " | ".join(["if yes tell c0"] * 8), "error BadRule")):
+        for line, answer in (("game ", "error BadText"), ("game players 2", "error BadText"),
+                             ("game players 1 | cell 2 0", "error BadText"), ("wire ", "error BadText"),
+                             ("wire to | if yes tell c2 | to", "error BadWire"), ("wire to", "error BadWire"),
+                             ("wire to|to", "error BadText"),
+                             ("rule if yes tell c2", "error BadRule"), ("rule if yes tell deed", "error BadText"),
+                             ("rule none", "error BadText"),
+                             ("game " + one_line(game_text(BOX)).replace("players 2", "players 9"), "error BadGame"),
+                             ("rule  ", "error BadText"),
+                             ("rule if yes tell c0 | ", "error BadText"),
+                             ("rule " + " | ".join(["if yes tell c0"] * 8), "error BadRule")):
             self.assertEqual(shell.say(line), answer, line)
         # Nothing has changed.
         self.assertEqual((shell.say("state"), shell.say("begin"), shell.say("state")), ("1,1", "begun", "0,0"))
         self.assertEqual([shell.say(line) for line in ("sent 0", "join 0", "guest 0 0")], [".,0", "version 1", "c1 0"])
-        self.assertEqual((shell.say("rule "), shell.say("begin"), shell.say("join 0"), shell.say("guest 0 0")), ("kept", "begun", "version 1", "nothing"))
+        self.assertEqual((shell.say("rule "), shell.say("begin"), shell.say("join 0"), shell.say("guest 0 0")),
+                         ("kept", "begun", "version 1", "nothing"))
         # Line feeds may stand there themselves.
-        self.assertEqual((shell.say("wire to\nif yes tell c1 | to"), shell.say("begin"), shell.say("sent 0"), shell.say("sent 1")), ("kept", "begun", "0", "-"))
+        self.assertEqual((shell.say("wire to\nif yes tell c1 | to"), shell.say("begin"), shell.say("sent 0"),
+                          shell.say("sent 1")), ("kept", "begun", "0", "-"))
 
     def test_games_and_wires_by_their_texts(self):
         things = Things(660)

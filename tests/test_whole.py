@@ -170,7 +170,8 @@ class Parts(unittest.TestCase):
                     self.assertIn(come[-1], told)
                     self.assertLessEqual(set(told), set(known(game, wire, (player,), row)))
                     rows = rows_by(game, wire, (player,), deeds)
-                    begun = [sum(Fraction(*x) * Fraction(*foretold(game, wire, (player,), deeds, its_row, 0)[value]) for its_row, x in rows)
+                    begun = [sum(Fraction(*x) * Fraction(*foretold(game, wire, (player,), deeds, its_row, 0)[value])
+                                 for its_row, x in rows)
                              for value in range(game[1][0][0])]
                     self.assertEqual([Fraction(*x) for x in foretold(game, wire, (player,), deeds, (), 0)], begun)
             for player in range(game[0]):
@@ -226,7 +227,8 @@ class Halls(unittest.TestCase):
                     self.assertEqual(hall.watched_shown(player, lag), hall.elder_shown(player))
                 row = heard(game, spare, (player,), hall.play)
                 shown = sure(game, known(game, spare, (player,), row))
-                self.assertTrue(all(item == value for item, value in zip(hall.elder_shown(player), shown) if item is not None))
+                self.assertTrue(all(item == value for item, value in zip(hall.elder_shown(player), shown)
+                                    if item is not None))
 
     def test_houses_that_keep_all_their_promises(self):
         things, kept = Things(707), 0
@@ -243,7 +245,8 @@ class Halls(unittest.TestCase):
     def test_a_house_that_keeps_its_promises_and_a_secret(self):
         # Each deed tosses the cell 0, which nobody sees, anew; the cell 2 tells that there was one, 1 is seen by its owner.
         tossed = ((0, ("draw",)), (1, ("less", ("is", 1), ("cell", 1))), (2, ("is", 1)))
-        deeds = ((0, 2, YES, tossed, (0, 1)), (None, 2, YES, tossed[:1] + tossed[2:], (0, 1)), (1, 2, YES, tossed, (0, 1)))
+        deeds = ((0, 2, YES, tossed, (0, 1)), (None, 2, YES, tossed[:1] + tossed[2:], (0, 1)),
+                 (1, 2, YES, tossed, (0, 1)))
         game = (2, ((2, 0), (2, 0), (2, 0)), deeds, ((("not", YES), YES, YES),) * 2)
         rule = ((YES, ("cell", 1)), (YES, ("cell", 2)))
         house = (game, plain_wire(game), rule, 1, (0, 0, 0), (rule, rule))
@@ -290,7 +293,8 @@ class Halls(unittest.TestCase):
     def shell(self, game, wire, rule):
         """A shell with a new hall of what is told by texts."""
         shell = Shell()
-        lines = (f"game {one_line(game_text(game))}", f"wire {one_line(wire_text(wire))}", f"rule {one_line(rule_text(rule))}", "begin")
+        lines = (f"game {one_line(game_text(game))}", f"wire {one_line(wire_text(wire))}",
+                 f"rule {one_line(rule_text(rule))}", "begin")
         self.assertEqual([shell.say(line) for line in lines], ["kept", "kept", "kept", "begun"])
         return shell
 

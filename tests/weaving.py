@@ -97,12 +97,14 @@ def go_whole(game, state, some, order):
 
 def following(cut, history):
     """The pairs of occurrences a piece of one of which stands ahead of one that it meets."""
-    return tuple(sorted({(i, j) for (i, p), (j, q) in itertools.combinations(history, 2) if i != j and meet(cut[i][p], cut[j][q])}))
+    return tuple(sorted({(i, j) for (i, p), (j, q) in itertools.combinations(history, 2) if i != j
+                         and meet(cut[i][p], cut[j][q])}))
 
 
 def orders_with(many, pairs):
     """All orders that go with such pairs."""
-    return [order for order in itertools.permutations(range(many)) if all(order.index(i) < order.index(j) for i, j in pairs)]
+    return [order for order in itertools.permutations(range(many))
+            if all(order.index(i) < order.index(j) for i, j in pairs)]
 
 
 def mixed_rings(cut):
@@ -115,7 +117,8 @@ def mixed_rings(cut):
             for ends in itertools.product(*[itertools.product(range(len(cut[k])), repeat=2) for k in row]):
                 ring = tuple((k, a, b) for k, (a, b) in zip(row, ends))
                 around = ring[1:] + ring[:1]
-                if all(meet(cut[k][b], cut[m][a]) for (k, _, b), (m, a, _) in zip(ring, around)) and any(a != b for _, a, b in ring):
+                if all(meet(cut[k][b], cut[m][a]) for (k, _, b),
+                       (m, a, _) in zip(ring, around)) and any(a != b for _, a, b in ring):
                     found.append(ring)
     return found
 
@@ -162,5 +165,6 @@ def some_woven(seed, many, cells=3, most=3):
         owners = tuple(things.random.randrange(things.random.choice((1, 2, 3, 6))) for _ in range(cells))
         if all(is_cut(owners, deed) for deed in deeds):
             numbers = [things.random.randrange(len(deeds)) for _ in range(things.random.randint(1, most))]
-            found.append((game, owners, tuple((number, things.random.randrange(deeds[number][1])) for number in numbers)))
+            found.append((game, owners, tuple((number, things.random.randrange(deeds[number][1]))
+                                              for number in numbers)))
     return found
