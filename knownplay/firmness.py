@@ -3,7 +3,7 @@
 from knownplay.plays import is_state, step
 from knownplay.tellers import found_from, way_to
 from knownplay.tries import Trier, alone_rows, begun_pairs, cells_in, is_result, shown_at
-from knownplay.values import ascends, is_integer, is_row, is_whole
+from knownplay.values import ascends, is_integer, is_pair, is_row, is_whole
 
 
 def lot_of(trier, known):
@@ -125,11 +125,6 @@ def firm_tale_error(game, player, known, tries, shown, value):
 def is_moves(value):
     """Whether value, any value, is a tuple of pairs of integers."""
     return isinstance(value, tuple) and all([is_pair(item) for item in value])
-
-
-def is_pair(value):
-    """Whether value, any value, is a pair of integers."""
-    return is_row(value, 2, 2) and is_integer(value[0]) and is_integer(value[1])
 
 
 def stepped_on(game, player, tries, pair, move):

@@ -3,7 +3,7 @@
 from knownplay.cuts import meet, pieces
 from knownplay.plays import can_be_done, state_behind
 from knownplay.terms import worth
-from knownplay.values import is_integer, is_order, is_row, is_whole
+from knownplay.values import is_order, is_pair, is_row, is_whole
 
 
 def pieces_of(game, owners, some):
@@ -26,11 +26,6 @@ def history_error(game, owners, some, value):
         done[occurrence] += 1
     lacking = [(k, done[k]) for k, own in enumerate(cut) if done[k] < len(own)]
     return ("lacks", lacking[0]) if lacking else None
-
-
-def is_pair(value):
-    """Whether value, any value, is a pair of integers."""
-    return is_row(value, 2, 2) and is_integer(value[0]) and is_integer(value[1])
 
 
 class Doing:

@@ -21,6 +21,11 @@ def is_row(value, least, most):
     return isinstance(value, tuple) and least <= len(value) <= most
 
 
+def is_pair(value):
+    """Whether value is a pair of integers."""
+    return is_row(value, 2, 2) and is_integer(value[0]) and is_integer(value[1])
+
+
 def is_ascending(value, most):
     """Whether value is an ascending tuple of integers from 0 to most, each once."""
     if not isinstance(value, tuple):

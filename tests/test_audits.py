@@ -4,7 +4,6 @@ import unittest
 
 from knownplay.audits import audit, audit_error
 from knownplay.comparing import comparing
-from knownplay.errors import TooMany
 from knownplay.houses import house_error, mended
 from knownplay.joiners import join_gap, join_paper, join_spill
 from knownplay.justpapers import just_paper
@@ -19,7 +18,7 @@ from knownplay.watchers import helps, reach, reach_paper
 from tests.knowing import MIXED, counting, too_many
 from tests.test_houses import CELLAR, GOSSIP, PARLOUR, some_houses, with_item
 from tests.test_leanings import blind
-from tests.test_leaks import BLAB, BOX, FAIR, MUTE
+from tests.test_leaks import BOX, FAIR, MUTE
 from tests.test_lies import EARLY, PARITY, SHOWN
 from tests.things import ODD_VALUES, YES, Things
 

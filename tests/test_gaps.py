@@ -9,7 +9,7 @@ from knownplay.knowngames import known_game
 from knownplay.knownwires import bare_wire, plain_wire, silent_wire
 from knownplay.sets import known, sure
 from knownplay.wires import heard_by
-from tests.knowing import MIXED, Knowing, as_set, counting, some_knowing, sure_of, too_many
+from tests.knowing import MIXED, Knowing, as_set, some_knowing, sure_of, too_many
 from tests.model import Model
 from tests.test_classes import DIE, KEEN
 from tests.test_joiners import hidden_chain
