@@ -76,10 +76,11 @@ def rest_of(table, basis):
 
     basis is a list of pairs of a key and a table that has it, in which no later one has it.
     """
+    rest = primitive(table)
     for key, other in basis:
-        if key in table:
-            table = without_key(table, other, key)
-    return table
+        if key in rest:
+            rest = without_key(rest, other, key)
+    return rest
 
 
 def without_key(table, other, key):
