@@ -37,7 +37,7 @@ class Doing:
         self.cells_read = [0] * len(game[1])
         self.done = False
 
-    def begin(self, cells):
+    def ask_guard(self, cells):
         """Looks at the guard, in cells as they are now."""
         self.done = can_be_done(self.game, tuple(cells), self.deed)
 
@@ -62,7 +62,7 @@ def done_by_pieces(game, owners, state, some, history):
     cells = list(state)
     for occurrence, piece in history:
         if piece == 0:
-            doings[occurrence].begin(cells)
+            doings[occurrence].ask_guard(cells)
         doings[occurrence].go_on(cut[occurrence][piece], cells)
     return (tuple(cells), tuple([doing.done for doing in doings]))
 
