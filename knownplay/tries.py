@@ -68,7 +68,7 @@ def alone_rows(game, state, tries):
         longer = {}
         for row, pair in rows.items():
             for _, told, behind in trier.tried(pair):
-                longer[(*row, told)] = behind
+                longer[row + (told,)] = behind
         rows = longer
     return tuple(sorted(list(rows)))
 

@@ -74,7 +74,8 @@ class Reader:
             self.begun.append(Begun(self.due, "not"))
             self.due = "condition"
         elif word == "if ":
-            self.begun[-1].word = "choose"
+            innermost = self.begun[-1]
+            innermost.word = "choose"
             self.due = "condition"
         elif word in NUMBERED:
             return (NUMBERED[word], self.number(9))

@@ -102,6 +102,12 @@ def defined(tree):
     return names + [node.targets[0].id for node in tree.body if isinstance(node, ast.Assign)]
 
 
+def starred_indexes(tree):
+    """The indexes within whose brackets a star stands, in parentheses or not."""
+    return [ast.unparse(node) for node in ast.walk(tree) if isinstance(node, ast.Subscript)
+            and any(isinstance(part, ast.Starred) for part in ast.walk(node.slice))]
+
+
 class Language(unittest.TestCase):
     def setUp(self):
         self.sources = sources()
@@ -172,6 +178,47 @@ class Language(unittest.TestCase):
             self.fail(f"{place}: {ast.dump(node)[:60]}")
         for place, node in self.nodes(ast.Constant):
             self.assertNotIsInstance(node.value, (float, complex), place)
+
+    def test_stars(self):
+        for name, tree in self.trees.items():
+            self.assertEqual(starred_indexes(tree), [], name)
+        for place, node in self.nodes(ast.Set):
+            self.assertFalse([item for item in node.elts if isinstance(item, ast.Starred)], place)
+        for place, node in self.nodes(ast.Call):
+            stars = [k for k, item in enumerate(node.args) if isinstance(item, ast.Starred)]
+            for item in node.args[stars[0] + 1:] if stars else []:
+                self.assertIsInstance(item, (ast.Name, ast.Attribute, ast.Constant), place)
+            self.assertTrue(all(word.arg for word in node.keywords), place)
+
+    def test_a_star_in_an_index_is_found_however_it_is_written(self):
+        for row in (
+            "longer[(*row, told)] = behind", "longer[*row, told] = behind", "found = longer[(*row,)]",
+            "del longer[((*row, told), 1)]", "longer[(*row,)] += 1", "found = rows[[*row][0]:]", "rows[len([*row])]",
+            "found = [longer[(*row, 1)] for row in rows]", "word = f'{longer[(*row, 1)]}'", "longer[f(*row)]",
+        ):
+            self.assertEqual(len(starred_indexes(ast.parse(row))), 1, row)
+        for row in ("longer[row + (told,)] = behind", "longer[a * b]", "(*rows[0], told)", "[*rows[1:]]"):
+            self.assertEqual(starred_indexes(ast.parse(row)), [], row)
+
+    def test_is_stands_beside_none_true_or_false(self):
+        for place, node in self.nodes(ast.Compare):
+            for sign, other in zip(node.ops, node.comparators):
+                if isinstance(sign, (ast.Is, ast.IsNot)):
+                    self.assertIn(ast.unparse(other), ("None", "True", "False"), place)
+
+    def test_attributes_are_assigned_through_a_name(self):
+        for place, node in self.nodes(ast.Attribute):
+            if isinstance(node.ctx, ast.Store):
+                self.assertIsInstance(node.value, ast.Name, place)
+
+    def test_errors_are_raised_on_the_spot_and_caught_by_name(self):
+        errors = set(INTERFACE["errors"])
+        for place, node in self.nodes(ast.Raise):
+            self.assertIn(node.exc.func.id, errors, place)
+            self.assertTrue(node.cause is None or ast.unparse(node.cause) == "None", place)
+        for place, node in self.nodes(ast.ExceptHandler):
+            kinds = node.type.elts if isinstance(node.type, ast.Tuple) else [node.type]
+            self.assertLessEqual({kind.id for kind in kinds}, errors, place)
 
     def test_strings(self):
         for place, node in self.nodes(ast.Constant):
